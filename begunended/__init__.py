@@ -1,0 +1,1 @@
+"""Begunended: a Pascal with its machine of stack words."""

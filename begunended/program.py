@@ -1,0 +1,29 @@
+"""Programs: texts whose names and kinds are right."""
+
+from begunended.beginnings import Beginnings
+from begunended.blockchecks import BlockChecks
+from begunended.errors import Wide
+from begunended.reading import read_whole
+from begunended.tokens import tokens
+
+LONGEST_STRING = 255
+
+
+class Program:
+    """A program: its text, its tree, and what was found out of it.
+
+    Root is the node of the text; facts are those of begunended.told.
+    """
+
+    def __init__(self, text):
+        rows = tokens(text)
+        root = read_whole(text, rows, Beginnings())
+        if [told for sort, told, _, _ in rows if sort == "string" and len(told) > LONGEST_STRING]:
+            raise Wide(LONGEST_STRING)
+        self.text = text
+        self.tree = root.tree
+        self.root = root
+        self.facts = BlockChecks(rows).check_text(root)
+
+    def __eq__(self, other):
+        return isinstance(other, Program) and self.text == other.text

@@ -1,0 +1,42 @@
+"""What several tests need."""
+
+import os
+
+PACKAGE = os.path.join(os.path.dirname(os.path.dirname(os.path.abspath(__file__))), "begunended")
+
+
+class Refusing:
+    """For test cases: whether a call raises just this error with just this value."""
+
+    def refused(self, error, value, function, *given, **named):
+        with self.assertRaises(error) as caught:
+            function(*given, **named)
+        self.assertIs(type(caught.exception), error)
+        self.assertEqual(caught.exception.value, value)
+        self.assertIs(type(caught.exception.value), type(value))
+
+
+def marked(text):
+    """A text without the @ in it, and the line and column where this stood."""
+    at = text.index("@")
+    ahead = text[:at]
+    return text.replace("@", ""), (ahead.count("\n") + 1, at - ahead.rfind("\n"))
+
+
+class Judging(Refusing):
+    """For test cases: texts that are programs, and such as are not, with the wrong place marked by @."""
+
+    def right(self, *texts):
+        from begunended.program import Program
+        for text in texts:
+            self.assertEqual(Program(text).text, text)
+
+    def wrong(self, error, word, *texts):
+        from begunended.program import Program
+        for text in texts:
+            clean, place = marked(text)
+            with self.assertRaises(ValueError, msg=text) as caught:
+                Program(clean)
+            self.assertIs(type(caught.exception), error, (text, caught.exception.value))
+            self.assertEqual(caught.exception.value, (*place, word), text)
+            self.assertIs(type(caught.exception.value), tuple)

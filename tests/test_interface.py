@@ -1,0 +1,67 @@
+"""The interface: all that is offered so far stands in the file that the document names."""
+
+import ast
+import importlib
+import os
+import unittest
+
+from tests.common import PACKAGE
+
+# What has landed so far, by files.
+INTERFACE = {
+    "tokens": ["tokens"],
+    "trees": ["tree", "beginning"],
+    "printing": ["printed", "needed_brackets"],
+    "program": ["Program"],
+    "regions": ["names", "tellings", "routines", "jumps", "renamed"],
+    "kinds": ["expressions", "same_kind", "agree"],
+    "layouts": ["layout_of", "layouts"],
+    "shown": ["shown"],
+    "files": ["File"],
+    "heap": ["Heap"],
+}
+PARAMETERS = {
+    "tokens": "text", "tree": "text", "beginning": "text", "printed": "tree", "needed_brackets": "tree",
+    "names": "program", "tellings": "program", "routines": "program", "jumps": "program",
+    "renamed": "program line column name", "expressions": "program", "same_kind": "program one other",
+    "agree": "program one other", "layout_of": "program place", "layouts": "program", "shown": "value width",
+    "Program": "text", "File": "word contents", "Heap": "room",
+}
+METHODS = {
+    "File": {
+        "reset": "", "rewrite": "", "at_end": "", "seen": "", "fill": "thing", "get": "", "put": "",
+        "at_line_end": "", "read_sign": "", "read_line": "", "read_number": "", "write_number": "value width",
+        "write_truth": "value width", "write_sign": "value width", "write_string": "value width", "write_line": "",
+        "copied": "", "is_text": "", "standing": "", "all_things": "", "behind": "", "to_come": "", "looked": "",
+    },
+    "Heap": {
+        "take": "size", "give": "number", "cell": "number offset", "is_held": "number", "copied": "",
+        "room": "", "numbered": "", "pieces": "", "free": "",
+    },
+}
+
+
+def parameters_of(function):
+    return " ".join(arg.arg for arg in function.args.args if arg.arg != "self")
+
+
+class InterfaceTest(unittest.TestCase):
+    def test_names_are_defined_in_their_files(self):
+        for file, names in INTERFACE.items():
+            with open(os.path.join(PACKAGE, file + ".py"), encoding="utf-8") as source:
+                defined = {node.name: node for node in ast.parse(source.read()).body if hasattr(node, "name")}
+            module = importlib.import_module("begunended." + file)
+            for name in names:
+                self.assertTrue(hasattr(module, name))
+                node = defined[name]
+                if isinstance(node, ast.ClassDef):
+                    own = {part.name: part for part in node.body if isinstance(part, ast.FunctionDef)}
+                    self.assertEqual(parameters_of(own["__init__"]), PARAMETERS[name])
+                    for method, parameters in METHODS.get(name, {}).items():
+                        self.assertEqual(parameters_of(own[method]), parameters, method)
+                else:
+                    self.assertEqual(parameters_of(node), PARAMETERS[name])
+
+
+if __name__ == "__main__":
+    unittest.main()
