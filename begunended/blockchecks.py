@@ -186,9 +186,10 @@ class BlockChecks(StatementChecks):
         """Names what pointers aim at, and wants no more of anything than there may be."""
         aims = []
         for pointer in self.facts.pointers:
-            if pointer.aim not in aims:
-                pointer.aim.layout_name = "l" + str(len(aims))
-                aims.append(pointer.aim)
+            aim = pointer.aim
+            if aim not in aims:
+                aim.layout_name = "l" + str(len(aims))
+                aims.append(aim)
         signatures = []
         for telling in self.facts.handed:
             if signature_of(telling) not in signatures:

@@ -1,7 +1,8 @@
 """Calls of what a text tells: which routine is meant, what it is handed."""
 
 from begunended.kindlore import same_heading
-from begunended.valuechecks import ValueChecks
+from begunended.nodes import without_width
+from begunended.valuechecks import WAYS, ValueChecks
 
 
 class CallChecks(ValueChecks):
@@ -50,7 +51,7 @@ class CallChecks(ValueChecks):
     def check_arguments(self, node, parameters):
         arguments = node.parts[1].parts
         for number, argument in enumerate(arguments):
-            inner = argument.parts[0] if argument.word == "width" else argument
+            inner = without_width(argument)
             if number < len(parameters):
                 self.check_handed(inner, parameters[number])
             else:
@@ -82,7 +83,7 @@ class CallChecks(ValueChecks):
         if node.word == "name":
             spot = self.name_spot(node)
             return None if spot is None else self.note_spot(node, spot)
-        if node.word in ("index", "field", "aim"):
+        if node.word in WAYS:
             return self.place_spot(node)
         self.kind_of(node)
         return None
@@ -100,9 +101,10 @@ class CallChecks(ValueChecks):
 
     def threaten(self, node, spot):
         """Takes note that a place is put; no for's name may be within its statement."""
-        if spot is None or spot.telling is None:
+        telling = None if spot is None else spot.telling
+        if telling is None:
             return
-        if spot.telling in self.block.fors:
+        if telling in self.block.fors:
             self.name_fault(node.first, "threat")
-        if spot.telling.region != self.block.region:
-            spot.telling.is_threatened = True
+        if telling.region != self.block.region:
+            telling.is_threatened = True

@@ -54,3 +54,8 @@ def leaf_node(node):
 
 def empty_list(first):
     return row_of("list", (), first, first - 1)
+
+
+def without_width(node):
+    """An argument without its width."""
+    return node.parts[0] if node.word == "width" else node

@@ -2,6 +2,7 @@
 
 from begunended.callchecks import CallChecks
 from begunended.kindlore import host_of, is_file, is_ordinal, may_put
+from begunended.nodes import without_width
 
 
 class RequiredChecks(CallChecks):
@@ -28,7 +29,7 @@ class RequiredChecks(CallChecks):
     def check_surplus(self, node, arguments):
         """Looks through all arguments but the first one, which is the only one that can stand."""
         for argument in arguments[1:]:
-            self.kind_of(argument.parts[0] if argument.word == "width" else argument)
+            self.kind_of(without_width(argument))
             self.want_no_width(argument)
         if len(arguments) > 1:
             self.count_fault(node, arguments)
@@ -67,7 +68,7 @@ class RequiredChecks(CallChecks):
 
     def check_single(self, argument, name):
         """Looks through the only argument of a required procedure."""
-        node = argument.parts[0] if argument.word == "width" else argument
+        node = without_width(argument)
         if name == "dispose":
             self.want_agreed(node, self.kind_of(node).form == "pointer")
         elif name == "new":
@@ -85,7 +86,7 @@ class RequiredChecks(CallChecks):
             self.want_standard(node.first, "input")
         file_kind = None
         for number, argument in enumerate(arguments):
-            inner = argument.parts[0] if argument.word == "width" else argument
+            inner = without_width(argument)
             spot = self.argument_spot(inner)
             if number == 0 and spot is not None and is_file(spot.kind):
                 self.want_agreed(inner, spot.kind.form == "text" or not is_line)
@@ -116,7 +117,7 @@ class RequiredChecks(CallChecks):
             self.want_standard(node.first, "output")
         file_kind = None
         for number, argument in enumerate(arguments):
-            inner = argument.parts[0] if argument.word == "width" else argument
+            inner = without_width(argument)
             kind = self.kind_of(inner)
             if number == 0 and is_file(kind):
                 self.want_agreed(inner, kind.form == "text" or not is_line)

@@ -250,8 +250,7 @@ class FormTest(unittest.TestCase):
             if node.attr not in known:
                 self.refuse(name, node, "L18: " + node.attr)
             if isinstance(node.ctx, ast.Store) and not isinstance(node.value, ast.Name):
-                if not isinstance(node.value, (ast.Attribute, ast.Subscript)):
-                    self.refuse(name, node, "L18")
+                self.refuse(name, node, "L18")
 
     def test_strings(self):
         for name, node in self.nodes(ast.Constant):
