@@ -1,7 +1,7 @@
 """Blocks, routines and the whole text."""
 
 from begunended.errors import Wide
-from begunended.kindforms import layout_text
+from begunended.kindforms import signature_key
 from begunended.kindlore import is_file, is_ordinal
 from begunended.required import FILES
 from begunended.statementchecks import StatementChecks
@@ -36,8 +36,9 @@ class BlockChecks(StatementChecks):
         """Looks through a block of a routine, or of the program."""
         outer_region, outer_block = self.region, self.block
         self.region = routine.inner
-        self.block = Block(self.region, routine, None if routine.outer is None else outer_block)
+        self.block = Block(self.region, routine, None if routine.outside is None else outer_block)
         self.routines.append(routine)
+        routine.block = node
         labels, constants, kinds, variables, routines, statements, begin, end = node.parts
         self.tell_labels(labels.parts)
         self.tell_constants(constants.parts)
@@ -45,7 +46,7 @@ class BlockChecks(StatementChecks):
         self.tell_variables(variables.parts)
         for inner in routines.parts:
             self.check_routine(inner)
-        if routine.outer is None:
+        if routine.outside is None:
             self.check_head()
         self.check_given(begin)
         self.check_sequence(statements)
@@ -95,6 +96,7 @@ class BlockChecks(StatementChecks):
             is_own = telling.word == "variable" and telling.region == self.region and is_file(telling.kind)
             if name not in FILES and not is_own:
                 self.name_fault(leaf.first, "file")
+            self.facts.head.append(telling)
 
     def check_given(self, begin):
         """Wants all routines of the region to be given where its block begins."""
@@ -124,8 +126,8 @@ class BlockChecks(StatementChecks):
         telling.calling = node.word
         self.tell(telling, self.region)
         telling.number = len(self.facts.routines)
-        telling.outer = self.block.routine
-        telling.inner = Region(self.region, self.region.level + 1)
+        telling.outside = self.block.routine
+        telling.inner = Region(self.region, self.region.depth + 1)
         self.facts.routines.append(telling)
         self.tell_parameters(parameters.parts, telling, telling.inner)
         if result is not None:
@@ -192,24 +194,14 @@ class BlockChecks(StatementChecks):
                 aims.append(aim)
         signatures = []
         for telling in self.facts.handed:
-            if signature_of(telling) not in signatures:
-                signatures.append(signature_of(telling))
+            key = signature_key(telling)
+            if key not in signatures:
+                signatures.append(key)
         if max(len(self.facts.routines), len(signatures)) > MOST_ROUTINES:
             raise Wide(MOST_ROUTINES)
-        if max([telling.inner.level for telling in self.facts.routines]) > HIGHEST_LEVEL:
+        if max([telling.inner.depth for telling in self.facts.routines]) > HIGHEST_LEVEL:
             raise Wide(HIGHEST_LEVEL)
         if len(aims) > MOST_LAYOUTS:
             raise Wide(MOST_LAYOUTS)
         if [telling for telling in self.facts.handed if len(telling.parameters) > LONGEST_SIGNATURE]:
             raise Wide(LONGEST_SIGNATURE)
-
-
-def signature_of(telling):
-    """What a routine takes and gives, by modes and layouts."""
-    takes = []
-    for parameter in telling.parameters:
-        if parameter.calling is None:
-            takes.append((parameter.mode, layout_text(parameter.kind)))
-        else:
-            takes.append(("routine", signature_of(parameter)))
-    return tuple(takes), "-" if telling.kind is None else layout_text(telling.kind)

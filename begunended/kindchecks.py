@@ -156,6 +156,8 @@ class KindChecks(Naming):
         if tag is not None:
             tag.kind = kind
         variant = Variant(tag, kind)
+        if tag is not None:
+            tag.variant = variant
         taken = {}
         for arm in arms.parts:
             constants, fields = arm.parts

@@ -122,3 +122,19 @@ def fields_layout(fields):
         arms = [fields_layout(arm.fields) for arm in fields.variant.arms]
         pieces.append("{" + "|".join(arms) + "|()}")
     return "(" + ",".join(pieces) + ")"
+
+
+def result_layout(telling):
+    """The layout of what a routine gives, - for nothing."""
+    return "-" if telling.kind is None else layout_text(telling.kind)
+
+
+def signature_key(telling):
+    """What a routine takes and gives, by modes and layouts: as one word, so that it may be a key."""
+    takes = []
+    for parameter in telling.parameters:
+        if parameter.calling is not None:
+            takes.append("@" + signature_key(parameter))
+        else:
+            takes.append(("&" if parameter.mode == "var" else "") + layout_text(parameter.kind))
+    return "[" + ";".join(takes) + ":" + result_layout(telling) + "]"

@@ -61,14 +61,14 @@ class Naming:
         if region is None:
             return
         name = telling.name
-        is_taken = region.outer == self.required and name in FILES and name in self.head
+        is_taken = region.outside == self.required and name in FILES and name in self.head
         if name in region.told or is_taken:
             self.name_fault(telling.token, "twice")
         if name in region.used:
             self.name_fault(telling.token, "ahead")
         region.told[name] = telling
         telling.region = region
-        telling.level = region.level
+        telling.depth = region.depth
         self.facts.tellings.append(telling)
 
     def tell_field(self, telling, record):
@@ -76,5 +76,5 @@ class Naming:
         if telling.name in record.by_name:
             self.name_fault(telling.token, "twice")
         record.by_name[telling.name] = telling
-        telling.level = self.region.level
+        telling.depth = self.region.depth
         self.facts.tellings.append(telling)

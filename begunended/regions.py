@@ -19,15 +19,15 @@ def names(program):
 def tellings(program):
     """For each name that is told its place, what it is told as, and its level."""
     facts = program.facts
-    return tuple(sorted([(*facts.place(row.token), row.word, row.level) for row in facts.tellings]))
+    return tuple(sorted([(*facts.place(row.token), row.word, row.depth) for row in facts.tellings]))
 
 
 def routines(program):
     """The routines: the name of each, the level of what it tells, the number of the one around."""
     found = []
     for telling in program.facts.routines:
-        outer = None if telling.outer is None else telling.outer.number
-        found.append((telling.name, telling.inner.level, outer))
+        outer = None if telling.outside is None else telling.outside.number
+        found.append((telling.name, telling.inner.depth, outer))
     return tuple(found)
 
 

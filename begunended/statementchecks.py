@@ -92,17 +92,19 @@ class StatementChecks(RequiredChecks):
         taken = {}
         for choice in choices.parts:
             constants, statement = choice.parts
-            for constant in constants.parts:
-                self.choice(constant, kind, taken, "label")
+            choice.means = [self.choice(constant, kind, taken, "label") for constant in constants.parts]
             self.check_statement(statement, None)
 
     def check_with(self, node):
         variables, statement = node.parts
+        node.means = []
         for variable in variables.parts:
             spot = self.place_spot(variable)
             if spot.kind.form != "record":
                 self.kind_fault(variable.first, "record")
-            self.block.withs.append(With(variable, spot))
+            scope = With(variable, spot)
+            node.means.append(scope)
+            self.block.withs.append(scope)
         self.check_statement(statement, None)
         for _ in variables.parts:
             self.block.withs.pop()
@@ -114,6 +116,7 @@ class StatementChecks(RequiredChecks):
         if label is None or label.placed is not None:
             self.name_fault(leaf.first, "label")
         label.placed = leaf.first
+        node.means = label
         label.sequence = sequence
         for goto in label.gotos:
             if not may_come_later(goto, sequence):
@@ -126,13 +129,14 @@ class StatementChecks(RequiredChecks):
         block = self.block
         out = 0
         while block is not None and leaf.tree not in block.labels:
-            block = block.outer
+            block = block.outside
             out += 1
         if block is None:
             self.name_fault(leaf.first, "label")
         label = block.labels[leaf.tree]
         goto = Goto(leaf.first, label, out, tuple(self.block.sequences))
         self.facts.gotos.append(goto)
+        leaf.means = goto
         if label.placed is None:
             label.gotos.append(goto)
         elif label not in block.open_labels and label.sequence not in goto.sequences:

@@ -6,14 +6,14 @@ class Telling:
 
     Kind is that of a constant, value, variable, parameter, field, or of a function's result, or the
     kind itself; value is a constant's ordinal or signs. Calling is procedure or function for all that
-    can be called.
+    can be called; variant is that of a tag, block the node of a routine's block.
     """
 
     def __init__(self, name, word, token):
         self.name = name
         self.word = word
         self.token = token
-        self.level = 0
+        self.depth = 0
         self.region = None
         self.kind = None
         self.value = None
@@ -21,19 +21,21 @@ class Telling:
         self.calling = None
         self.parameters = []
         self.number = None
-        self.outer = None
+        self.outside = None
         self.inner = None
         self.is_waiting = False
         self.is_threatened = False
         self.is_tag = False
+        self.variant = None
+        self.block = None
 
 
 class Region:
     """Where names are told: the names told so far, and those used so far with an outer meaning."""
 
     def __init__(self, outer, level):
-        self.outer = outer
-        self.level = level
+        self.outside = outer
+        self.depth = level
         self.told = {}
         self.used = {}
 
@@ -43,7 +45,7 @@ class Region:
         while region is not None:
             if name in region.told:
                 return region.told[name]
-            region = region.outer
+            region = region.outside
         return None
 
     def mark(self, name):
@@ -51,7 +53,7 @@ class Region:
         region = self
         while region is not None and name not in region.told:
             region.used[name] = True
-            region = region.outer
+            region = region.outside
 
 
 class Block:
@@ -60,7 +62,7 @@ class Block:
     def __init__(self, region, routine, outer):
         self.region = region
         self.routine = routine
-        self.outer = outer
+        self.outside = outer
         self.labels = {}
         self.many_sequences = 0
         self.sequences = []
@@ -113,7 +115,7 @@ class Facts:
 
     Uses are pairs of a token's number and a telling; spans are (first token, last token, kind, whether
     it is a place); handed are the parameters that are routines, routines those that are told, in the
-    sequence of the text.
+    sequence of the text; head are the files of the head, in its sequence.
     """
 
     def __init__(self, rows):
@@ -125,6 +127,7 @@ class Facts:
         self.spans = []
         self.pointers = []
         self.handed = []
+        self.head = []
 
     def place(self, token):
         """The line and the column of the token with this number."""

@@ -40,3 +40,33 @@ class Judging(Refusing):
             self.assertIs(type(caught.exception), error, (text, caught.exception.value))
             self.assertEqual(caught.exception.value, (*place, word), text)
             self.assertIs(type(caught.exception.value), tuple)
+
+
+def ran(text, inputs=(), fuel=100000):
+    """What the output holds at the end of a run, and the end."""
+    from begunended.program import Program
+    from begunended.running import run
+    told, end = run(Program(text), inputs, fuel)
+    return dict(told).get("output"), end
+
+
+def statements(told, body):
+    """A program that tells this and does these statements."""
+    return "program p(output); " + told + " begin " + body + " end."
+
+
+class Running(Refusing):
+    """For test cases: what programs write, and how they end."""
+
+    def writes(self, output, told, body, inputs=(), head="output"):
+        text = statements(told, body).replace("(output)", "(" + head + ")", 1)
+        self.assertEqual(ran(text, inputs), (output, ("done",)), text)
+
+    def traps(self, word, told, body, inputs=(), head="output"):
+        """A trap in line 3: the statement that traps stands there, the end of the program in line 4."""
+        text = "program p(" + head + "); " + told + "\nbegin\n" + body + "\nend."
+        self.assertEqual(ran(text, inputs)[1], ("trap", word, 3), text)
+
+    def ends(self, told, body, inputs=(), head="output"):
+        text = "program p(" + head + "); " + told + "\nbegin\n" + body + "\nend."
+        self.assertEqual(ran(text, inputs)[1], ("done",), text)

@@ -19,6 +19,18 @@ INTERFACE = {
     "shown": ["shown"],
     "files": ["File"],
     "heap": ["Heap"],
+    "running": ["run", "seen"],
+    "settexts": ["set_names", "worth", "holds", "same_sets", "shows_same_sets"],
+    "setworlds": ["follows", "shows_follows", "sure", "least_quarrels"],
+    "cells": ["cells_of"],
+    "units": ["Unit"],
+    "words": ["words", "unit_of"],
+    "joining": ["joined"],
+    "cases": ["case_way"],
+    "compiling": ["compiled"],
+    "checking": ["led", "checked", "shows_checked", "never_come"],
+    "depths": [
+        "work_needed", "shows_work_needed", "least_work", "calls", "never_called", "frames_needed", "shows_frames_needed"],
 }
 PARAMETERS = {
     "tokens": "text", "tree": "text", "beginning": "text", "printed": "tree", "needed_brackets": "tree",
@@ -26,6 +38,14 @@ PARAMETERS = {
     "renamed": "program line column name", "expressions": "program", "same_kind": "program one other",
     "agree": "program one other", "layout_of": "program place", "layouts": "program", "shown": "value width",
     "Program": "text", "File": "word contents", "Heap": "room",
+    "run": "program inputs fuel", "seen": "program inputs number", "set_names": "text", "worth": "text world",
+    "holds": "saying world", "same_sets": "one other", "shows_same_sets": "one other value",
+    "follows": "sayings saying", "shows_follows": "sayings saying value", "sure": "sayings name",
+    "least_quarrels": "sayings", "cells_of": "layout", "Unit": "text",
+    "words": "unit", "unit_of": "integers", "joined": "units", "case_way": "numbers", "compiled": "program",
+    "led": "unit proc row shape", "checked": "unit", "shows_checked": "unit value", "never_come": "unit",
+    "work_needed": "unit proc", "shows_work_needed": "unit proc value", "least_work": "unit", "calls": "unit",
+    "never_called": "unit", "frames_needed": "unit", "shows_frames_needed": "unit value",
 }
 METHODS = {
     "File": {
@@ -38,6 +58,7 @@ METHODS = {
         "take": "size", "give": "number", "cell": "number offset", "is_held": "number", "copied": "",
         "room": "", "numbered": "", "pieces": "", "free": "",
     },
+    "Unit": {"outer": "proc", "level": "proc", "code": "proc"},
 }
 
 

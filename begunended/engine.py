@@ -1,0 +1,72 @@
+"""The engine: it does rows of code, be they those of a program or those of a unit."""
+
+from begunended.datadeeds import DATA_DEEDS
+from begunended.errors import Trap
+from begunended.filedeeds import FILE_DEEDS
+from begunended.flowdeeds import FLOW_DEEDS
+from begunended.frames import Frame
+from begunended.heap import Heap
+from begunended.layoutforms import LayoutTable
+from begunended.numberdeeds import NUMBER_DEEDS
+from begunended.storage import FileBox, fresh_place
+
+CELLS = 2000
+
+
+class Engine:
+    """What runs: the frames that were entered, the newest last, pieces by their numbers, files by names.
+
+    Procs are those of begunended.frames by name, aims the layouts that pointers name, handed_takes how
+    many things each signature takes. Fuel is how many steps may be begun, begun how many were; halted is
+    None, or the end.
+    """
+
+    def __init__(self, procs, aims, handed_takes, fuel):
+        self.procs = procs
+        self.aims = aims
+        self.handed_takes = handed_takes
+        self.table = LayoutTable()
+        self.many_frames = 1
+        self.fuel = fuel
+        self.begun = 0
+        self.halted = None
+        self.entered = []
+        self.heap = Heap(CELLS)
+        self.areas = {}
+        self.boxes = {}
+        deeds = all_deeds()
+        for proc in procs.values():
+            proc.deeds = [deeds[row[0]] for row in proc.rows]
+
+    def begin(self, program, inputs):
+        """Enters the program's frame; inputs are contents of files by name, their things as cells."""
+        things = [fresh_place(layout) if is_own else None for layout, is_own in program.things]
+        for number, name in enumerate(program.outside_names):
+            layout = program.things[number][0]
+            self.boxes[name] = FileBox(layout, inputs.get(name))
+            things[number] = (self.boxes[name], 0, layout, ())
+        self.entered.append(Frame(program, None, things, 1))
+
+    def run(self):
+        """Does rows until the end is come to, or the steps are done."""
+        entered = self.entered
+        try:
+            while self.halted is None:
+                frame = entered[-1]
+                at = frame.at
+                frame.at = at + 1
+                deed = frame.proc.deeds[at]
+                deed(self, frame, frame.proc.rows[at])
+        except Trap as trap:
+            frame = entered[-1]
+            frame.at -= 1
+            self.halted = ("trap", trap.value, frame.line)
+
+
+def all_deeds():
+    """The dict of all orders, and the functions that do them."""
+    deeds = dict(DATA_DEEDS)
+    deeds.update(dict(NUMBER_DEEDS))
+    deeds.update(dict(FILE_DEEDS))
+    deeds.update(dict(FLOW_DEEDS))
+    return deeds
