@@ -14,17 +14,22 @@ MOST_WORK = 99
 
 def compiled(program):
     """The plain unit of a program: TooLong with the first routine that is too long for one."""
+    plan = plan_compiled(program)
+    return Unit(unit_text(head_rows(program, plan), plan, plan.works))
+
+
+def plan_compiled(program):
+    """The plan of a program, works told: TooLong likewise."""
     plan = made_plan(program)
     for number, code in enumerate(plan.codes.values()):
         if is_too_long(code):
             raise TooLong(number)
-    heads = head_rows(program, plan)
-    trial = Unit(unit_text(heads, plan, [MOST_WORK for _ in plan.codes]))
-    works = works_of(trial)
-    for number, work in enumerate(works):
+    most = [MOST_WORK for _ in plan.codes]
+    plan.works = works_of(Unit(unit_text(head_rows(program, plan), plan, most)))
+    for number, work in enumerate(plan.works):
         if work > MOST_WORK:
             raise TooLong(number)
-    return Unit(unit_text(heads, plan, works))
+    return plan
 
 
 def is_too_long(code):

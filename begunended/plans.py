@@ -45,10 +45,14 @@ class RoutineCode:
 
 
 class Plan:
-    """The routines of a program, and the names of its signatures by their keys."""
+    """The routines of a program, and the names of its signatures by their keys.
+
+    Works are how many things each routine's workspace holds at most, once that was found.
+    """
 
     def __init__(self, program):
         self.facts = program.facts
+        self.works = []
         self.signatures = {}
         self.headings = []
         for telling in self.facts.handed:

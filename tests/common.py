@@ -46,8 +46,27 @@ def ran(text, inputs=(), fuel=100000):
     """What the output holds at the end of a run, and the end."""
     from begunended.program import Program
     from begunended.running import run
-    told, end = run(Program(text), inputs, fuel)
+    program = Program(text)
+    want_let(program)
+    told, end = run(program, inputs, fuel)
     return dict(told).get("output"), end
+
+
+def want_let(program):
+    """Point 3 (a): the plain unit of each program is let, with no less work; its words are read back (c)."""
+    from begunended.checking import checked
+    from begunended.compiling import compiled
+    from begunended.depths import least_work
+    from begunended.errors import TooLong
+    from begunended.words import unit_of, words
+    try:
+        unit = compiled(program)
+    except TooLong:
+        return
+    told = checked(unit)
+    assert told[0] == "let", (program.text, told)
+    assert least_work(unit) == unit, program.text
+    assert unit_of(words(unit)) == unit, program.text
 
 
 def statements(told, body):

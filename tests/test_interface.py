@@ -28,6 +28,7 @@ INTERFACE = {
     "joining": ["joined"],
     "cases": ["case_way"],
     "compiling": ["compiled"],
+    "stops": ["stops", "numbers"],
     "checking": ["led", "checked", "shows_checked", "never_come"],
     "depths": [
         "work_needed", "shows_work_needed", "least_work", "calls", "never_called", "frames_needed", "shows_frames_needed"],
@@ -42,7 +43,7 @@ PARAMETERS = {
     "holds": "saying world", "same_sets": "one other", "shows_same_sets": "one other value",
     "follows": "sayings saying", "shows_follows": "sayings saying value", "sure": "sayings name",
     "least_quarrels": "sayings", "cells_of": "layout", "Unit": "text",
-    "words": "unit", "unit_of": "integers", "joined": "units", "case_way": "numbers", "compiled": "program",
+    "words": "unit", "unit_of": "integers", "joined": "units", "case_way": "numbers", "compiled": "program", "stops": "program", "numbers": "program",
     "led": "unit proc row shape", "checked": "unit", "shows_checked": "unit value", "never_come": "unit",
     "work_needed": "unit proc", "shows_work_needed": "unit proc value", "least_work": "unit", "calls": "unit",
     "never_called": "unit", "frames_needed": "unit", "shows_frames_needed": "unit value",
