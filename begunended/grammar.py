@@ -5,7 +5,7 @@ a great letter. What a part that ends in _ is made of belongs to the part around
 way at most for each token that it may begin with, and one at most that may have no tokens.
 """
 
-TEXT_RULES = {
+RULES = {
     "Text": (("program", "name", "Head_", ";", "Block", "."),),
     "Head_": (("(", "Names", ")"), ()),
     "Names": (("name", "Names_"),),
@@ -44,9 +44,6 @@ TEXT_RULES = {
     ),
     "Constant": (("number",), ("name",), ("string",), ("+", "Whole"), ("-", "Whole")),
     "Whole": (("number",), ("name",)),
-}
-
-KIND_RULES = {
     "Kind": (
         ("name", "Stretch_"),
         ("(", "Names", ")"),
@@ -73,9 +70,6 @@ KIND_RULES = {
     "Arm": (("ConstantList", ":", "(", "Fields", ")"),),
     "ConstantList": (("Constant", "ConstantList_"),),
     "ConstantList_": ((",", "Constant", "ConstantList_"), ()),
-}
-
-STATEMENT_RULES = {
     "Statements": (("Statement", "MoreStatements_"),),
     "MoreStatements_": ((";", "Statement", "MoreStatements_"), ()),
     "Statement": (("number", ":", "Plain"), ("Plain",)),
@@ -104,9 +98,6 @@ STATEMENT_RULES = {
     "Variable": (("name", "Ways_"),),
     "Ways_": (("[", "Expression", "MoreIndices_", "]", "Ways_"), (".", "name", "Ways_"), ("^", "Ways_"), ()),
     "MoreIndices_": ((",", "Expression", "MoreIndices_"), ()),
-}
-
-EXPRESSION_RULES = {
     "Expression": (("Sum", "Compared_"),),
     "Compared_": (
         ("=", "Sum"), ("<>", "Sum"), ("<", "Sum"), (">", "Sum"), ("<=", "Sum"), (">=", "Sum"), ("in", "Sum"), (),
@@ -130,12 +121,3 @@ EXPRESSION_RULES = {
     "Item": (("Expression", "Upto_"),),
     "Upto_": (("..", "Expression"), ()),
 }
-
-
-def all_rules():
-    """The dict of all parts and the ways in which each may be made."""
-    rules = dict(TEXT_RULES)
-    rules.update(dict(KIND_RULES))
-    rules.update(dict(STATEMENT_RULES))
-    rules.update(dict(EXPRESSION_RULES))
-    return rules

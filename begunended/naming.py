@@ -1,7 +1,7 @@
 """Names: what a use means, and what may be told."""
 
 from begunended.errors import BadKind, BadName
-from begunended.required import FILES, required_region
+from begunended.required import FILES, RequiredRegion
 from begunended.told import Block, Facts, Region
 
 
@@ -10,10 +10,10 @@ class Naming:
 
     def __init__(self, rows):
         self.facts = Facts(rows)
-        self.required = required_region()
-        self.integer = self.required.told["integer"].kind
-        self.boolean = self.required.told["boolean"].kind
-        self.char = self.required.told["char"].kind
+        self.required = RequiredRegion()
+        self.integer = self.required.integer
+        self.boolean = self.required.boolean
+        self.char = self.required.char
         self.region = Region(self.required, 0)
         self.block = Block(self.region, None, None)
         self.head = {}
@@ -34,11 +34,13 @@ class Naming:
             if leaf.tree in scope.kind.by_name:
                 leaf.spot = scope
                 return self.use_of(leaf, scope.kind.by_name[leaf.tree])
+        self.required.make_ready(leaf.tree)
         self.region.mark(leaf.tree)
         return self.use_of(leaf, self.region.meaning(leaf.tree))
 
     def use_aside(self, leaf, region):
         """The telling that a name means in a region, which may tell it anew behind this use."""
+        self.required.make_ready(leaf.tree)
         return self.use_of(leaf, region.meaning(leaf.tree))
 
     def use_of(self, leaf, telling):

@@ -1,6 +1,5 @@
 """Printing: the shortest text of a tree, and the brackets that it needs."""
 
-from begunended.beginnings import Beginnings
 from begunended.errors import BadSyntax, BadToken, BadValue
 from begunended.reading import read_whole
 from begunended.spellingdeeds import spelled
@@ -10,35 +9,34 @@ from begunended.values import same_values
 
 def printed(tree):
     """The text with the fewest tokens that has this tree, one blank between each two."""
-    return " ".join(printed_tokens(tree, Beginnings())[0])
+    return " ".join(printed_tokens(tree)[0])
 
 
 def needed_brackets(tree):
     """The brackets around expressions in the printed text, and the tree that it has without each."""
-    beginnings = Beginnings()
-    row, pairs = printed_tokens(tree, beginnings)
+    row, pairs = printed_tokens(tree)
     found = []
     for at, to in pairs:
         others = row[:at] + row[at + 1:to] + row[to + 1:]
-        found.append((at, to, tree_of(" ".join(others), beginnings)))
+        found.append((at, to, tree_of(" ".join(others))))
     return tuple(found)
 
 
-def printed_tokens(tree, beginnings):
+def printed_tokens(tree):
     """The tokens of the printed text, and the pairs of brackets around expressions."""
     try:
         row, pairs = spelled(tree)
     except BadValue:
         raise BadValue(tree) from None
     # What is no tree is spelled, too, but not read as the same again.
-    if not same_values(tree_of(" ".join(row), beginnings), tree):
+    if not same_values(tree_of(" ".join(row)), tree):
         raise BadValue(tree)
     return row, pairs
 
 
-def tree_of(text, beginnings):
+def tree_of(text):
     """The tree of a text, None if it has none."""
     try:
-        return read_whole(text, tokens(text), beginnings).tree
+        return read_whole(text, tokens(text)).tree
     except (BadToken, BadSyntax):
         return None

@@ -1,6 +1,5 @@
 """Programs: texts whose names and kinds are right."""
 
-from begunended.beginnings import Beginnings
 from begunended.blockchecks import BlockChecks
 from begunended.errors import Wide
 from begunended.reading import read_whole
@@ -17,7 +16,7 @@ class Program:
 
     def __init__(self, text):
         rows = tokens(text)
-        root = read_whole(text, rows, Beginnings())
+        root = read_whole(text, rows)
         if [told for sort, told, _, _ in rows if sort == "string" and len(told) > LONGEST_STRING]:
             raise Wide(LONGEST_STRING)
         self.text = text

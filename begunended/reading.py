@@ -2,96 +2,107 @@
 
 from begunended.dotrees import DOING_MAKERS
 from begunended.errors import BadSyntax
+from begunended.grammar import RULES
+from begunended.grammartables import EMPTY, LEAST, STARTS
 from begunended.nodes import leaf
+from begunended.openings import OPENINGS
 from begunended.telltrees import TELLING_MAKERS
 
 # Behind all that a part is made of stands this on the stack of what is to come.
 CLOSE = ""
-
-
-class Part:
-    """A part that is being read: what it is made of so far, and the number of its first token."""
-
-    def __init__(self, name, first):
-        self.name = name
-        self.first = first
-        self.children = []
+# Parts whose node is that of what they are made of, if this is one node.
+PASSING = {"Expression": True, "Sum": True, "Term": True, "Statement": True, "Argument": True, "Item": True}
 
 
 class Reader:
-    """What was read of a text, and what is to come by the grammar, the next symbol last."""
+    """What was read of a text, and what is to come by the grammar, the next symbol last.
 
-    def __init__(self, beginnings):
-        self.beginnings = beginnings
+    Parts are those that are being read: the name of each, the number of its first token, and the
+    nodes that it is made of so far.
+    """
+
+    def __init__(self):
         self.pending = ["Text"]
-        self.parts = [Part("", 0)]
+        self.parts = [("", 0, [])]
         self.many = 0
+        self.makers = dict(TELLING_MAKERS)
+        self.makers.update(dict(DOING_MAKERS))
 
     def take(self, sort, told):
         """Goes by a token: whether it could stand here; if not nothing is changed."""
-        symbol = self.symbol_of(sort, told)
-        if not self.could_take(symbol):
+        symbol = sort
+        if sort == "word" or sort == "sign":
+            symbol = told
+        elif told == "forward" and sort == "name" and self.could_take("forward"):
+            # No name can stand where forward can, so that it is none there.
+            symbol = "forward"
+        if self.pending[-1] == symbol:
+            self.pending.pop()
+        elif self.could_take(symbol):
+            self.come_to(symbol)
+        else:
             return False
-        while self.pending[-1] != symbol:
-            self.open_part(symbol)
-        self.pending.pop()
-        self.parts[-1].children.append(leaf(sort, told, self.many))
+        self.parts[-1][2].append(leaf(sort, told, self.many))
         self.many += 1
         return True
-
-    def symbol_of(self, sort, told):
-        """What the grammar calls a token."""
-        if sort == "word" or sort == "sign":
-            return told
-        # No name can stand where forward can, so that it is none there.
-        if told == "forward" and sort == "name" and self.could_take("forward"):
-            return "forward"
-        return sort
 
     def could_take(self, symbol):
         """Whether a token with this symbol could stand here."""
         for top in reversed(self.pending):
-            if top != CLOSE:
-                if symbol in self.beginnings.starts_of(top):
-                    return True
-                if self.beginnings.least_of(top) > 0:
-                    return False
+            if top == symbol or (top, symbol) in OPENINGS:
+                return True
+            if top != CLOSE and top not in EMPTY:
+                return False
         return False
 
-    def open_part(self, symbol):
-        """Puts what it is made of in the place of the next part, or closes the part that ends here."""
-        top = self.pending.pop()
+    def come_to(self, symbol):
+        """Opens and closes parts up to this token, which could stand here."""
+        pending = self.pending
+        top = pending.pop()
+        while top != symbol:
+            opening = OPENINGS.get((top, symbol), ())
+            if opening:
+                for name in opening[0]:
+                    self.parts.append((name, self.many, []))
+                pending.extend(opening[1])
+                return
+            if top == CLOSE:
+                self.close_part()
+            elif not top.endswith("_"):
+                # What ends in _ and has no tokens leaves nothing.
+                self.end_part(top)
+            top = pending.pop()
+
+    def end_part(self, top):
+        """Closes the part that ends here, or puts what it is made of in the place of one without tokens."""
         if top == CLOSE:
             self.close_part()
             return
-        ways = self.beginnings.ways[top]
-        way = ways[symbol] if symbol in ways else ways[CLOSE]
-        if top in TELLING_MAKERS or top in DOING_MAKERS:
-            self.parts.append(Part(top, self.many))
+        if top in self.makers:
+            self.parts.append((top, self.many, []))
             self.pending.append(CLOSE)
-        for part in reversed(way):
+        for part in reversed(RULES[top][EMPTY[top]]):
             self.pending.append(part)
 
     def close_part(self):
-        part = self.parts.pop()
-        if part.name in TELLING_MAKERS:
-            maker = TELLING_MAKERS[part.name]
+        name, first, children = self.parts.pop()
+        if name in PASSING and len(children) == 1:
+            node = children[0]
         else:
-            maker = DOING_MAKERS[part.name]
-        node = maker(part.children, part.first, self.many - 1)
-        self.parts[-1].children.append(node)
+            maker = self.makers[name]
+            node = maker(children, first, self.many - 1)
+        self.parts[-1][2].append(node)
 
     def could_stand(self):
         """The dict of what could stand here, and with how many tokens each goes on at least."""
         found = {}
-        behind = sum([self.beginnings.least_of(symbol) for symbol in self.pending if symbol != CLOSE])
+        behind = sum([least_of(symbol) for symbol in self.pending])
         for top in reversed(self.pending):
             if top != CLOSE:
-                behind -= self.beginnings.least_of(top)
-                starts = self.beginnings.starts_of(top)
-                for token in starts:
-                    found[token] = min(found.get(token, starts[token] + behind), starts[token] + behind)
-                if self.beginnings.least_of(top) > 0:
+                behind -= least_of(top)
+                for token, many in STARTS.get(top, ((top, 1),)):
+                    found[token] = min(found.get(token, many + behind), many + behind)
+                if top not in EMPTY:
                     return found
         found["(end)"] = 0
         return found
@@ -103,22 +114,27 @@ class Reader:
     def whole(self):
         """The node of the whole text that was read."""
         while self.pending:
-            self.open_part(CLOSE)
-        return self.parts[0].children[0]
+            self.end_part(self.pending.pop())
+        return self.parts[0][2][0]
 
 
-def read_tokens(rows, beginnings):
+def least_of(symbol):
+    """How many tokens a symbol has at least."""
+    return 0 if symbol == CLOSE else LEAST.get(symbol, 1)
+
+
+def read_tokens(rows):
     """A reader that went by all these tokens: BadSyntax unless they are a beginning."""
-    reader = Reader(beginnings)
+    reader = Reader()
     for sort, told, line, column in rows:
         if not reader.take(sort, told):
             raise BadSyntax((line, column, tuple(sorted(reader.could_stand()))))
     return reader
 
 
-def read_whole(text, rows, beginnings):
+def read_whole(text, rows):
     """The node of this text with these tokens: BadSyntax unless it is a whole one."""
-    reader = read_tokens(rows, beginnings)
+    reader = read_tokens(rows)
     if not reader.is_whole():
         line, column = end_of(text)
         raise BadSyntax((line, column, tuple(sorted(reader.could_stand()))))

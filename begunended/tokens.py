@@ -3,11 +3,15 @@
 from begunended.errors import BadToken
 from begunended.values import MAXINT
 
-WORDS = (
-    "and", "array", "begin", "case", "const", "div", "do", "downto", "else", "end", "file", "for",
-    "function", "goto", "if", "in", "label", "mod", "nil", "not", "of", "or", "packed", "procedure",
-    "program", "record", "repeat", "set", "then", "to", "type", "until", "var", "while", "with",
-)
+WORDS = {
+    "and": True, "array": True, "begin": True, "case": True, "const": True, "div": True, "do": True, "downto": True,
+    "else": True, "end": True, "file": True, "for": True, "function": True, "goto": True, "if": True, "in": True,
+    "label": True, "mod": True, "nil": True, "not": True, "of": True, "or": True, "packed": True, "procedure": True,
+    "program": True, "record": True, "repeat": True, "set": True, "then": True, "to": True, "type": True, "until": True,
+    "var": True, "while": True, "with": True,
+}
+LETTERS = "abcdefghijklmnopqrstuvwxyzABCDEFGHIJKLMNOPQRSTUVWXYZ"
+NAME_SIGNS = "abcdefghijklmnopqrstuvwxyzABCDEFGHIJKLMNOPQRSTUVWXYZ0123456789"
 SHORT_SIGNS = "+-*=<>()[].,:;^"
 LONG_SIGNS = ("<>", "<=", ">=", "..", ":=")
 
@@ -21,24 +25,36 @@ def tokens(text):
     line = 1
     line_begin = 0
     while at < len(text):
-        end = gap_end(text, at)
-        if end == at:
-            sort, told, end = token_at(text, at)
-            found.append((sort, told, line, at - line_begin + 1))
-        if end == at:
-            raise BadToken((line, at - line_begin + 1))
-        feeds = text.count("\n", at, end)
-        if feeds:
-            line += feeds
-            line_begin = text.rfind("\n", at, end) + 1
-        at = end
+        sign = text[at]
+        if sign == " ":
+            at += 1
+        elif sign == "\n":
+            at += 1
+            line += 1
+            line_begin = at
+        elif sign in LETTERS:
+            end = at + 1
+            while end < len(text) and text[end] in NAME_SIGNS:
+                end += 1
+            told = text[at:end].lower()
+            found.append(("word" if told in WORDS else "name", told, line, at - line_begin + 1))
+            at = end
+        else:
+            end = gap_end(text, at)
+            if end > at:
+                line += text.count("\n", at, end)
+                line_begin = max(line_begin, text.rfind("\n", at, end) + 1)
+            else:
+                sort, told, end = token_at(text, at)
+                if end == at:
+                    raise BadToken((line, at - line_begin + 1))
+                found.append((sort, told, line, at - line_begin + 1))
+            at = end
     return tuple(found)
 
 
 def gap_end(text, at):
-    """Where a blank, a line feed or a comment that begins here ends; here if none does."""
-    if text[at] == " " or text[at] == "\n":
-        return at + 1
+    """Where a comment that begins here ends; here if none does."""
     if text[at] == "{":
         return comment_end(text, at, at + 1)
     if text[at:at + 2] == "(*":
@@ -57,10 +73,8 @@ def comment_end(text, begin, inside):
 
 
 def token_at(text, at):
-    """The sort of the token that begins here, what is told of it, and its end: here if none does."""
+    """The sort of the token without letters that begins here, what is told of it, and its end: here if none does."""
     sign = text[at]
-    if is_letter(sign):
-        return word_at(text, at)
     if is_figure(sign):
         return number_at(text, at)
     if sign == "'":
@@ -79,14 +93,6 @@ def is_letter(sign):
 
 def is_figure(sign):
     return "0" <= sign <= "9"
-
-
-def word_at(text, at):
-    end = at
-    while end < len(text) and (is_letter(text[end]) or is_figure(text[end])):
-        end += 1
-    told = text[at:end].lower()
-    return "word" if told in WORDS else "name", told, end
 
 
 def number_at(text, at):
