@@ -84,7 +84,8 @@ def reached_from(name, found):
     reached = {name: True}
     waiting = [name]
     while waiting:
-        for other in found[waiting.pop()]:
+        calling = waiting.pop()
+        for other in found[calling]:
             if other not in reached:
                 reached[other] = True
                 waiting.append(other)

@@ -78,7 +78,7 @@ class Join:
     def find_chains(self):
         """Finds what chains lead to: Missing with the shortest, then least chain to what is told nowhere."""
         chains = {name: (name,) for name in self.units[0].procs}
-        newest = chains
+        newest = dict(chains)
         while newest:
             missing = [newest[name] for name in newest if name not in self.procs]
             if missing:

@@ -7,14 +7,15 @@ class RoutineCode:
     """The code of a routine that is being made.
 
     Rows are tuples of an order and what stands behind it; labels are numbered as they come up, and
-    anew, by their rows, at the end. Numbers are those of the things that tellings and withs have.
+    anew, by their rows, at the end. Numbers are those of the things that tellings and withs have; named
+    are the tellings among these.
     """
 
     def __init__(self, telling):
         self.telling = telling
         self.depth = telling.inner.depth
         self.numbers = {}
-        self.tellings = []
+        self.named = []
         self.takes = []
         self.names = []
         self.rows = []
@@ -25,7 +26,7 @@ class RoutineCode:
     def add_thing(self, telling, param, words):
         """Gives the next number to a thing."""
         self.numbers[telling] = len(self.takes) + len(self.names)
-        self.tellings.append(telling)
+        self.named.append(telling)
         words.append(param)
 
     def hidden(self, param):

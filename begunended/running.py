@@ -122,7 +122,7 @@ class Runner:
     def names_told(self, frame):
         code = self.by_name[frame.proc.name]
         found = {}
-        for telling in code.tellings:
+        for telling in code.named:
             # A result is told by the routine's name, which any other thing may hide.
             if telling.word != "routine" or telling.name not in found:
                 found[telling.name] = self.thing_told(telling, frame.things[code.numbers[telling]])

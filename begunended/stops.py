@@ -19,5 +19,5 @@ def numbers(program):
     """For each routine its parameters, result and variables by name, each with its number."""
     found = []
     for code in Plan(program).codes.values():
-        found.append(tuple(sorted([(telling.name, code.numbers[telling]) for telling in code.tellings])))
+        found.append(tuple(sorted([(telling.name, code.numbers[telling]) for telling in code.named])))
     return tuple(found)

@@ -8,6 +8,7 @@ COMPARED = {"=": "eq", "<>": "ne", "<": "lt", "<=": "le", ">": "gt", ">=": "ge"}
 SET_COMPARED = {"=": "seq", "<>": "sne", "<=": "inside", ">=": "around"}
 RECKONED = {"+": "add", "-": "sub", "*": "mul", "div": "div", "mod": "mod", "and": "and", "or": "or"}
 SET_RECKONED = {"+": "join", "-": "less", "*": "meet"}
+SIGNED = {"plus": (), "minus": ("neg",), "not": ("not",)}
 SET_FORMS = ("set", "[]")
 
 
@@ -31,9 +32,9 @@ class ValueCode(PlaceCode):
             self.emit_items(node.parts[0].parts)
         elif word == "call":
             self.call_value(node)
-        elif word == "plus" or word == "minus" or word == "not":
+        elif word in SIGNED:
             self.emit_value(node.parts[0], None)
-            self.emit_all({"plus": (), "minus": ("neg",), "not": ("not",)}[word])
+            self.emit_all(SIGNED[word])
         elif word == "in":
             self.emit_number(node.parts[0])
             self.emit_value(node.parts[1], None)
