@@ -132,6 +132,11 @@ def sum_node(children, first, last):
 
 def factor_node(children, first, last):
     head = children[0]
+    if head.parts[0] == "number" or head.parts[0] == "string":
+        return leaf_node(head)
+    if head.parts[0] == "name":
+        is_call = len(children) > 1 and is_leaf(children[1], "(")
+        return call_node(children, first, last) if is_call else variable_node(children, first, last)
     if is_leaf(head, "nil"):
         return node_of("nil", (), first, last)
     if is_leaf(head, "not"):
@@ -139,12 +144,8 @@ def factor_node(children, first, last):
     if is_leaf(head, "("):
         # Brackets around a whole expression are no part of it.
         return children[1]
-    if is_leaf(head, "["):
-        items = row_of("list", children[1:-1:2], first, last)
-        return node_of("set", (items,), first, last)
-    if len(children) > 1 and is_leaf(children[1], "("):
-        return call_node(children, first, last)
-    return variable_node(children, first, last)
+    items = row_of("list", children[1:-1:2], first, last)
+    return node_of("set", (items,), first, last)
 
 
 DOING_MAKERS = {

@@ -17,13 +17,14 @@ PASSING = {"Expression": True, "Sum": True, "Term": True, "Statement": True, "Ar
 class Reader:
     """What was read of a text, and what is to come by the grammar, the next symbol last.
 
-    Parts are those that are being read: the name of each, the number of its first token, and the
-    nodes that it is made of so far.
+    Nodes are those that no part has yet. Parts are those that are being read: the name of each, the
+    number of its first token, and how many nodes there were ahead of its own.
     """
 
     def __init__(self):
         self.pending = ["Text"]
-        self.parts = [("", 0, [])]
+        self.nodes = []
+        self.parts = []
         self.many = 0
         self.makers = dict(TELLING_MAKERS)
         self.makers.update(dict(DOING_MAKERS))
@@ -42,7 +43,7 @@ class Reader:
             self.come_to(symbol)
         else:
             return False
-        self.parts[-1][2].append(leaf(sort, told, self.many))
+        self.nodes.append(leaf(sort, told, self.many))
         self.many += 1
         return True
 
@@ -60,14 +61,14 @@ class Reader:
         pending = self.pending
         top = pending.pop()
         while top != symbol:
-            opening = OPENINGS.get((top, symbol), ())
-            if opening:
-                for name in opening[0]:
-                    self.parts.append((name, self.many, []))
-                pending.extend(opening[1])
-                return
             if top == CLOSE:
                 self.close_part()
+            elif (top, symbol) in OPENINGS and OPENINGS[(top, symbol)]:
+                names, behind = OPENINGS[(top, symbol)]
+                for name in names:
+                    self.parts.append((name, self.many, len(self.nodes)))
+                pending.extend(behind)
+                return
             elif not top.endswith("_"):
                 # What ends in _ and has no tokens leaves nothing.
                 self.end_part(top)
@@ -79,19 +80,20 @@ class Reader:
             self.close_part()
             return
         if top in self.makers:
-            self.parts.append((top, self.many, []))
+            self.parts.append((top, self.many, len(self.nodes)))
             self.pending.append(CLOSE)
         for part in reversed(RULES[top][EMPTY[top]]):
             self.pending.append(part)
 
     def close_part(self):
-        name, first, children = self.parts.pop()
-        if name in PASSING and len(children) == 1:
-            node = children[0]
-        else:
-            maker = self.makers[name]
-            node = maker(children, first, self.many - 1)
-        self.parts[-1][2].append(node)
+        """Makes a node of the nodes of the part that ends here, unless it is that of its only one."""
+        name, first, begin = self.parts.pop()
+        if name in PASSING and len(self.nodes) == begin + 1:
+            return
+        maker = self.makers[name]
+        children = self.nodes[begin:]
+        del self.nodes[begin:]
+        self.nodes.append(maker(children, first, self.many - 1))
 
     def could_stand(self):
         """The dict of what could stand here, and with how many tokens each goes on at least."""
@@ -115,7 +117,7 @@ class Reader:
         """The node of the whole text that was read."""
         while self.pending:
             self.end_part(self.pending.pop())
-        return self.parts[0][2][0]
+        return self.nodes[0]
 
 
 def least_of(symbol):
