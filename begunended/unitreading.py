@@ -29,8 +29,7 @@ class Proc:
     its names; labels the numbers of the rows of its labels.
     """
 
-    def __init__(self, name, around):
-        self.name = name
+    def __init__(self, around):
         self.around = around
         self.takes = ()
         self.gives = NONE
@@ -151,10 +150,10 @@ class UnitReader:
         is_program = not self.procs
         if is_program:
             self.want(row[2] == NONE)
-            proc = Proc(row[1], (row[1],))
+            proc = Proc((row[1],))
         else:
             self.want(row[2] in self.procs and len(self.procs[row[2]].around) <= HIGHEST_LEVEL)
-            proc = Proc(row[1], (row[1], *self.procs[row[2]].around))
+            proc = Proc((row[1], *self.procs[row[2]].around))
         self.procs[row[1]] = proc
         self.at += 1
         self.read_head(proc, is_program)

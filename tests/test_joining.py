@@ -83,6 +83,9 @@ class JoinedTest(Refusing, unittest.TestCase):
             self.refused(BadUnits, units, joined, units)
         for other in fat:
             self.refused(BadUnits, (MAIN, ONE, other), joined, (MAIN, ONE, other))
+            self.refused(BadUnits, (MAIN, other, ONE), joined, (MAIN, other, ONE))
+        six = (unit(program("p0", "leave")),) + tuple(piece("x") for _ in range(5))
+        self.assertEqual(joined(six), six[0])
         self.assertEqual(joined((fat[0], piece("x"))), fat[0])
 
     def test_clash(self):

@@ -78,11 +78,17 @@ class PlainValuesTest(unittest.TestCase):
         # Not within indices, and in no other places.
         self.put("v[z.f] := 1", "<v>; <z>; field 0; arm 0; field 0; load; index 3 5; num 1; store")
         self.put("read(z.f)", "<z>; field 0; arm 0; field 0; place 0 0; readn; store")
+        self.put("with z do f := f", (
+            "<z>; bind 20; line 4; place 0 20; field 0; dup; become 0; arm 0; field 0; place 0 20; field 0; arm 0; field 0; load; store"))
         # Behind the last ^ or window alone.
         told = (
             "type p = ^r; r = record case boolean of true: (q: p; g: integer) end; var a: r; f: file of r; n: integer;")
         self.assertEqual(body_rows("a.q^.g := 1", told), rows(
             "line 4; place 0 2; field 0; arm 0; field 0; load; aim; field 0; dup; become 0; arm 0; field 1; num 1; store"))
+        self.assertEqual(body_rows("with a do q^.g := 1", told), rows(
+            "line 4; place 0 2; bind 5; line 4; place 0 5; field 0; arm 0; field 0; load; aim; field 0; dup; become 0; arm 0; field 1;"
+            " num 1; store"))
+        self.assertEqual(body_rows("new(a.q)", told), rows("line 4; place 0 2; field 0; arm 0; field 0; new"))
         self.assertEqual(body_rows("f^.g := 1", told.replace("q: p; ", "")), rows(
             "line 4; place 0 3; window; field 0; dup; become 0; arm 0; field 0; num 1; store"))
 

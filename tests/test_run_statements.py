@@ -69,6 +69,14 @@ class StatementsTest(Running, unittest.TestCase):
         self.traps("arm", LOOSE, "y.a := 7; y := z; i := y.a")
         self.writes(" 1 2", "type v = array [1..2] of integer; var a, b: v;", "a[1] := 1; a[2] := 2; b := a; write(b[1]: 2, b[2]: 2)")
 
+    def test_neighbours_of_what_is_moved_or_unset_stay(self):
+        told = LOOSE.replace("v: array [1..2]", "v: array [1..3]")
+        body = "for i := 1 to 3 do begin v[i].x := i; v[i].a := i * 10 end; z.x := 7; z.c := 'k'; v[2] := z;"
+        self.writes(" 1 10 7k 3 30", told, body + " write(v[1].x: 2, v[1].a: 3, v[2].x: 2, v[2].c, v[3].x: 2, v[3].a: 3)")
+        self.writes(" 1 10 2 3 30", told, body + " v[2].x := 2; write(v[1].x: 2, v[1].a: 3, v[2].x: 2, v[3].x: 2, v[3].a: 3)")
+        self.traps("unset", told, body + " v[2].a := 1; v[2].c := 'a'; v[2].a := 1; i := v[2].b")
+        self.writes(" 10 30", told, body + " v[2].a := 1; v[2].c := 'a'; write(v[1].a: 3, v[3].a: 3)")
+
     def test_with(self):
         told = "type r = record a, b: integer end; var x, y: r; v: array [1..2] of r; i: integer;"
         self.writes(" 1 2", told, "with x do begin a := 1; b := a + 1 end; write(x.a: 2, x.b: 2)")

@@ -108,6 +108,10 @@ class TrapsTest(Running, unittest.TestCase):
             self.traps("below", KINDS, body)
         self.ends(KINDS, "i := 5 mod 1; i := -maxint div (-1); i := (-maxint) mod maxint")
 
+    def test_odd(self):
+        body = "for i := -3 to 3 do write(odd(i): 6)"
+        self.writes("  true false  true false  true false  true", KINDS, body)
+
     def test_case(self):
         for body in ("case 0 of 1, 3: end", "case 2 of 1, 3: end", "case 4 of 1, 3: end", "case 'a' of 'b': end"):
             self.traps("case", KINDS, body)
@@ -227,7 +231,8 @@ class TrapsTest(Running, unittest.TestCase):
         for left, sign, right, is_so in (
                 ("abc", "=", "abc", True), ("abc", "<>", "abd", True), ("abc", "<", "abd", True), ("abd", "<", "abc", False),
                 ("abc", "<=", "abc", True), ("abd", ">", "abc", True), ("aZz", ">=", "aaa", False), ("abc", ">=", "abc", True),
-                ("b  ", ">", "azz", True)):
+                ("b  ", ">", "azz", True), ("abc", "<>", "abc", False), ("abd", "<>", "abc", True), ("abc", "=", "abd", False),
+                ("abd", "<=", "abc", False), ("abc", ">", "abc", False), ("abc", ">=", "abd", False), ("abc", "<", "abc", False)):
             text = "if '{}' {} '{}' then write('y') else write('n')".format(left, sign, right)
             self.writes("y" if is_so else "n", told, text)
         self.writes("y", told, "a[1] := 'a'; b[1] := 'b'; if a < b then write('y')")
