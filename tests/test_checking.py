@@ -11,7 +11,7 @@ from tests.test_joining import proc, program, unit
 
 HEADS = (
     "layout l0 (n,^l0)", "layout l1 c", "signature g0 takes n &t gives c", "signature g1 takes gives -", "signature g2 takes n &t gives c",
-    "signature g3 takes 3*n @g1 ^l0 gives -")
+    "signature g3 takes 3*n @g1 ^l0 gives -", "signature g4 takes n &t gives -", "signature g5 takes n t gives c")
 NAMES = " n t c s ^l0 3*n 2*c (n,{(c)|()|(t,n)}) <text> <2*c> <n> &(n) ({(n)|()})"
 SHAPE_OK = ("n",)
 
@@ -213,6 +213,8 @@ class LedTest(Refusing, unittest.TestCase):
         self.to("hand p5 g3", (), ("@g3",))
         self.no("sort", "hand p2 g1")
         self.no("sort", "hand p3 g0")
+        self.no("sort", "hand p2 g4")
+        self.no("sort", "hand p2 g5")
         self.no("sort", "hand p1 g0")
         for row in ("call p0", "call p4", "hand p0 g1", "hand p4 g1", "far 2 3", "far 1 3", "far 2147483647 0"):
             self.no("link", row)
@@ -451,6 +453,10 @@ class DepthsTest(Refusing, unittest.TestCase):
                 (("ring", ()), False), (("ring", ["d"]), False), (("ring", ("a", "c", "b")), False), (("most", 3, ("p0", "a", "b")), False),
                 (("ring", "d"), False), (("ring", ("z",)), False), (("ring",), False), (("ring", ("d",), 1), False), (("ring", (1,)), False)):
             self.assertIs(shows_frames_needed(one, value), is_right, value)
+        one = unit(
+            program("p0", "call a", "leave"), proc("a", "p0", "call b", "leave"), proc("b", "p0", "call c", "leave"),
+            proc("c", "p0", "call a", "leave"))
+        self.assertIn(frames_needed(one), [("ring", ring) for ring in (("a", "b", "c"), ("b", "c", "a"), ("c", "a", "b"))])
         # A ring to which no chain leads does not count.
         one = unit(program("p0", "leave"), proc("e", "p0", "call e", "leave"))
         self.assertEqual(frames_needed(one), ("most", 1, ("p0",)))

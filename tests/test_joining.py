@@ -160,6 +160,8 @@ class JoinedTest(Refusing, unittest.TestCase):
         many = [piece("x", *["layout a{}{} n".format(k, m) for m in range(9)]) for k in range(3)]
         self.refused(Wide, 12, joined, (unit(program("p0", "leave")), *many))
         self.assertEqual(len(joined((unit(program("p0", "leave")), *many[:2], piece("x", *["layout b{} n".format(m) for m in range(6)]))).layouts), 24)
+        many = [piece("x", *["signature a{}{} takes gives -".format(k, m) for m in range(6)]) for k in range(2)]
+        self.assertEqual(len(joined((unit(program("p0", "leave")), *many)).signatures), 12)
         many = [piece("x", *["signature a{}{} takes gives -".format(k, m) for m in range(7)]) for k in range(2)]
         self.refused(Wide, 12, joined, (unit(program("p0", "leave")), *many))
 

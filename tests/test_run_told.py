@@ -55,6 +55,10 @@ class ShownTest(unittest.TestCase):
         self.assertEqual(shown_at_end("free", "v.y := red"), (0, (None, "red", 0, (None,))))
         self.assertEqual(shown_at_end("free", "v.y := green"), (0, (None, "green", 1, ())))
         self.assertEqual(shown_at_end("record x, y: char end", "v.y := 'k'"), (None, "k"))
+        kind = "record x: char; y: array [1..4] of integer; z: array [1..3] of free end"
+        body = "v.y[1] := 1; v.y[3] := 3; v.z[1].w := true; v.z[2].x := 'a'; v.z[3].y := red"
+        arms = ((1, (True,)), (0, ("a", None, None, ())), (0, (None, "red", 0, (None,))))
+        self.assertEqual(shown_at_end(kind, body), (None, (1, None, 3, None), arms))
 
     def test_parameters_and_results(self):
         text = (
@@ -176,6 +180,11 @@ class InputsTest(Running, unittest.TestCase):
     def test_what_is_read_of_inputs(self):
         text = "program p(output, c); " + KINDS + " var c: file of rec; r: rec; begin reset(c); read(c, r); write(r.b: 1, ord(r.k): 1) end."
         self.assertEqual(run(Program(text), (("c", (("blue", True, 0, (5, 6)),)),), 99)[0], (("output", "62"),))
+        text = (
+            "program p(output, b); " + KINDS + " var b: file of array [1..3] of free; begin reset(b); if b^[1].w then write(b^[2].z: 1);"
+            " write(b^[2].x, b^[3].x) end.")
+        things = ((1, (True,)), (0, ("k", "red", 0, (4,))), (0, ("m", "blue", 1, ())))
+        self.assertEqual(run(Program(text), (("b", (things,)),), 99)[0], (("output", "4km"),))
         text = "program p(output, b); var b: file of set of 0..127; s: set of 0..127; begin reset(b); s := b^; write(5 in s: 5) end."
         self.assertEqual(run(Program(text), (("b", ((0, 5, 127),)),), 99)[0], (("output", " true"),))
         text = "program p(output, b); var b: file of boolean; begin reset(b); get(b); write(b^: 5, not b^: 5) end."

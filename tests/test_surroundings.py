@@ -46,6 +46,10 @@ class SurroundingsTest(Running, unittest.TestCase):
         self.writes(" 2 2 9 7", told, "a := 9; two(a, a, a)")
         self.writes(" 1 2 0 1", told, "b[1] := 0; b[2] := 0; two(b[1], b[2], b[1])")
 
+    def test_a_pointer_handed_by_value_can_have_a_new_piece(self):
+        told = "type p = ^integer; var a: p; procedure q(x: p); begin new(x); x^ := 3; write(x^: 2, a^: 2) end;"
+        self.writes(" 3 8", told, "new(a); a^ := 8; q(a)")
+
     def test_arrays_and_records_are_copied_by_value(self):
         told = (
             "type v = array [1..2] of integer; var a: v; procedure q(b: v; var c: v);"
