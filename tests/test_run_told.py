@@ -55,6 +55,7 @@ class ShownTest(unittest.TestCase):
         self.assertEqual(shown_at_end("free", "v.y := red"), (0, (None, "red", 0, (None,))))
         self.assertEqual(shown_at_end("free", "v.y := green"), (0, (None, "green", 1, ())))
         self.assertEqual(shown_at_end("record x, y: char end", "v.y := 'k'"), (None, "k"))
+        self.assertEqual(shown_at_end("record case k: integer of 1: (x: char) end", "v.k := 5"), (5, 1, ()))
         kind = "record x: char; y: array [1..4] of integer; z: array [1..3] of free end"
         body = "v.y[1] := 1; v.y[3] := 3; v.z[1].w := true; v.z[2].x := 'a'; v.z[3].y := red"
         arms = ((1, (True,)), (0, ("a", None, None, ())), (0, (None, "red", 0, (None,))))

@@ -14,7 +14,7 @@ EIGHT = "a + b + c + d + e + f + g + h"
 NO_SETS = (
     None, 5, True, (), ["a"], "", "a b", "a +", "+ a", "(a", "a)", "()", "[1", "1", "[1,]", "[,1]", "[1..]", "[..1]", "[128]",
     "[0..128]", "[a]", "a / b", "a and b", "begin", "a..b", "[1 2]", "a = b", "[1..2..3]", "'a'", "[-1]", "a . b", "a := b",
-    "[(1)]", "a{", "a'", "[]]", "a in b", "not a", NINE)
+    "[(1)]", "a{", "a'", "[]]", "a in b", "not a", "[", "a + [", "[1,", "[1..", "a '+' b", "a * (", "'[' ]", "[1 ',' 2]", NINE)
 
 
 class TextsTest(Refusing, unittest.TestCase):
@@ -50,7 +50,7 @@ class TextsTest(Refusing, unittest.TestCase):
         for world in (
                 None, [], "a", {}, (("a", (1,)),) * 2, (("b", ()), ("a", ())), (("a", [1]),), (("a", (1, 1)),), (("a", (2, 1)),),
                 (("a", (128,)),), (("a", (-1,)),), (("a", (True,)),), (("A", ()),), (("begin", ()), ("a", ())), (("a",),),
-                (["a", ()],), (("b", ()),), (), (("1a", ()), ("a", ())), (("", ()), ("a", ())), ((1, ()),), (("a", ("1",)),)):
+                (("A", ()), ("a", ())), (("a", ()), ("a b", ())), (["a", ()],), (("b", ()),), (), (("1a", ()), ("a", ())), (("", ()), ("a", ())), ((1, ()),), (("a", ("1",)),)):
             self.refused(BadWorld, world, worth, "a", world)
             self.refused(BadWorld, world, holds, "a = a", world)
         # More names than a set text can have.

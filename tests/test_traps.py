@@ -108,6 +108,21 @@ class TrapsTest(Running, unittest.TestCase):
             self.traps("below", KINDS, body)
         self.ends(KINDS, "i := 5 mod 1; i := -maxint div (-1); i := (-maxint) mod maxint")
 
+    def test_truths(self):
+        told = "var a, b: boolean;"
+        body = "for a := false to true do for b := false to true do write(a and b: 6, a or b: 6, not a: 6, a = b: 6, a < b: 6)"
+        rows = [(a and b, a or b, not a, a == b, a < b) for a in (False, True) for b in (False, True)]
+        self.writes("".join(str(so).lower().rjust(6) for row in rows for so in row), told, body)
+
+    def test_comparisons_of_ordinals(self):
+        told = "type color = (red, green, blue); var i, j: integer; c, d: char; k, m: color;"
+        for head, one, other in (("i := -1 to 1", "i", "j"), ("c := 'a' to 'c'", "c", "d"), ("k := red to blue", "k", "m")):
+            inner = head.replace(one + " :=", other + " :=")
+            sums = ", ".join("{} {} {}: 6".format(one, sign, other) for sign in ("=", "<>", "<", "<=", ">", ">="))
+            body = "for {} do for {} do write({})".format(head, inner, sums)
+            rows = [(a == b, a != b, a < b, a <= b, a > b, a >= b) for a in range(3) for b in range(3)]
+            self.writes("".join(str(so).lower().rjust(6) for row in rows for so in row), told, body)
+
     def test_odd(self):
         body = "for i := -3 to 3 do write(odd(i): 6)"
         self.writes("  true false  true false  true false  true", KINDS, body)
@@ -238,6 +253,7 @@ class TrapsTest(Running, unittest.TestCase):
         self.writes("y", told, "a[1] := 'a'; b[1] := 'b'; if a < b then write('y')")
         self.traps("unset", told, "a[1] := 'a'; b[1] := 'a'; x := a < b")
         self.traps("unset", told, "a[1] := 'a'; x := 'axx' = a")
+        self.traps("unset", told, "a[1] := 'a'; x := a = 'axx'")
         self.ends(told, "a[1] := 'a'; x := 'bxx' = a; x := a <> 'cxx'")
 
     def test_arrays_are_places_until_they_are_used(self):
