@@ -96,7 +96,7 @@ class BlockChecks(StatementChecks):
             is_own = telling.word == "variable" and telling.region == self.region and is_file(telling.kind)
             if name not in FILES and not is_own:
                 self.name_fault(leaf.first, "file")
-            self.facts.head.append(telling)
+            self.facts.head_files.append(telling)
 
     def check_given(self, begin):
         """Wants all routines of the region to be given where its block begins."""

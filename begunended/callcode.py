@@ -71,7 +71,7 @@ class CallCode(ValueCode):
         if node is not None:
             self.place(node, False)
             return
-        for telling in self.plan.facts.head:
+        for telling in self.plan.facts.head_files:
             if telling.name == name:
                 self.name_place(telling)
 

@@ -71,5 +71,5 @@ def proc_rows(plan, code, work):
         " ".join(["names", *code.names]),
     ]
     if routine.outside is None:
-        rows.append(" ".join(["files", *[telling.name for telling in plan.facts.head]]))
+        rows.append(" ".join(["files", *[telling.name for telling in plan.facts.head_files]]))
     return [*rows, "work " + str(work), *[row_text(row) for row in code.rows], "end"]

@@ -73,20 +73,20 @@ def enter(engine, frame, proc, link):
     if len(engine.entered) >= MOST_FRAMES:
         raise Trap("deep")
     begin = len(frame.stack) - len(proc.takes)
-    things = []
+    made = []
     for number, word in enumerate(proc.takes):
         given = frame.stack[begin + number]
         if word == "cell":
-            things.append((Area([given], None), 0, proc.things[number][0], ()))
+            made.append((Area([given], None), 0, proc.things[number][0], ()))
         elif word == "copied":
-            things.append((Area(copy_of(given), None), 0, proc.things[number][0], ()))
+            made.append((Area(copy_of(given), None), 0, proc.things[number][0], ()))
         else:
-            things.append(given)
+            made.append(given)
     for layout, is_own in proc.things[len(proc.takes):]:
-        things.append(fresh_place(layout) if is_own else None)
+        made.append(fresh_place(layout) if is_own else None)
     del frame.stack[begin:]
     engine.many_frames += 1
-    engine.entered.append(Frame(proc, link, things, engine.many_frames))
+    engine.entered.append(Frame(proc, link, made, engine.many_frames))
 
 
 def do_leave(engine, frame, row):

@@ -115,17 +115,17 @@ class Join:
 
     def unit_joined(self):
         """The unit with all that was told."""
-        layouts = {}
-        signatures = {}
+        layout_rows = {}
+        signature_rows = {}
         for unit in self.units:
             for name in unit.layouts:
-                layouts[name] = f"layout {name} {unit.layout_texts[name]}"
+                layout_rows[name] = f"layout {name} {unit.layout_texts[name]}"
             for name in unit.signatures:
-                signatures[name] = "signature " + name + " " + heading_told(unit, name)
+                signature_rows[name] = "signature " + name + " " + heading_told(unit, name)
         names = [name for name in self.procs if name in self.reached]
-        if len(layouts) > MOST_LAYOUTS or len(signatures) > MOST_SIGNATURES or len(names) > MOST_PROCS:
+        if len(layout_rows) > MOST_LAYOUTS or len(signature_rows) > MOST_SIGNATURES or len(names) > MOST_PROCS:
             raise Wide(WIDE)
-        rows = list(layouts.values()) + list(signatures.values())
+        rows = list(layout_rows.values()) + list(signature_rows.values())
         for name in names:
             rows.extend(self.proc_rows(name))
         return Unit("\n".join(rows))

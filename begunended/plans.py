@@ -87,7 +87,7 @@ class Plan:
             code.add_thing(routine, result_layout(routine), code.names)
         is_program = routine.outside is None
         if is_program:
-            for telling in self.facts.head:
+            for telling in self.facts.head_files:
                 code.add_thing(telling, layout_text(telling.kind), code.names)
         for telling in self.facts.tellings:
             if telling.word == "variable" and telling.region == routine.inner and telling not in code.numbers:

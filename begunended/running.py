@@ -44,7 +44,7 @@ def inputs_wanted(program, inputs):
     """The dict of inputs, things as tuples of their cells: BadInputs for what are none."""
     if not isinstance(inputs, tuple):
         raise BadInputs(inputs)
-    kinds = {telling.name: telling.kind for telling in program.facts.head if telling.name != "output"}
+    kinds = {telling.name: telling.kind for telling in program.facts.head_files if telling.name != "output"}
     table = LayoutTable()
     given = {}
     for row in inputs:
@@ -89,7 +89,7 @@ class Runner:
             procs[name] = proc
             self.by_name[name] = code
         main = procs["p0"]
-        main.outside_names = tuple([telling.name for telling in self.plan.facts.head])
+        main.outside_names = tuple([telling.name for telling in self.plan.facts.head_files])
         aims = {name: table.of(layout) for name, layout in layouts(program)}
         takes = {self.plan.signature(telling): len(telling.parameters) for telling in self.plan.headings}
         self.engine = Engine(procs, aims, takes, fuel)
@@ -99,7 +99,7 @@ class Runner:
     def files_told(self):
         """The names and contents of all files of the head that were rewritten."""
         found = []
-        for telling in self.plan.facts.head:
+        for telling in self.plan.facts.head_files:
             box = self.engine.boxes[telling.name]
             if box.was_rewritten:
                 found.append((telling.name, self.contents_told(telling.kind, box)))

@@ -25,7 +25,7 @@ class StatementCode(CallCode):
         begin, end = parts[-2].first, parts[-1].first
         self.emit("step", self.line_of(begin), begin)
         if self.own.telling.outside is None:
-            for telling in self.plan.facts.head:
+            for telling in self.plan.facts.head_files:
                 if telling.name in FILES:
                     self.name_place(telling)
                     self.emit("reset" if telling.name == "input" else "rewrite")

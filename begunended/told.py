@@ -115,7 +115,7 @@ class Facts:
 
     Uses are pairs of a token's number and a telling; spans are (first token, last token, kind, whether
     it is a place); handed are the parameters that are routines, routines those that are told, in the
-    sequence of the text; head are the files of the head, in its sequence.
+    sequence of the text; head_files are those of the head, in its sequence.
     """
 
     def __init__(self, rows):
@@ -127,7 +127,7 @@ class Facts:
         self.spans = []
         self.pointers = []
         self.handed = []
-        self.head = []
+        self.head_files = []
 
     def place(self, token):
         """The line and the column of the token with this number."""
