@@ -14,7 +14,11 @@ MOST_WORK = 99
 
 def compiled(program):
     """The plain unit of a program: TooLong with the first routine that is too long for one."""
-    plan = plan_compiled(program)
+    return unit_compiled(program, plan_compiled(program))
+
+
+def unit_compiled(program, plan):
+    """The plain unit of a program, by its plan."""
     return Unit(unit_text(head_rows(program, plan), plan, plan.works))
 
 

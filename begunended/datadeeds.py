@@ -34,7 +34,7 @@ def do_nil(engine, frame, row):
 def do_string(engine, frame, row):
     cells = [sign_of(number) for number in row[1]]
     layout = engine.table.of(str(len(cells)) + "*c")
-    frame.stack.append((Area(cells, None), 0, layout, ()))
+    frame.stack.append((Area(cells, None, ("string",)), 0, layout, ()))
 
 
 def do_place(engine, frame, row):
@@ -145,7 +145,7 @@ def do_new(engine, frame, row):
     cells = cells_to_put(place)
     number = engine.heap.take(layout.cells)
     cells[place[1]] = number
-    engine.areas[number] = (Area(fresh_cells(layout), None), layout)
+    engine.areas[number] = (Area(fresh_cells(layout), None, ("piece", number)), layout)
     frame.stack.pop()
 
 

@@ -40,10 +40,12 @@ class Engine:
 
     def begin(self, program, inputs):
         """Enters the program's frame; inputs are contents of files by name, their things as cells."""
-        things = [fresh_place(layout) if is_own else None for layout, is_own in program.things]
+        things = []
+        for number, (layout, is_own) in enumerate(program.things):
+            things.append(fresh_place(layout, ("name", 1, number)) if is_own else None)
         for number, name in enumerate(program.outside_names):
             layout = program.things[number][0]
-            self.boxes[name] = FileBox(layout, inputs.get(name))
+            self.boxes[name] = FileBox(layout, inputs.get(name), ("name", 1, number))
             things[number] = (self.boxes[name], 0, layout, ())
         self.entered.append(Frame(program, None, things, 1))
 
@@ -61,6 +63,27 @@ class Engine:
             frame = entered[-1]
             frame.at -= 1
             self.halted = ("trap", trap.value, frame.line)
+
+    def do_steps(self, most):
+        """Does so many orders, each with the lines and labels ahead of it, unless the end comes: how many."""
+        entered = self.entered
+        many = 0
+        try:
+            while many < most and self.halted is None:
+                frame = entered[-1]
+                proc = frame.proc
+                at, line = proc.orders_ahead[frame.at]
+                if line is not None:
+                    frame.line = line
+                frame.at = at + 1
+                many += 1
+                deed = proc.deeds[at]
+                deed(self, frame, proc.rows[at])
+        except Trap as trap:
+            frame = entered[-1]
+            frame.at -= 1
+            self.halted = ("trap", trap.value, frame.line)
+        return many
 
 
 def all_deeds():

@@ -26,12 +26,12 @@ def do_label(engine, frame, row):
 
 
 def do_jump(engine, frame, row):
-    frame.at = frame.proc.labels[row[1]]
+    frame.at = frame.proc.labels[row[1]] + 1
 
 
 def do_unless(engine, frame, row):
     if not frame.stack.pop():
-        frame.at = frame.proc.labels[row[1]]
+        frame.at = frame.proc.labels[row[1]] + 1
 
 
 def do_table(engine, frame, row):
@@ -39,7 +39,7 @@ def do_table(engine, frame, row):
     if not 0 <= at < len(row[2]) or row[2][at] is None:
         raise Trap("case")
     frame.stack.pop()
-    frame.at = frame.proc.labels[row[2][at]]
+    frame.at = frame.proc.labels[row[2][at]] + 1
 
 
 def do_choose(engine, frame, row):
@@ -48,7 +48,7 @@ def do_choose(engine, frame, row):
     if not labels:
         raise Trap("case")
     frame.stack.pop()
-    frame.at = frame.proc.labels[labels[0]]
+    frame.at = frame.proc.labels[labels[0]] + 1
 
 
 def do_call(engine, frame, row):
@@ -73,20 +73,22 @@ def enter(engine, frame, proc, link):
     if len(engine.entered) >= MOST_FRAMES:
         raise Trap("deep")
     begin = len(frame.stack) - len(proc.takes)
+    newest = engine.many_frames + 1
     made = []
-    for number, word in enumerate(proc.takes):
-        given = frame.stack[begin + number]
+    for number, (layout, is_own) in enumerate(proc.things):
+        word = proc.takes[number] if number < len(proc.takes) else None
         if word == "cell":
-            made.append((Area([given], None), 0, proc.things[number][0], ()))
+            made.append((Area([frame.stack[begin + number]], None, ("name", newest, number)), 0, layout, ()))
         elif word == "copied":
-            made.append((Area(copy_of(given), None), 0, proc.things[number][0], ()))
+            cells = copy_of(frame.stack[begin + number])
+            made.append((Area(cells, None, ("name", newest, number)), 0, layout, ()))
+        elif word is not None:
+            made.append(frame.stack[begin + number])
         else:
-            made.append(given)
-    for layout, is_own in proc.things[len(proc.takes):]:
-        made.append(fresh_place(layout) if is_own else None)
+            made.append(fresh_place(layout, ("name", newest, number)) if is_own else None)
     del frame.stack[begin:]
-    engine.many_frames += 1
-    engine.entered.append(Frame(proc, link, made, engine.many_frames))
+    engine.many_frames = newest
+    engine.entered.append(Frame(proc, link, made, newest))
 
 
 def do_leave(engine, frame, row):
@@ -107,7 +109,7 @@ def do_far(engine, frame, row):
     while engine.entered[-1].number != target.number:
         engine.entered.pop()
     target.stack = []
-    target.at = target.proc.labels[row[2]]
+    target.at = target.proc.labels[row[2]] + 1
 
 
 def do_trap(engine, frame, row):

@@ -6,7 +6,8 @@ class RunProc:
     """A proc as it runs: what it takes, its things, its rows.
 
     Takes are the words cell, copied, place or handed; things pairs of a layout and whether it is an
-    own thing; of a place, or what is handed, the latter is False. Deeds are the functions that do rows.
+    own thing; of a place, or what is handed, the latter is False. Deeds are the functions that do rows;
+    orders_ahead are for each row the next one that is an order, and the line gone by on the way.
     """
 
     def __init__(self, name, depth, takes, things):
@@ -18,6 +19,7 @@ class RunProc:
         self.rows = []
         self.labels = {}
         self.deeds = []
+        self.orders_ahead = []
         self.outside_names = ()
 
 

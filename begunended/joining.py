@@ -39,7 +39,7 @@ class Join:
 
     def __init__(self, units):
         self.units = units
-        self.program = units[0].procs[0]
+        self.main = units[0].procs[0]
         self.procs = {}
         self.outers = {}
         self.reached = {}
@@ -55,7 +55,7 @@ class Join:
 
     def outer_in(self, number, name):
         """The proc that a unit means by an OUTER: the program of a piece stands for the first unit's."""
-        return self.program if name == self.units[number].procs[0] and number > 0 else name
+        return self.main if name == self.units[number].procs[0] and number > 0 else name
 
     def want_no_clash(self):
         """Tells the first name that two units tell otherwise, or of a proc at all."""

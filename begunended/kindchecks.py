@@ -13,7 +13,7 @@ class KindChecks(Naming):
     """The constants and kinds of a text; aims are the ^names that wait for the end of a kinds part."""
 
     def __init__(self, rows):
-        Naming.__init__(self, rows)
+        super().__init__(rows)
         self.aims = None
 
     def constant(self, node):

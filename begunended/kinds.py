@@ -3,7 +3,7 @@
 from begunended.errors import NoPlace
 from begunended.kindforms import form_of
 from begunended.kindlore import do_agree
-from begunended.toldat import kind_at
+from begunended.told import kind_at
 
 
 def expressions(program):

@@ -2,7 +2,7 @@
 
 from begunended.errors import NoPlace
 from begunended.kindforms import layout_text
-from begunended.toldat import kind_at
+from begunended.told import kind_at
 
 
 def layout_of(program, place):

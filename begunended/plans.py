@@ -23,6 +23,9 @@ class RoutineCode:
         self.placed = {}
         self.is_wide = False
 
+    def proc_name(self):
+        return "p" + str(self.telling.number)
+
     def add_thing(self, telling, param, words):
         """Gives the next number to a thing."""
         self.numbers[telling] = len(self.takes) + len(self.names)

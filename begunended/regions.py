@@ -2,8 +2,8 @@
 
 from begunended.errors import BadValue, Caught, NoPlace, StageError
 from begunended.program import Program
-from begunended.toldat import telling_at
 from begunended.tokens import WORDS, is_figure
+from begunended.told import telling_at
 
 
 def names(program):

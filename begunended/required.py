@@ -21,7 +21,7 @@ class RequiredRegion(Region):
     """The region of the whole text, which tells a name when it is first asked for: most texts use few."""
 
     def __init__(self):
-        Region.__init__(self, None, 0)
+        super().__init__(None, 0)
         self.integer = integer_kind()
         self.boolean = ordinal_kind("boolean", 0, 1)
         self.char = ordinal_kind("char", 32, 126)

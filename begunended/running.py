@@ -4,12 +4,12 @@ from begunended.engine import Engine
 from begunended.errors import BadFuel, BadInputs, BadNumber, Trap
 from begunended.files import are_contents
 from begunended.frames import labels_of, run_proc
+from begunended.kindforms import layout_text
 from begunended.kindlore import is_file
 from begunended.kindvalues import value_cells, value_shown
 from begunended.layoutforms import LayoutTable
 from begunended.layouts import layouts
 from begunended.plaincode import made_plan
-from begunended.kindforms import layout_text
 from begunended.storage import cells_to_read
 from begunended.values import is_integer
 
@@ -81,7 +81,7 @@ class Runner:
         procs = {}
         self.by_name = {}
         for telling, code in self.plan.codes.items():
-            name = "p" + str(telling.number)
+            name = code.proc_name()
             proc = run_proc(name, code.depth, code.takes, code.names, table)
             proc.rows = code.rows
             proc.labels = labels_of(code.rows)
@@ -125,19 +125,20 @@ class Runner:
         for telling in code.named:
             # A result is told by the routine's name, which any other thing may hide.
             if telling.word != "routine" or telling.name not in found:
-                found[telling.name] = self.thing_told(telling, frame.things[code.numbers[telling]])
+                found[telling.name] = thing_shown(telling, frame.things[code.numbers[telling]])
         return tuple([(name, found[name]) for name in sorted(found)])
 
-    def thing_told(self, telling, place):
-        """The value of a parameter, a variable, or a result."""
-        if telling.calling is not None and telling.word == "parameter":
-            return "routine"
-        if is_file(telling.kind):
-            return "file"
-        if place[0].box is not None:
-            return "window"
-        try:
-            cells = cells_to_read(place)
-        except Trap as trap:
-            return trap.value
-        return value_shown(telling.kind, place[2], cells, place[1])
+
+def thing_shown(telling, place):
+    """The value of a parameter, a variable, or a result, in this place."""
+    if telling.calling is not None and telling.word == "parameter":
+        return "routine"
+    if is_file(telling.kind):
+        return "file"
+    if place[0].box is not None:
+        return "window"
+    try:
+        cells = cells_to_read(place)
+    except Trap as trap:
+        return trap.value
+    return value_shown(telling.kind, place[2], cells, place[1])

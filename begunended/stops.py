@@ -11,7 +11,7 @@ def stops(program):
     for code in plan.codes.values():
         for at, row in enumerate(code.rows):
             if row[0] == "step":
-                found.append((row[2], len(found), "p" + str(code.telling.number), at))
+                found.append((row[2], len(found), code.proc_name(), at))
     return tuple([(*plan.facts.place(token), proc, at) for token, _, proc, at in sorted(found)])
 
 

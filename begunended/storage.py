@@ -4,6 +4,9 @@ A place is a tuple: the area, where in its cells the place begins, the layout th
 arms that it was found through: pairs of where the living arm is told, and the arm. Cells that are
 unset hold None, and so does what tells the living arm, if none lives. Truths lie as bools, signs as
 strings, sets as integers with a bit for each member.
+
+An origin tells where places in an area begin: ("name", number of the frame, number of the thing),
+("piece", number), ("window", frame, thing), ("string",).
 """
 
 from begunended.errors import Trap
@@ -14,21 +17,31 @@ from begunended.layoutforms import Layout
 class Area:
     """Cells that lie together: a thing, a piece, signs that were told, or the window of a file."""
 
-    def __init__(self, cells, box):
+    def __init__(self, cells, box, origin):
         self.cells = cells
         self.box = box
+        self.origin = origin
         self.is_gone = False
 
 
 class FileBox:
     """A file of a frame, its window, and whether it was ever rewritten."""
 
-    def __init__(self, layout, contents):
+    def __init__(self, layout, contents, origin):
+        self.box_layout = layout
+        self.origin = origin
         self.is_text_box = not layout.parts
         self.file = File("text" if self.is_text_box else "things", contents)
         self.member = Layout("cell", "c", []) if self.is_text_box else layout.parts[0]
-        self.window = Area(fresh_cells(self.member), self)
+        self.window = Area(fresh_cells(self.member), self, ("window", *origin[1:]))
         self.was_rewritten = False
+
+    def twin(self):
+        """A file alike, whose window is not set yet."""
+        other = FileBox(self.box_layout, None, self.origin)
+        other.file = self.file.copied()
+        other.was_rewritten = self.was_rewritten
+        return other
 
     def cells_seen(self):
         """The cells of the window, or those of the thing that is next."""
@@ -63,11 +76,11 @@ def fresh_cells(layout):
     return [None for _ in range(layout.size)]
 
 
-def fresh_place(layout):
+def fresh_place(layout, origin):
     """The place of a new thing of this layout, which may be a file."""
     if layout.form == "file":
-        return FileBox(layout, None), 0, layout, ()
-    return Area(fresh_cells(layout), None), 0, layout, ()
+        return FileBox(layout, None, origin), 0, layout, ()
+    return Area(fresh_cells(layout), None, origin), 0, layout, ()
 
 
 def window_place(box):

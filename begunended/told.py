@@ -1,5 +1,6 @@
 """What a text tells: names, regions, labels, and what is found out of all of it."""
 
+from begunended.values import is_place
 
 class Telling:
     """A name that is told: what it is told as, and the number of its token (None for required names).
@@ -132,3 +133,23 @@ class Facts:
     def place(self, token):
         """The line and the column of the token with this number."""
         return self.rows[token][2:]
+
+
+def telling_at(facts, place):
+    """The telling at this line and column, None if there is none."""
+    if not is_place(place):
+        return None
+    for telling in facts.tellings:
+        if facts.place(telling.token) == place:
+            return telling
+    return None
+
+
+def kind_at(facts, place):
+    """The kind of the variable, parameter (value, var) or field that is told here, or None."""
+    telling = telling_at(facts, place)
+    if telling is None:
+        return None
+    if telling.word in ("variable", "field") or telling.mode == "value" or telling.mode == "var":
+        return telling.kind
+    return None

@@ -13,7 +13,7 @@ class ValueChecks(KindChecks):
     """The places and expressions of a text; routines are those in whose blocks they stand."""
 
     def __init__(self, rows):
-        KindChecks.__init__(self, rows)
+        super().__init__(rows)
         self.nothing = Kind("nil")
         self.no_members = Kind("[]")
         self.routines = []

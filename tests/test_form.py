@@ -11,7 +11,7 @@ from tests.test_interface import METHODS as OFFERED
 
 BUILTINS = set(
     "len range enumerate zip min max sum abs sorted reversed int str bool bytes list tuple dict set frozenset"
-    " isinstance ord repr any all divmod pow ValueError type".split())
+    " isinstance ord repr any all divmod pow ValueError type super".split())
 METHODS = set(
     "append clear copy count endswith extend find get index insert isalnum isalpha isdigit islower isspace isupper"
     " items join keys ljust lower lstrip partition pop remove replace reverse rfind rjust rpartition rsplit rstrip"
@@ -21,7 +21,7 @@ BUILTIN_ATTRIBUTES = {
 BARRED = set(
     "register mro elements open input law version_info with_traceback add_note attrgetter breakpoint builtins compile"
     " copyright credits delattr dir eval exec exit gc getattr globals hasattr help id importlib license locals"
-    " methodcaller os quit setattr super vars sys __name__ args".split())
+    " methodcaller os quit setattr vars sys __name__ args".split())
 WORDS = set(
     "typing typing_extensions enum Enum IntEnum StrEnum Flag IntFlag Generic Protocol ABC ABCMeta namedtuple"
     " NamedTuple TypedDict TYPE_CHECKING abstractmethod dataclass overload contextmanager".split())
@@ -240,7 +240,8 @@ class FormTest(unittest.TestCase):
                 for node in ast.walk(owner):
                     if isinstance(node, ast.Attribute) and isinstance(node.ctx, ast.Store):
                         attributes.setdefault(node.attr, set()).add(owner.name)
-        self.assertEqual(set(methods) & set(attributes), set())
+        # Errors keep a value, a desk tells that of a name: L18 lets it, as no method is read off a class.
+        self.assertEqual(set(methods) & set(attributes), {"value"})
         self.assertEqual(properties & (set(methods) | set(attributes)), set())
         self.assertEqual(properties & BUILTIN_ATTRIBUTES, set())
         self.assertEqual(set(attributes) & (BUILTIN_ATTRIBUTES - {"count", "index"}), set())
@@ -281,6 +282,44 @@ class FormTest(unittest.TestCase):
             for node in ast.walk(tree):
                 if isinstance(node, ast.Name) and node.id in classes and node not in fine:
                     self.refuse(name, node, "L18")
+
+    def test_stars_of_calls(self):
+        for name, node in self.nodes(ast.Call):
+            for arg in node.args:
+                if isinstance(arg, ast.Starred) and not isinstance(arg.value, (ast.Name, ast.Attribute)):
+                    self.refuse(name, node, "L7")
+            self.assertFalse([keyword for keyword in node.keywords if keyword.arg is None], name)
+
+    def test_methods_are_not_read_off_classes(self):
+        classes = {node.name for _, node in self.nodes(ast.ClassDef)}
+        for name, node in self.nodes(ast.Attribute):
+            if isinstance(node.value, ast.Name) and node.value.id in classes:
+                self.refuse(name, node, "L18")
+            if isinstance(node.value, ast.Call) and isinstance(node.value.func, ast.Name):
+                if node.value.func.id == "super":
+                    self.assertEqual(node.attr, "__init__")
+
+    def test_loops_leave_what_they_go_over(self):
+        changing = ("append", "extend", "insert", "pop", "remove", "clear", "update", "setdefault", "reverse")
+        for name, loop in self.nodes(ast.For):
+            over = loop.iter
+            while isinstance(over, ast.Call) and over.args and isinstance(over.func, ast.Name):
+                if over.func.id not in ("enumerate", "zip", "reversed"):
+                    break
+                over = over.args[0]
+            if isinstance(over, ast.Call) and isinstance(over.func, ast.Attribute):
+                over = over.func.value
+            if not isinstance(over, (ast.Name, ast.Attribute)):
+                continue
+            told = ast.dump(over).replace("Store", "Load")
+            for node in [part for statement in loop.body for part in ast.walk(statement)]:
+                changed = None
+                if isinstance(node, ast.Subscript) and isinstance(node.ctx, (ast.Store, ast.Del)):
+                    changed = node.value
+                if isinstance(node, ast.Call) and isinstance(node.func, ast.Attribute) and node.func.attr in changing:
+                    changed = node.func.value
+                if changed is not None and ast.dump(changed).replace("Store", "Load") == told:
+                    self.refuse(name, node, "L23")
 
     def test_zips_are_iterated_at_once(self):
         for name, tree in self.trees.items():

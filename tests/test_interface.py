@@ -1,4 +1,4 @@
-"""The interface: all that is offered so far stands in the file that the document names."""
+"""The interface: all that is offered stands in the file that the document names."""
 
 import ast
 import importlib
@@ -7,7 +7,7 @@ import unittest
 
 from tests.common import PACKAGE
 
-# What has landed so far, by files.
+# What is offered, by files.
 INTERFACE = {
     "tokens": ["tokens"],
     "trees": ["tree", "beginning"],
@@ -32,6 +32,16 @@ INTERFACE = {
     "checking": ["led", "checked", "shows_checked", "never_come"],
     "depths": [
         "work_needed", "shows_work_needed", "least_work", "calls", "never_called", "frames_needed", "shows_frames_needed"],
+    "machine": ["Machine", "run_unit"],
+    "claims": ["private", "ends_of"],
+    "surely": ["claims", "all_claims", "closed", "sure_rows", "set_ways", "shows_set_ways"],
+    "seams": ["Seam", "joined_seam"],
+    "judging": ["judged"],
+    "passes": ["bettered", "kept", "made_seam"],
+    "showing": ["names_in", "shown_in"],
+    "edits": ["edited", "anew"],
+    "desk": ["Desk"],
+    "journals": ["journal", "read_journal"],
 }
 PARAMETERS = {
     "tokens": "text", "tree": "text", "beginning": "text", "printed": "tree", "needed_brackets": "tree",
@@ -47,6 +57,13 @@ PARAMETERS = {
     "led": "unit proc row shape", "checked": "unit", "shows_checked": "unit value", "never_come": "unit",
     "work_needed": "unit proc", "shows_work_needed": "unit proc value", "least_work": "unit", "calls": "unit",
     "never_called": "unit", "frames_needed": "unit", "shows_frames_needed": "unit value",
+    "Machine": "unit inputs", "run_unit": "unit inputs fuel", "private": "unit proc", "ends_of": "unit",
+    "claims": "unit proc row", "all_claims": "unit", "closed": "unit value", "sure_rows": "unit proc",
+    "set_ways": "unit proc row name", "shows_set_ways": "unit proc row name value", "Seam": "text",
+    "joined_seam": "one other", "judged": "left right seam", "bettered": "unit passes", "kept": "unit passes",
+    "made_seam": "unit passes", "names_in": "program number", "shown_in": "program machine name",
+    "edited": "program first last lines", "anew": "program other", "Desk": "program inputs", "journal": "desk",
+    "read_journal": "text",
 }
 METHODS = {
     "File": {
@@ -60,6 +77,15 @@ METHODS = {
         "room": "", "numbered": "", "pieces": "", "free": "",
     },
     "Unit": {"outer": "proc", "level": "proc", "code": "proc"},
+    "Machine": {
+        "files": "", "workspace": "", "step": "", "run": "most", "run_to": "proc row most", "back": "many",
+        "contents": "frame number", "piece": "number", "linked": "frame", "copied": "", "at_line": "", "frames": "",
+    },
+    "Desk": {
+        "mark": "line", "step": "", "over": "", "go": "", "back": "", "edit": "first last lines", "undo": "", "redo": "",
+        "where": "", "ending": "", "value": "name", "callers": "", "written": "", "trial": "", "keep": "",
+        "tried": "look", "copy": "", "program": "", "marked": "", "stop": "", "done": "",
+    },
 }
 
 
