@@ -93,7 +93,51 @@ def parameters_of(function):
     return " ".join(arg.arg for arg in function.args.args if arg.arg != "self")
 
 
+TEXT = "program p(output); type l = ^r; r = record n: integer; m: integer end; var a: integer; b: l;\nbegin a := 1; new(b); write(a) end."
+UNIT = "layout l0 (n,^l0)\nproc p0 -\ntakes\ngives -\nnames n\nfiles\nwork 2\nplace 0 0\nnum 1\nstore\nleave\nend"
+
+
+def given_values():
+    """For each function, and each class but those without equality, arguments that it takes."""
+    from begunended.desk import Desk
+    from begunended.machine import Machine
+    from begunended.program import Program
+    from begunended.seams import Seam
+    from begunended.trees import tree
+    from begunended.units import Unit
+    from begunended.words import words
+    program, unit, seam = Program(TEXT), Unit(UNIT), Seam("proc p0\nmatch 0 0")
+    desk = Desk(program, ())
+    compiled_unit = importlib.import_module("begunended.compiling").compiled(program)
+    return {
+        "tokens": (TEXT,), "tree": (TEXT,), "beginning": (TEXT,), "printed": (tree(TEXT),), "needed_brackets": (tree(TEXT),), "Program": (TEXT,),
+        "names": (program,), "tellings": (program,), "routines": (program,), "jumps": (program,), "renamed": (program, 1, 76, "c"), "expressions": (program,),
+        "same_kind": (program, (1, 76), (1, 76)), "agree": (program, (1, 76), (1, 76)), "layout_of": (program, (1, 76)), "layouts": (program,), "shown": (3, 4),
+        "File": ("text", "a"), "Heap": (9,), "run": (program, (), 9), "seen": (program, (), 1), "set_names": ("a",), "worth": ("a", (("a", (1,)),)),
+        "holds": ("1 in a", (("a", (1,)),)), "same_sets": ("a", "b"), "shows_same_sets": ("a", "b", 3), "follows": ((), "a = a"), "shows_follows": ((), "a = a", 3),
+        "sure": (("1 in a",), "a"), "least_quarrels": ((),), "cells_of": ("n",), "Unit": (UNIT,), "words": (unit,), "unit_of": (words(unit),), "joined": ((unit,),),
+        "case_way": ((1, 2),), "compiled": (program,), "stops": (program,), "numbers": (program,), "led": (unit, "p0", 0, ()), "checked": (unit,),
+        "shows_checked": (unit, 3), "never_come": (unit,), "work_needed": (unit, "p0"), "shows_work_needed": (unit, "p0", 3), "least_work": (unit,), "calls": (unit,),
+        "never_called": (unit,), "frames_needed": (unit,), "shows_frames_needed": (unit, 3), "Machine": (unit, ()), "run_unit": (unit, (), 9), "private": (unit, "p0"),
+        "ends_of": (unit,), "claims": (unit, "p0", 0), "all_claims": (unit,), "closed": (unit, 3), "sure_rows": (unit, "p0"), "set_ways": (unit, "p0", 0, 0),
+        "shows_set_ways": (unit, "p0", 0, 0, 3), "Seam": (seam.text,), "joined_seam": (seam, seam), "judged": (unit, unit, seam), "bettered": (unit, ("pairs",)),
+        "kept": (unit, ("pairs",)), "made_seam": (unit, ("pairs",)), "names_in": (program, 0), "shown_in": (program, Machine(compiled_unit, ()), "a"),
+        "edited": (program, 1, 0, ()), "anew": (program, program), "Desk": (program, ()), "journal": (desk,), "read_journal": ("program 1\nprogram p; begin end.\ndeeds",)}
+
+
 class InterfaceTest(unittest.TestCase):
+    def test_arguments_by_position_and_by_name(self):
+        given = given_values()
+        for file, names in INTERFACE.items():
+            module = importlib.import_module("begunended." + file)
+            for name in names:
+                function = getattr(module, name)
+                words = PARAMETERS[name].split(" ")
+                self.assertEqual(len(words), len(given[name]), name)
+                self.assertEqual(function(*given[name]), function(**dict(zip(words, given[name]))), name)
+                if len(words) > 1:
+                    self.assertEqual(function(*given[name]), function(given[name][0], **dict(zip(words[1:], given[name][1:]))), name)
+
     def test_names_are_defined_in_their_files(self):
         for file, names in INTERFACE.items():
             with open(os.path.join(PACKAGE, file + ".py"), encoding="utf-8") as source:

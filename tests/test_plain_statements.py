@@ -5,8 +5,12 @@ import unittest
 from begunended.checking import checked
 from begunended.compiling import compiled
 from begunended.depths import least_work
-from begunended.errors import TooLong
+from begunended.desk import Desk
+from begunended.edits import anew
+from begunended.errors import NoPlace, TooLong
+from begunended.machine import Machine
 from begunended.program import Program
+from begunended.showing import shown_in
 from begunended.stops import numbers, stops
 from tests.common import Refusing
 from tests.test_plain_values import body_rows, code_of, rows
@@ -194,16 +198,32 @@ class PlainStatementsTest(unittest.TestCase):
         self.assertEqual(numbers(Program(text)), ((), (("a", 0), ("f", 1), ("f", 2), ("g", 3))))
 
 
+SHORT = Program("program p; begin end.")
+
+
 class TooLongTest(Refusing, unittest.TestCase):
     def long(self, number, text):
         program = Program(text)
         self.refused(TooLong, number, compiled, program)
         self.refused(TooLong, number, stops, program)
+        # Ahead of all else that is wrong.
+        self.refused(TooLong, number, anew, program, SHORT)
+        self.refused(TooLong, number, anew, SHORT, program)
+        self.refused(TooLong, number, shown_in, program, Machine(compiled(SHORT), ()), 3)
+        self.refused(TooLong, number, Desk, program, 3)
+        self.refused(TooLong, number, Desk(SHORT, ()).edit, 1, 1, (text,))
 
     def fine(self, text):
-        unit = compiled(Program(text))
+        program = Program(text)
+        unit = compiled(program)
         self.assertEqual(checked(unit)[0], "let")
         self.assertEqual(least_work(unit), unit)
+        self.assertGreater(len(stops(program)), 0)
+        self.assertEqual(anew(program, program), ())
+        self.refused(NoPlace, 3, shown_in, program, Machine(unit, ()), 3)
+        desk = Desk(SHORT, ())
+        desk.edit(1, 1, (text,))
+        self.assertEqual([desk.program, Desk(program, ()).where()], [program, desk.where()])
         return unit
 
     def test_rows(self):

@@ -1,0 +1,18 @@
+"""Every example of the document, as it stands there: tests/document_examples.txt holds them in sequence."""
+
+import doctest
+import os
+import unittest
+
+EXAMPLES = os.path.join(os.path.dirname(os.path.abspath(__file__)), "document_examples.txt")
+
+
+class DocumentTest(unittest.TestCase):
+    def test_examples(self):
+        found = doctest.testfile(EXAMPLES, module_relative=False)
+        self.assertEqual(found.failed, 0)
+        self.assertEqual(found.attempted, 55)
+
+
+if __name__ == "__main__":
+    unittest.main()
