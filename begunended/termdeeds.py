@@ -263,7 +263,7 @@ def do_value(walker, side, order, row):
 
 # Orders that do not stand here are those over values.
 TERM_DEEDS = {
-    "value": do_value, "num": leave_told, "truth": leave_told, "sign": leave_told, "set": leave_told, "nil": leave_told,
+    "num": leave_told, "truth": leave_told, "sign": leave_told, "set": leave_told, "nil": leave_told,
     "string": do_string, "place": do_place, "handed": leave_told, "bind": do_bind, "field": do_field, "arm": do_way,
     "become": do_putting, "lives": do_lives, "index": do_index, "aim": do_way, "window": do_window, "load": do_load,
     "store": do_store, "move": do_move, "unset": do_unset, "drop": do_drop, "dup": do_dup, "text": do_text,

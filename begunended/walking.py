@@ -4,7 +4,7 @@ from begunended.errors import Wide
 from begunended.flows import LAST
 from begunended.pairs import is_hidden
 from begunended.sides import Refused
-from begunended.termdeeds import NONE_PUT, TERM_DEEDS
+from begunended.termdeeds import NONE_PUT, TERM_DEEDS, do_value
 from begunended.terms import MOST_WAYS
 
 CASE_TRAP = ("trap", "case")
@@ -40,26 +40,28 @@ class Walker:
         heading = self.flow.unit.signature_headings[order[1]]
         return heading.takes, heading.gives
 
-    def go_by(self, side, row):
-        """Goes by a row behind which the next one, or a label, is: the number of the row that is next."""
+    def note_row(self, side, row):
+        """Keeps in mind that a way goes by a row: no way goes by one twice."""
         if row in side.gone_by:
             raise Wide(MOST_WAYS)
         side.gone_by[row] = True
+
+    def go_by(self, side, row):
+        """Goes by a row behind which the next one, or a label, is: the number of the row that is next."""
+        self.note_row(side, row)
         order = self.proc.orders[row]
         if order[0] == "jump":
             return self.proc.labels[order[1]]
         if order[0] == "line":
             side.line = order[1]
         elif order[0] != "label":
-            deed = TERM_DEEDS[order[0]] if order[0] in TERM_DEEDS else TERM_DEEDS["value"]
+            deed = TERM_DEEDS.get(order[0], do_value)
             deed(self, side, order, row)
         return row + 1
 
     def end(self, side, row):
         """Does a row behind which this proc does not go on: leave, far, trap."""
-        if row in side.gone_by:
-            raise Wide(MOST_WAYS)
-        side.gone_by[row] = True
+        self.note_row(side, row)
         order = self.proc.orders[row]
         terms = ()
         if order[0] == "leave" and self.proc.gives != "-" and len(self.proc.takes) in side.names:
@@ -80,9 +82,7 @@ class Walker:
 
     def part(self, side, row):
         """Takes the upper thing at a row that parts ways: its term."""
-        if row in side.gone_by:
-            raise Wide(MOST_WAYS)
-        side.gone_by[row] = True
+        self.note_row(side, row)
         return side.take()
 
     def is_last(self, row):

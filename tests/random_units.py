@@ -44,8 +44,10 @@ class UnitWalk:
         if roll < 0.6:
             return ["place 0 " + rolls.choice("2233234")]
         return rolls.choice((
-            ["place 0 8", "num " + rolls.choice("0123"), "index 1 3"], ["place 0 8", *self.number(0), "index 1 3"], ["place 0 9", "field 0"],
-            ["place 0 9", "field 1", "arm 0", "field 0"], ["place 0 10", "load", "aim", "field 0"], ["place 0 11"], ["place 0 14", "window"]))
+            ["place 0 8", "num " + rolls.choice("0123"), "index 1 3"], ["place 0 8", *self.number(0), "index 1 3"],
+            ["place 0 9", "field 0"],
+            ["place 0 9", "field 1", "arm 0", "field 0"], ["place 0 10", "load", "aim", "field 0"], ["place 0 11"],
+            ["place 0 14", "window"]))
 
     def number(self, deep):
         """Rows that leave a number."""
@@ -79,7 +81,8 @@ class UnitWalk:
             return [*self.truth(deep - 1), *self.truth(deep - 1), rolls.choice(("and", "or"))]
         if roll < 0.86 or self.proc != "p0":
             return [*self.number(deep - 1), "odd"]
-        return rolls.choice((["place 0 5", "load"], [*self.number(deep - 1), "place 0 7", "load", "in"], ["place 0 0", rolls.choice(("eof", "eoln"))]))
+        return rolls.choice((["place 0 5", "load"], [*self.number(deep - 1), "place 0 7", "load", "in"],
+            ["place 0 0", rolls.choice(("eof", "eoln"))]))
 
     def sequence(self, deep, most):
         rows = []
@@ -131,11 +134,16 @@ class UnitWalk:
         if self.proc == "p2":
             return ["place 0 2", *self.number(1), "store"]
         return rolls.choice((
-            ["place 0 1", *self.number(2), "num 1", "writen"], ["place 0 1", *self.number(2), "num 1", "writen"], [*self.place(), "place 0 0", "readn", "store"],
-            [*self.number(1), *self.place(), "call p1"], ["place 0 5", *self.truth(2), "store"], ["place 0 7", *self.number(1), "one", "store"],
-            ["place 0 7", "place 0 7", "load", "set 2 3 4", "join", "within 0 9", "store"], ["place 0 9", "field 1", rolls.choice(("become 0", "become 1"))],
-            ["place 0 9", *self.number(0), "lives 0 1 1 2 0"], ["place 0 10", "new"], ["place 0 10", "load", "gone"], [*self.place(), "bind 11"],
-            [*self.place(), "unset"], ["place 0 6", *self.number(0), "chr", "store"], ["place 0 14", rolls.choice(("rewrite", "reset", "put", "get"))],
+            ["place 0 1", *self.number(2), "num 1", "writen"], ["place 0 1", *self.number(2), "num 1", "writen"],
+            [*self.place(), "place 0 0", "readn", "store"],
+            [*self.number(1), *self.place(), "call p1"], ["place 0 5", *self.truth(2), "store"],
+            ["place 0 7", *self.number(1), "one", "store"],
+            ["place 0 7", "place 0 7", "load", "set 2 3 4", "join", "within 0 9", "store"],
+            ["place 0 9", "field 1", rolls.choice(("become 0", "become 1"))],
+            ["place 0 9", *self.number(0), "lives 0 1 1 2 0"], ["place 0 10", "new"], ["place 0 10", "load", "gone"],
+            [*self.place(), "bind 11"],
+            [*self.place(), "unset"], ["place 0 6", *self.number(0), "chr", "store"],
+            ["place 0 14", rolls.choice(("rewrite", "reset", "put", "get"))],
             ["place 0 1", "writeln"], ["place 0 0", "readln"], ["place 0 1", "string 97 98", "num 2", "writes"]))
 
     def begun(self, *choices):
@@ -149,18 +157,22 @@ class UnitWalk:
     def unit(self):
         """The text of the unit."""
         begin = self.begun(
-            (1, "line 1; place 0 0; reset; place 0 1; rewrite; place 0 2; num 1; store; place 0 3; num 2; store"), (0.8, "place 0 4; num 3; store"),
+            (1, "line 1; place 0 0; reset; place 0 1; rewrite; place 0 2; num 1; store; place 0 3; num 2; store"),
+            (0.8, "place 0 4; num 3; store"),
             (0.8, "place 0 8; num 1; index 1 3; num 4; store; place 0 8; num 2; index 1 3; num 4; store; place 0 8; num 3; index 1 3; num 4; store"),
-            (0.8, "place 0 10; new; place 0 10; load; aim; field 0; num 2; store"), (0.8, "place 0 4; bind 11"), (0.8, "place 0 14; rewrite; place 0 9; field 1; become 0"),
+            (0.8, "place 0 10; new; place 0 10; load; aim; field 0; num 2; store"), (0.8, "place 0 4; bind 11"),
+            (0.8, "place 0 14; rewrite; place 0 9; field 1; become 0"),
             (0.8, "place 0 6; sign 65; store; place 0 7; set 1 5; store; place 0 5; truth 1; store; place 0 9; field 0; num 6; store"))
         code = [*begin, *self.sequence(2, 7), "line 7"]
         far = self.new_label() if self.rolls.random() < 0.3 else None
         if far is not None:
             code += [f"label {far}", *self.sequence(1, 2)]
         rows = ["layout l0 (n,^l0)", "proc p0 -", "takes", "gives -", "names " + PROGRAM, "files input output", "work 99", *code]
-        rows += ["place 0 1", "place 0 2", "load", "num 3", "writen", "leave", "end", "proc p1 p0", "takes n &n", "gives -", "names n t &(n,c) (n,c)", "work 99"]
+        rows += ["place 0 1", "place 0 2", "load", "num 3", "writen", "leave", "end", "proc p1 p0", "takes n &n", "gives -",
+            "names n t &(n,c) (n,c)", "work 99"]
         self.proc, self.labels = "p1", 0
-        rows += self.begun((1, "line 8"), (0.8, "place 0 2; num 1; store"), (0.8, "place 0 5; field 0; num 1; store; place 0 5; bind 4")) + self.sequence(2, 3)
+        rows += self.begun((1, "line 8"), (0.8, "place 0 2; num 1; store"), (0.8,
+            "place 0 5; field 0; num 1; store; place 0 5; bind 4")) + self.sequence(2, 3)
         if far is not None:
             behind = self.new_label()
             rows += [*self.truth(1), f"unless {behind}", f"far 1 {far}", f"label {behind}"]

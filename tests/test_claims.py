@@ -49,7 +49,8 @@ class OrdersTest(Claiming, unittest.TestCase):
         self.assertEqual([self.stretch("truth 0"), self.stretch("truth 1"), self.stretch("sign 70")], [(0, 0), (1, 1), (70, 70)])
         self.assertIsNone(self.upper("set 1"))
         self.assertIsNone(self.upper("place 0 1"))
-        self.assertEqual([self.stretch(rows) for rows in ("place 0 0; readn", "place 0 0; readc", "place 0 0; eof")], [FULL, (32, 126), (0, 1)])
+        self.assertEqual([self.stretch(rows) for rows in ("place 0 0; readn", "place 0 0; readc", "place 0 0; eof")],
+            [FULL, (32, 126), (0, 1)])
 
     def test_looks(self):
         self.assertEqual(self.stretch(self.between(3, 9)), (3, 9))
@@ -121,7 +122,8 @@ class OrdersTest(Claiming, unittest.TestCase):
 
     def test_truths(self):
         some = "place 0 0; eof"
-        self.assertEqual([self.stretch("truth 0; not"), self.stretch("truth 1; not"), self.stretch(some + "; not")], [(1, 1), (0, 0), (0, 1)])
+        self.assertEqual([self.stretch("truth 0; not"), self.stretch("truth 1; not"), self.stretch(some + "; not")],
+            [(1, 1), (0, 0), (0, 1)])
         self.assertEqual(self.stretch(f"{some}; truth 0; and"), (0, 0))
         self.assertEqual(self.stretch(f"truth 1; {some}; and"), (0, 1))
         self.assertEqual(self.stretch(f"{some}; truth 1; or"), (1, 1))
@@ -197,7 +199,8 @@ class StemsTest(Claiming, unittest.TestCase):
         self.assertEqual(self.upper(tests + "; place 0 2; unset")[3], ((1, 0, "lt", 5, 5),))
 
     def test_dup(self):
-        self.assertEqual(self.state((self.got(3, 9) + "; num 5; le; dup").split("; "), "<text> n")[1], ((0, 1, None, ((1, 0, "le", 5, 5),)),) * 2)
+        self.assertEqual(self.state((self.got(3, 9) + "; num 5; le; dup").split("; "), "<text> n")[1],
+            ((0, 1, None, ((1, 0, "le", 5, 5),)),) * 2)
 
     def test_tests_of_comparisons(self):
         rows = "place 0 2; num 7; store; " + self.got(3, 9)
@@ -333,7 +336,8 @@ class JoiningTest(Claiming, unittest.TestCase):
         more = proc("p1", "p0", "", "n", "n", "truth 0; unless 1; leave; label 1; place 0 0; num 7; store; leave".split("; "))
         self.assertEqual(self.at("call p1; trap case", 1, more=more)[1], ((7, 7, None, ()),))
         # What is not private may be anything; a set is no cell.
-        more = proc("p1", "p0", "", "n", "n", ["place 0 0", "call p2", "leave"]) + proc("p2", "p0", "&n", "-", "", ["place 0 0", "num 3", "store", "leave"])
+        more = proc("p1", "p0", "", "n", "n", ["place 0 0", "call p2", "leave"]) + proc("p2", "p0", "&n", "-", "",
+            ["place 0 0", "num 3", "store", "leave"])
         self.assertEqual(self.at("call p1; trap case", 1, more=more)[1], ((*FULL, None, ()),))
         more = proc("p1", "p0", "", "s", "s", ["leave"])
         self.assertEqual(self.at("call p1; trap case", 1, more=more)[1], (None,))
@@ -387,7 +391,8 @@ class AllClaimsTest(Claiming, unittest.TestCase):
                 pass
 
     def test_the_example(self):
-        rows = ["place 0 0", "num 3", "store", "label 1", "place 0 0", "load", "num 0", "gt", "unless 2", "place 0 0", "place 0 0", "load", "num 1",
+        rows = ["place 0 0", "num 3", "store", "label 1", "place 0 0", "load", "num 0", "gt", "unless 2", "place 0 0", "place 0 0", "load",
+            "num 1",
                 "sub", "store", "jump 1", "label 2", "leave", "end"]
         down = Unit("\n".join(["proc p0 -", "takes", "gives -", "names n", "files", "work 3"] + rows))
         told = [claims(down, "p0", 9), claims(down, "p0", 17), claims(down, "p0", 8)[1]]
@@ -398,7 +403,8 @@ class AllClaimsTest(Claiming, unittest.TestCase):
         unit = unit_of_rows(["line 1", "call p1", "jump 1", "call p2", "label 1", "leave"], "n", more=more)
         names = ((0, False, None, None),)
         self.assertEqual(all_claims(unit), (
-            ("p0", 0, names, ()), ("p0", 1, names, ()), ("p0", 2, names, ()), ("p0", 4, names, ()), ("p0", 5, names, ()), ("p1", 0, (), ())))
+            ("p0", 0, names, ()), ("p0", 1, names, ()), ("p0", 2, names, ()), ("p0", 4, names, ()), ("p0", 5, names, ()),
+            ("p1", 0, (), ())))
         self.assertEqual(claims(unit=unit, proc="p1", row=0), ((), ()))
 
     def test_errors(self):

@@ -4,7 +4,8 @@ import unittest
 
 from begunended.desk import Desk
 from begunended.errors import (
-    BadInputs, BadKind, BadLine, BadLines, BadSyntax, BadText, Ended, Long, NoPlace, NoTrial, NothingAhead, NothingToRedo, NothingToUndo, TooLong)
+    BadInputs, BadKind, BadLine, BadLines, BadSyntax, BadText, Ended, Long, NoPlace, NoTrial, NothingAhead, NothingToRedo, NothingToUndo,
+    TooLong)
 from begunended.journals import journal
 from begunended.program import Program
 from begunended.running import run, seen
@@ -40,7 +41,8 @@ def told(desk):
             names[name] = desk.value(name)
         except NoPlace:
             pass
-    return (desk.program.text, desk.marked, desk.stop, desk.done, len(desk), desk.where(), desk.ending(), desk.callers(), desk.written(), names)
+    return (desk.program.text, desk.marked, desk.stop, desk.done, len(desk), desk.where(), desk.ending(), desk.callers(), desk.written(),
+        names)
 
 
 class DeedsTest(Refusing, unittest.TestCase):
@@ -162,7 +164,8 @@ class DeedsTest(Refusing, unittest.TestCase):
         program = Program("program t(output);\nvar a: integer;\nprocedure q;\nbegin\na := a div 0 end;\nbegin a := 4;\nwriteln(a: 1); q end.")
         desk = Desk(program, ())
         desk.go()
-        self.assertEqual((desk.ending(), desk.where(), desk.callers(), desk.written()), (("trap", "nought", 5), None, (), (("output", "4\n"),)))
+        self.assertEqual((desk.ending(), desk.where(), desk.callers(), desk.written()),
+            (("trap", "nought", 5), None, (), (("output", "4\n"),)))
         self.refused(NoPlace, "a", desk.value, "a")
         self.refused(Ended, ("trap", "nought", 5), desk.step)
         desk.back()
@@ -211,7 +214,8 @@ class InputsTest(Refusing, unittest.TestCase):
         desk.go()
         self.assertEqual((desk.ending(), desk.written()), (("done",), (("output", " 42\n"),)))
         self.refused(TooLong, 0, Desk, Program("program p; var a: integer; begin " + "a := 1; " * 60 + "end."), 3)
-        for inputs in (None, 3, (("input", 3),), (("output", "x"),), (("input", "a"), ("input", "b")), (("f", ("a",)),), (("f", ()),), [], (("n", ""),), (("input", "\t"),)):
+        for inputs in (None, 3, (("input", 3),), (("output", "x"),), (("input", "a"), ("input", "b")), (("f", ("a",)),), (("f", ()),), [],
+                (("n", ""),), (("input", "\t"),)):
             self.refused(BadInputs, inputs, Desk, self.READS, inputs)
 
     def test_edits_with_inputs(self):
@@ -228,7 +232,8 @@ class EditTest(Refusing, unittest.TestCase):
         desk = Desk(SUMS, ())
         desk.step()
         self.assertIsNone(desk.edit(4, 4, ("  for i := 1 to 5 do s := s + i;",)))
-        self.assertEqual((desk.stop, desk.where(), desk.done, desk.program.text), (1, (3, 1), 2, SUMS.text.replace("4 do s := s + i * i", "5 do s := s + i")))
+        self.assertEqual((desk.stop, desk.where(), desk.done, desk.program.text),
+            (1, (3, 1), 2, SUMS.text.replace("4 do s := s + i * i", "5 do s := s + i")))
         desk.go()
         self.assertEqual(desk.written(), (("output", " 15\n"),))
         desk.edit(first=5, last=5, lines=("  writeln(s: 5) end.",))
@@ -239,8 +244,10 @@ class EditTest(Refusing, unittest.TestCase):
     def test_marks(self):
         text = "program m;\nbegin\n;\n;\n;\n;\nend."
         for first, last, lines, marks in (
-                (4, 4, ("{}",), (2, 3, 5, 6, 7)), (4, 5, (), (2, 3, 4, 5)), (4, 3, ("{}", "{}"), (2, 3, 6, 7, 8, 9)), (3, 6, (";", ";", ";"), (2, 6)), (1, 0, ("{}",), (3, 4, 5, 6, 7, 8)),
-                (8, 7, ("",), (2, 3, 4, 5, 6, 7)), (2, 2, ("begin",), (3, 4, 5, 6, 7)), (7, 7, ("end.",), (2, 3, 4, 5, 6)), (1, 7, ("program m;", "begin", "end."), ())):
+                (4, 4, ("{}",), (2, 3, 5, 6, 7)), (4, 5, (), (2, 3, 4, 5)), (4, 3, ("{}", "{}"), (2, 3, 6, 7, 8, 9)),
+                (3, 6, (";", ";", ";"), (2, 6)), (1, 0, ("{}",), (3, 4, 5, 6, 7, 8)),
+                (8, 7, ("",), (2, 3, 4, 5, 6, 7)), (2, 2, ("begin",), (3, 4, 5, 6, 7)), (7, 7, ("end.",), (2, 3, 4, 5, 6)),
+                (1, 7, ("program m;", "begin", "end."), ())):
             desk = Desk(Program(text), ())
             for line in range(2, 8):
                 desk.mark(line)

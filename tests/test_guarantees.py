@@ -92,8 +92,10 @@ class KeptTest(unittest.TestCase):
 
     def test_traps_and_their_lines(self):
         for text, inputs in (
-                ("program p(output);\nbegin\nwriteln(1\ndiv 0) end.", ()), ("program p(input); var a: 1..3;\nbegin\nread(a)\nend.", (("input", "4"),)),
-                ("program p(output); function f: integer;\nbegin\nend;\nbegin\nwrite(f) end.", ()), ("program p; var i: integer; begin while\ntrue do begin\ni := i end end.", ()),
+                ("program p(output);\nbegin\nwriteln(1\ndiv 0) end.", ()), ("program p(input); var a: 1..3;\nbegin\nread(a)\nend.",
+                (("input", "4"),)),
+                ("program p(output); function f: integer;\nbegin\nend;\nbegin\nwrite(f) end.", ()),
+                ("program p; var i: integer; begin while\ntrue do begin\ni := i end end.", ()),
                 ("program p(input); begin end.", ()), ("program p; type l = ^r; r = record a: l end; var q: l; begin\nnew(q); dispose(q);\nq^.a := q end.", ())):
             program = Program(text)
             self.assertEqual(run_unit(compiled(program), inputs, 1000), run(program, inputs, 1000))

@@ -31,7 +31,8 @@ class JournalTest(Refusing, unittest.TestCase):
 
     def test_inputs(self):
         for inputs, rows in (
-                ((("input", "1\n2"),), "input input 2\n1\n2\n"), ((("f", ""), ("input", "\n")), "input f 1\n\ninput input 2\n\n\n"), ((("input", "deeds"),), "input input 1\ndeeds\n"), ((), "")):
+                ((("input", "1\n2"),), "input input 2\n1\n2\n"), ((("f", ""), ("input", "\n")), "input f 1\n\ninput input 2\n\n\n"),
+                ((("input", "deeds"),), "input input 1\ndeeds\n"), ((), "")):
             desk = Desk(READS, inputs)
             self.assertEqual(journal(desk), "program 4\n" + READS.text + "\n" + rows + "deeds")
             other = read_journal(journal(desk))
@@ -59,31 +60,43 @@ class JournalTest(Refusing, unittest.TestCase):
 
     def test_heads_that_cannot_stand(self):
         for text, number in (
-                ("", 1), ("program", 1), ("program x", 1), ("program 0", 1), ("program -1", 1), ("program 01", 1), ("program 1 1", 1), ("Program 1", 1), (" program 1", 1),
-                ("program  1", 1), ("deeds", 1), ("program 1", 2), ("program 3\na\nb", 4), ("program 99999999999999999999\na\nb", 4), ("program " + "9" * 4350 + "\na", 3),
-                ("program 1\nx", 3), ("program 1\nx\n", 3), ("program 1\nx\nstep", 3), ("program 1\nx\ndeeds ", 3), ("program 1\nx\ndeeds 1", 3), ("program 1\nx\ninput", 3),
-                ("program 1\nx\ninput a", 3), ("program 1\nx\ninput a 0", 3), ("program 1\nx\ninput A 1\n", 3), ("program 1\nx\ninput 1a 1\n", 3), ("program 1\nx\ninput a_b 1\n", 3),
-                ("program 1\nx\ninput a 1 1\n", 3), ("program 1\nx\ninput a x\n", 3), ("program 1\nx\ninput a 1", 4), ("program 1\nx\ninput a 2\ny", 5), ("program 1\nx\ninput a 1\ny", 5),
+                ("", 1), ("program", 1), ("program x", 1), ("program 0", 1), ("program -1", 1), ("program 01", 1), ("program 1 1", 1),
+                ("Program 1", 1), (" program 1", 1),
+                ("program  1", 1), ("deeds", 1), ("program 1", 2), ("program 3\na\nb", 4), ("program 99999999999999999999\na\nb", 4),
+                ("program " + "9" * 4350 + "\na", 3),
+                ("program 1\nx", 3), ("program 1\nx\n", 3), ("program 1\nx\nstep", 3), ("program 1\nx\ndeeds ", 3),
+                ("program 1\nx\ndeeds 1", 3), ("program 1\nx\ninput", 3),
+                ("program 1\nx\ninput a", 3), ("program 1\nx\ninput a 0", 3), ("program 1\nx\ninput A 1\n", 3),
+                ("program 1\nx\ninput 1a 1\n", 3), ("program 1\nx\ninput a_b 1\n", 3),
+                ("program 1\nx\ninput a 1 1\n", 3), ("program 1\nx\ninput a x\n", 3), ("program 1\nx\ninput a 1", 4),
+                ("program 1\nx\ninput a 2\ny", 5), ("program 1\nx\ninput a 1\ny", 5),
                 ("program 1\nx\ninput a 1\ny\nstep", 5), ("program +1\nx\ndeeds", 1), ("program 1.0\nx\ndeeds", 1)):
             self.refused(BadJournal, number, read_journal, text)
 
     def test_what_is_refused_at_the_row_deeds(self):
-        for text in ("program 1\nx\ndeeds", "program 1\nx\ndeeds\nnonsense", "program 2\nprogram p;\nbegin a := 1 end.\ndeeds", "program 1\nprogram p; begin end.\ninput f 1\nx\ndeeds",
-                     "program 1\nprogram p(output); begin end.\ninput output 1\nx\ndeeds", "program 1\nprogram p(input); begin end.\ninput input 1\nx\ninput input 1\nx\ndeeds",
-                     "program 1\nprogram p(input); begin end.\ninput input 1\n\t\ndeeds", "program 1\nprogram p; var a: integer; begin " + "a := 1; " * 60 + "end.\ndeeds",
+        for text in ("program 1\nx\ndeeds", "program 1\nx\ndeeds\nnonsense", "program 2\nprogram p;\nbegin a := 1 end.\ndeeds",
+            "program 1\nprogram p; begin end.\ninput f 1\nx\ndeeds",
+                     "program 1\nprogram p(output); begin end.\ninput output 1\nx\ndeeds",
+                     "program 1\nprogram p(input); begin end.\ninput input 1\nx\ninput input 1\nx\ndeeds",
+                     "program 1\nprogram p(input); begin end.\ninput input 1\n\t\ndeeds",
+                     "program 1\nprogram p; var a: integer; begin " + "a := 1; " * 60 + "end.\ndeeds",
                      "program 1\nprogram p(f); var f: file of char; begin end.\ninput f 1\na\ndeeds"):
             self.refused(BadJournal, text.split("\n").index("deeds") + 1, read_journal, text)
 
     def test_deeds_that_cannot_stand(self):
-        for rows in ("steps", "", "step 1", "over 1", "go 1", "back 1", "mark", "mark x", "mark 1 1", "mark 01", "mark -0", "mark 1.0", "undo", "redo", "Step", " step", "step ", "edit", "edit 1", "edit 1 1",
-                     "edit 1 1 x", "edit 1 x 0", "edit x 1 0", "edit 1 1 -1", "edit 1 1 1 1\nx", "program 1\nx", "deeds", "input f 1\nx", "keep", "trial"):
+        for rows in ("steps", "", "step 1", "over 1", "go 1", "back 1", "mark", "mark x", "mark 1 1", "mark 01", "mark -0", "mark 1.0",
+            "undo", "redo", "Step", " step", "step ", "edit", "edit 1", "edit 1 1",
+                     "edit 1 1 x", "edit 1 x 0", "edit x 1 0", "edit 1 1 -1", "edit 1 1 1 1\nx", "program 1\nx", "deeds", "input f 1\nx",
+                     "keep", "trial"):
             self.refused(BadJournal, 5, read_journal, HEAD + "\n" + rows)
         self.refused(BadJournal, 6, read_journal, HEAD + "\nstep\n")
 
     def test_deeds_that_are_refused(self):
         for rows, number in (
-                ("mark 0", 5), ("mark 3", 5), ("mark -1", 5), ("mark 99999999999999999999999", 5), ("back", 5), ("step\nstep\nstep", 7), ("go\nover", 6), ("go\nback\nback\nback", 8),
-                ("edit 0 1 0", 5), ("edit 1 3 0", 5), ("edit 4 3 0", 5), ("edit -1 0 0", 5), ("edit 1 2 1\nx", 5), ("mark 1\nedit 1 1 2\nprogram p;\n3\nstep", 6), ("mark 1\nedit 2 2 1\nbegin a end.", 6),
+                ("mark 0", 5), ("mark 3", 5), ("mark -1", 5), ("mark 99999999999999999999999", 5), ("back", 5), ("step\nstep\nstep", 7),
+                ("go\nover", 6), ("go\nback\nback\nback", 8),
+                ("edit 0 1 0", 5), ("edit 1 3 0", 5), ("edit 4 3 0", 5), ("edit -1 0 0", 5), ("edit 1 2 1\nx", 5),
+                ("mark 1\nedit 1 1 2\nprogram p;\n3\nstep", 6), ("mark 1\nedit 2 2 1\nbegin a end.", 6),
                 ("edit 1 1 99999999999\nx", 7), ("edit 1 1 2\nx", 7), ("step\nedit 1 1 1", 7), ("edit 9 1 3\nx", 7)):
             self.refused(BadJournal, number, read_journal, HEAD + "\n" + rows)
         loop = "program 1\nprogram l; begin while true do end.\ndeeds\nstep\ngo"

@@ -25,7 +25,8 @@ class Judging(Machines):
         """Own are further names of the right, more the procs behind the left, others those behind the right."""
         units = []
         for rows, told, procs in ((left, names, more), (right, (names + " " + own).strip(), more if others is None else others)):
-            units.append(unit_of_rows([*parted(rows), *parted(last)], told, "input output" if names.startswith("<text> <text>") else "", procs))
+            units.append(unit_of_rows([*parted(rows), *parted(last)], told, "input output" if names.startswith("<text> <text>") else "",
+                procs))
             self.assertEqual(checked(units[-1])[0], "let", (rows, checked(units[-1])))
         if seam is None:
             seam = "; ".join([f"proc {name}; match 0 0" for name in units[0].procs])
@@ -118,12 +119,14 @@ class WordsTest(Judging, unittest.TestCase):
     def test_term(self):
         left = "num 4; place 0 2; num 5; store; drop"
         seam = "proc p0; match 0 0; match 4 4; work {}"
-        for term, told in (("w0", True), ("num(4)", True), ("add(num(1),num(3))", True), ("num(5)", False), ("n2", False), ("sub(n2,num(1))", True)):
+        for term, told in (("w0", True), ("num(4)", True), ("add(num(1),num(3))", True), ("num(5)", False), ("n2", False),
+                ("sub(n2,num(1))", True)):
             found = self.judge(left, left, seam.format(term))
             self.assertEqual(found, ("sewn",) if told else ("not", "p0", 0, "term"), term)
         seam = "proc p0; match 0 0; match 3 3; {}"
         rows = "place 0 2; num 5; store; place 0 3; num 6; store"
-        for row, told in (("name 2 num(5)", True), ("name 2 n2", True), ("name 2 num(6)", False), ("lost 2", True), ("name 3 n3", True), ("name 3 n2", False)):
+        for row, told in (("name 2 num(5)", True), ("name 2 n2", True), ("name 2 num(6)", False), ("lost 2", True), ("name 3 n3", True),
+                ("name 3 n2", False)):
             found = self.judge(rows, rows, seam.format(row))
             self.assertEqual(found, ("sewn",) if told else ("not", "p0", 0, "term"), row)
         # Names of which nothing is told hold what the left's do.
@@ -173,10 +176,12 @@ class WordsTest(Judging, unittest.TestCase):
         self.refused_by("term", left, left.replace("num 5", "num 6"), seam)
         more = proc("p1", "p0", "", "-", "", ["num 1", "drop", "leave"])
         others = proc("p1", "p0", "", "-", "", ["num 1", "drop", "line 2", "leave"])
-        self.refused_by("event", "call p1", "call p1", "proc p0; match 0 0; proc p1; match 0 0; match 1 1; work w0; match 2 2", more=more, others=others, name="p1", number=2)
+        self.refused_by("event", "call p1", "call p1", "proc p0; match 0 0; proc p1; match 0 0; match 1 1; work w0; match 2 2", more=more,
+            others=others, name="p1", number=2)
         # Row by row lost, test, place come ahead of events.
         rows = "place 0 2; num 5; store; {}num 1; drop"
-        self.refused_by("lost", rows.format(""), rows.format("place 0 3; load; drop; " + WRITE.format("num 1") + "; "), "proc p0; match 0 0; lost 3; match 3 10")
+        self.refused_by("lost", rows.format(""), rows.format("place 0 3; load; drop; " + WRITE.format("num 1") + "; "),
+            "proc p0; match 0 0; lost 3; match 3 10")
 
 
 class NormalFormsTest(Judging, unittest.TestCase):
@@ -190,15 +195,19 @@ class NormalFormsTest(Judging, unittest.TestCase):
 
     def test_sums(self):
         for one, other in (
-                ("{x}; {y}; add", "{y}; {x}; add"), ("{x}; num 3; add; num 4; sub", "{x}; num 1; sub"), ("{x}; dup; add", "{x}; num 2; mul"),
-                ("{x}; {y}; add; {y}; sub", "{x}"), ("{x}; {x}; sub", "num 0"), ("{x}; neg; {y}; add", "{y}; {x}; sub"), ("num 2; {x}; {y}; add; mul", "{x}; {y}; add; dup; add"),
+                ("{x}; {y}; add", "{y}; {x}; add"), ("{x}; num 3; add; num 4; sub", "{x}; num 1; sub"),
+                ("{x}; dup; add", "{x}; num 2; mul"),
+                ("{x}; {y}; add; {y}; sub", "{x}"), ("{x}; {x}; sub", "num 0"), ("{x}; neg; {y}; add", "{y}; {x}; sub"),
+                ("num 2; {x}; {y}; add; mul", "{x}; {y}; add; dup; add"),
                 ("{x}; num -1; mul", "{x}; neg"), ("{x}; num 0; mul", "num 0"), ("num 3; num 4; add", "num 7"), ("{x}; neg; neg", "{x}")):
             self.assertTrue(self.same(one, other), (one, other))
-        for one, other in (("{x}; {y}; add", "{x}; {y}; sub"), ("{x}; {y}; sub", "{y}; {x}; sub"), ("{x}; num 1; add", "{x}"), ("{x}", "{y}"), ("{x}; num 2; mul", "{x}; num 3; mul")):
+        for one, other in (("{x}; {y}; add", "{x}; {y}; sub"), ("{x}; {y}; sub", "{y}; {x}; sub"), ("{x}; num 1; add", "{x}"),
+                ("{x}", "{y}"), ("{x}; num 2; mul", "{x}; num 3; mul")):
             self.assertFalse(self.same(one, other), (one, other))
 
     def test_products(self):
-        for one, other in (("{x}; {y}; mul", "{y}; {x}; mul"), ("{x}; sqr", "{x}; {x}; mul"), ("{x}; {y}; mul; {y}; {x}; mul; sub", "num 0"),
+        for one, other in (("{x}; {y}; mul", "{y}; {x}; mul"), ("{x}; sqr", "{x}; {x}; mul"),
+            ("{x}; {y}; mul; {y}; {x}; mul; sub", "num 0"),
                            ("{x}; num 1; add; {y}; mul", "{y}; num 1; {x}; add; mul")):
             self.assertTrue(self.same(one, other), (one, other))
         # Products of sums are not gone into.
@@ -219,22 +228,28 @@ class NormalFormsTest(Judging, unittest.TestCase):
 
     def test_comparisons(self):
         for one, other in (
-                ("{x}; {y}; lt", "{y}; {x}; gt"), ("{x}; {y}; le", "{y}; {x}; ge"), ("{x}; {y}; eq", "{y}; {x}; eq"), ("{x}; {y}; ne", "{y}; {x}; eq; not"),
+                ("{x}; {y}; lt", "{y}; {x}; gt"), ("{x}; {y}; le", "{y}; {x}; ge"), ("{x}; {y}; eq", "{y}; {x}; eq"),
+                ("{x}; {y}; ne", "{y}; {x}; eq; not"),
                 ("{x}; {y}; lt", "{x}; {y}; ge; not"), ("{x}; {y}; lt", "{x}; num 1; add; {y}; le"), ("{x}; num 3; lt", "{x}; num 2; le"),
-                ("{x}; {y}; sub; num 0; eq", "{x}; {y}; eq"), ("{t}; not; not", "{t}"), ("{t}; truth 1; and", "{t}"), ("truth 0; {t}; or", "{t}"),
-                ("{t}; truth 0; and", "truth 0"), ("{t}; truth 1; or", "truth 1"), ("{x}; {x}; eq", "truth 1"), ("{x}; num 1; add; {x}; le", "truth 0"),
+                ("{x}; {y}; sub; num 0; eq", "{x}; {y}; eq"), ("{t}; not; not", "{t}"), ("{t}; truth 1; and", "{t}"),
+                ("truth 0; {t}; or", "{t}"),
+                ("{t}; truth 0; and", "truth 0"), ("{t}; truth 1; or", "truth 1"), ("{x}; {x}; eq", "truth 1"),
+                ("{x}; num 1; add; {x}; le", "truth 0"),
                 ("{t}; ordt; num 0; eq", "{t}; truth 0; eq"), ("{x}; {y}; le; not", "{x}; {y}; gt")):
             self.assertTrue(self.truths(one, other), (one, other))
-        for one, other in (("{x}; {y}; lt", "{x}; {y}; le"), ("{x}; {y}; lt", "{y}; {x}; lt"), ("{t}", "{t}; not"), ("{t}; {x}; {y}; lt; and", "{x}; {y}; lt; {t}; and"),
+        for one, other in (("{x}; {y}; lt", "{x}; {y}; le"), ("{x}; {y}; lt", "{y}; {x}; lt"), ("{t}", "{t}; not"),
+            ("{t}; {x}; {y}; lt; and", "{x}; {y}; lt; {t}; and"),
                            ("{x}; {y}; eq", "{x}; {y}; ne")):
             self.assertFalse(self.truths(one, other), (one, other))
 
     def test_sets_and_pointers(self):
         ahead = "place 0 6; set 1 2; store; place 0 9; new; "
         for one, other, told in (
-                ("set 1; set 2; join; place 0 6; load; seq", "set 1 2; place 0 6; load; seq", True), ("set 1; place 0 6; load; sne", "set 1; place 0 6; load; seq; not", True),
+                ("set 1; set 2; join; place 0 6; load; seq", "set 1 2; place 0 6; load; seq", True),
+                ("set 1; place 0 6; load; sne", "set 1; place 0 6; load; seq; not", True),
                 ("nil l0; place 0 9; load; unlike", "nil l0; place 0 9; load; same; not", True), ("nil l0; nil l0; same", "truth 1", True),
-                ("set 1; place 0 6; load; inside", "set 1; place 0 6; load; around", False), ("num 1; place 0 6; load; in", "num 2; place 0 6; load; in", False),
+                ("set 1; place 0 6; load; inside", "set 1; place 0 6; load; around", False),
+                ("num 1; place 0 6; load; in", "num 2; place 0 6; load; in", False),
                 ("num 3; set 3 4; in", "truth 1", True), ("set 1; set 1 2; inside", "truth 1", True)):
             rows = [ahead + "place 0 1; " + truth + "; num 5; writet" for truth in (one, other)]
             self.assertEqual(self.judge(*rows) == ("sewn",), told, (one, other))
@@ -263,13 +278,18 @@ class BarredTest(Judging, unittest.TestCase):
 
     def test_by_stretches(self):
         x = "place 0 2; load"
-        for rows in (f"{x}; num 5; add; drop", f"{x}; {x}; mul; drop", f"{x}; sqr; drop", f"{x}; neg; abs; drop", f"{x}; num 3; div; drop", f"{x}; num 3; mod; drop",
-                     f"{x}; num 40; add; chr; drop", f"{x}; look 0 9; drop", f"{x}; look -5 50; drop", f"{x}; one; drop", f"{x}; num 5; span; drop", "num 1; tru; drop",
+        for rows in (f"{x}; num 5; add; drop", f"{x}; {x}; mul; drop", f"{x}; sqr; drop", f"{x}; neg; abs; drop", f"{x}; num 3; div; drop",
+            f"{x}; num 3; mod; drop",
+                     f"{x}; num 40; add; chr; drop", f"{x}; look 0 9; drop", f"{x}; look -5 50; drop", f"{x}; one; drop",
+                     f"{x}; num 5; span; drop", "num 1; tru; drop",
                      f"place 0 7; {x}; num 3; mod; index 0 2; drop", f"{x}; num 5; add; look 5 14; drop", f"{x}; neg; drop"):
             self.assertTrue(self.bars(rows), rows)
-        for rows in (f"{x}; num 2147483640; add; drop", f"{x}; num 2147483647; mul; drop", f"num 3; {x}; div; drop", f"num 3; {x}; mod; drop", f"{x}; num 30; add; chr; drop",
-                     f"{x}; look 1 9; drop", f"{x}; look 0 8; drop", f"{x}; num 1; sub; one; drop", f"{x}; num 120; add; num 5; span; drop", f"{x}; tru; drop",
-                     f"place 0 7; {x}; index 0 2; drop", "place 0 7; num 1; index 0 2; load; drop", "nil l0; aim; drop", "place 0 8; field 1; arm 0; drop",
+        for rows in (f"{x}; num 2147483640; add; drop", f"{x}; num 2147483647; mul; drop", f"num 3; {x}; div; drop",
+            f"num 3; {x}; mod; drop", f"{x}; num 30; add; chr; drop",
+                     f"{x}; look 1 9; drop", f"{x}; look 0 8; drop", f"{x}; num 1; sub; one; drop",
+                     f"{x}; num 120; add; num 5; span; drop", f"{x}; tru; drop",
+                     f"place 0 7; {x}; index 0 2; drop", "place 0 7; num 1; index 0 2; load; drop", "nil l0; aim; drop",
+                     "place 0 8; field 1; arm 0; drop",
                      "string 65; place 0 5; drop; string 65; text eq; drop"):
             self.assertFalse(self.bars(rows), rows)
 
@@ -280,18 +300,23 @@ class BarredTest(Judging, unittest.TestCase):
         self.sewn(f"{ahead}; place 0 2; load; num 5; add; num 5; sub; drop", f"{ahead}; place 0 2; load; num 5; add; drop")
 
     def test_by_what_was_done(self):
-        for row in ("place 0 2; load; look 3 7; drop", "place 0 2; load; num 2147483640; add; drop", "num 3; place 0 2; load; div; drop", "place 0 2; load; chr; drop",
-                    "place 0 7; place 0 2; load; index 0 2; drop", "place 0 7; num 1; index 0 2; load; drop", "place 0 8; field 1; arm 0; drop", "place 0 9; load; drop",
+        for row in ("place 0 2; load; look 3 7; drop", "place 0 2; load; num 2147483640; add; drop", "num 3; place 0 2; load; div; drop",
+            "place 0 2; load; chr; drop",
+                    "place 0 7; place 0 2; load; index 0 2; drop", "place 0 7; num 1; index 0 2; load; drop",
+                    "place 0 8; field 1; arm 0; drop", "place 0 9; load; drop",
                     "place 0 2; load; one; drop", "place 0 6; load; within 0 9; drop"):
             self.sewn(f"{self.BOTH}; {row}; {row}", f"{self.BOTH}; {row}")
         # With other terms, or another order, it may trap.
-        for one, other in (("place 0 2; load; look 3 7; drop", "place 0 2; load; look 3 6; drop"), ("num 3; place 0 2; load; div; drop", "num 3; place 0 2; load; mod; drop"),
-                           ("num 3; place 0 2; load; div; drop", "num 4; place 0 2; load; div; drop"), ("place 0 8; field 1; arm 0; drop", "place 0 8; field 1; arm 1; drop")):
+        for one, other in (("place 0 2; load; look 3 7; drop", "place 0 2; load; look 3 6; drop"),
+            ("num 3; place 0 2; load; div; drop", "num 3; place 0 2; load; mod; drop"),
+                           ("num 3; place 0 2; load; div; drop", "num 4; place 0 2; load; div; drop"),
+                           ("place 0 8; field 1; arm 0; drop", "place 0 8; field 1; arm 1; drop")):
             self.refused_by("event", f"{self.BOTH}; {one}; {other}", f"{self.BOTH}; {one}")
 
     def test_at_the_same_time(self):
         # Behind each deed a place may be gone, unset, an arm may live no more: aim, arm, load, text may trap anew.
-        for row in ("place 0 7; num 1; index 0 2; load; drop", "place 0 8; field 1; arm 0; drop", "place 0 9; load; aim; drop", "place 0 9; load; drop"):
+        for row in ("place 0 7; num 1; index 0 2; load; drop", "place 0 8; field 1; arm 0; drop", "place 0 9; load; aim; drop",
+                "place 0 9; load; drop"):
             self.sewn(f"{row}; {row}; place 0 1; writeln", f"{row}; place 0 1; writeln")
             self.refused_by("event", f"{row}; place 0 1; writeln; {row}", f"{row}; place 0 1; writeln")
         text = "string 65 66; string 65 66; text eq; drop"
@@ -363,7 +388,8 @@ class ThingsMetTest(Judging, unittest.TestCase):
         self.sewn(late, late)
         # At another time it may be another thing.
         self.refused_by("event", late, f"place 0 1; writeln; place 0 1; {load}; num 3; writen")
-        self.refused_by("event", f"{load}; place 0 1; writeln; drop; place 0 1; {load}; num 3; writen", f"place 0 3; {load}; store; place 0 1; writeln; place 0 1; place 0 3; load; num 3; writen")
+        self.refused_by("event", f"{load}; place 0 1; writeln; drop; place 0 1; {load}; num 3; writen",
+            f"place 0 3; {load}; store; place 0 1; writeln; place 0 1; place 0 3; load; num 3; writen")
 
     def test_what_is_read(self):
         self.assertTrue(self.written(f"{READ}; look 0 9; dup; add", f"{READ}; look 0 9; num 2; mul"))
@@ -379,8 +405,10 @@ class ThingsMetTest(Judging, unittest.TestCase):
         left = store.format("num 6") + "place 0 1; " + load + "; num 3; writen"
         self.sewn(left, store.format("num 6") + WRITE.format("num 6"))
         # Behind another deed, or from another place, it is met.
-        self.refused_by("event", store.format("num 6") + "place 0 1; writeln; " + WRITE.format(load), store.format("num 6") + "place 0 1; writeln; " + WRITE.format("num 6"))
-        self.refused_by("event", store.format("num 6") + WRITE.format(load.replace("num 1", "num 2")), store.format("num 6") + WRITE.format("num 6"))
+        self.refused_by("event", store.format("num 6") + "place 0 1; writeln; " + WRITE.format(load),
+            store.format("num 6") + "place 0 1; writeln; " + WRITE.format("num 6"))
+        self.refused_by("event", store.format("num 6") + WRITE.format(load.replace("num 1", "num 2")),
+            store.format("num 6") + WRITE.format("num 6"))
         # An index by another term of the same number is the same place.
         other = "place 0 2; num 1; store; " + store.format("num 6") + WRITE.format(load.replace("num 1", "place 0 2; load"))
         self.sewn(other, store.format("num 6") + WRITE.format("num 6"))
@@ -410,9 +438,12 @@ class ThingsMetTest(Judging, unittest.TestCase):
                   "place 0 0; rewrite; place 0 0; window; num 4; store; " + load, names=names)
 
     def test_deeds(self):
-        for row in ("place 0 7; num 1; index 1 3; num 4; store", "place 0 7; dup; move", "place 0 7; unset", "place 0 8; field 1; become 1", "place 0 8; num 1; lives 0",
-                    "place 0 9; new", "nil l0; gone", "place 0 0; reset", "place 0 1; rewrite", "place 0 0; get", "place 0 1; put", "place 0 0; eof; drop", "place 0 0; eoln; drop",
-                    "place 0 0; readn; drop", "place 0 0; readc; drop", "place 0 0; readln", "place 0 1; writeln", "place 0 1; num 1; num 1; writen", "place 0 1; truth 1; num 1; writet",
+        for row in ("place 0 7; num 1; index 1 3; num 4; store", "place 0 7; dup; move", "place 0 7; unset",
+            "place 0 8; field 1; become 1", "place 0 8; num 1; lives 0",
+                    "place 0 9; new", "nil l0; gone", "place 0 0; reset", "place 0 1; rewrite", "place 0 0; get", "place 0 1; put",
+                    "place 0 0; eof; drop", "place 0 0; eoln; drop",
+                    "place 0 0; readn; drop", "place 0 0; readc; drop", "place 0 0; readln", "place 0 1; writeln",
+                    "place 0 1; num 1; num 1; writen", "place 0 1; truth 1; num 1; writet",
                     "place 0 1; sign 65; num 1; writec", "place 0 1; string 65; num 1; writes"):
             self.sewn(row, row)
             self.refused_by("event", row, "num 1; drop")
@@ -431,7 +462,8 @@ class FreshSignsTest(Judging, unittest.TestCase):
     def test_told_by_signs(self):
         self.fresh(None, "place 0 2; string 65 66; move")
         self.fresh("event", "place 0 2; string 65 66; move", "place 0 2; string 65 67; move")
-        self.fresh(None, "place 0 1; string 65; num 1; writes; place 0 1; string 65; num 1; writes", "place 0 1; string 65; dup; drop; num 1; writes; place 0 1; string 65; num 1; writes")
+        self.fresh(None, "place 0 1; string 65; num 1; writes; place 0 1; string 65; num 1; writes",
+            "place 0 1; string 65; dup; drop; num 1; writes; place 0 1; string 65; num 1; writes")
         self.fresh(None, "place 0 2; string 65 66; text eq; drop")
 
     def test_what_is_refused(self):
@@ -640,12 +672,15 @@ class FittingTest(Judging, unittest.TestCase):
                     self.unfit(4 + at, None, *told, left=left, more=more)
 
     def test_terms_that_do_not_fit(self):
-        for term in ("n0", "n6", "n7", "n9", "n10", "n99", "w1", "add(num(1),truth(1))", "add(n2,n4)", "neg(set(1))", "field(place(0,7),0)", "place(1,0)", "place(0,99)", "handed(0,2)",
-                     "hand(p1,g0)", "hand(p0,g0)", "nil(l9)", "index(place(0,7),num(1),1,4)", "arm(field(place(0,8),1),2)", "window(place(0,2))", "eq(num(1),sign(65))",
+        for term in ("n0", "n6", "n7", "n9", "n10", "n99", "w1", "add(num(1),truth(1))", "add(n2,n4)", "neg(set(1))",
+            "field(place(0,7),0)", "place(1,0)", "place(0,99)", "handed(0,2)",
+                     "hand(p1,g0)", "hand(p0,g0)", "nil(l9)", "index(place(0,7),num(1),1,4)", "arm(field(place(0,8),1),2)",
+                     "window(place(0,2))", "eq(num(1),sign(65))",
                      "same(nil(l0),nil(l1))", "in(num(1),num(2))", "truth(1)", "set(1)", "eq(num(1),num(2))", "chr(num(65))"):
             self.unfit(4, None, "proc p0", "match 0 0", "match 4 4", "work " + term)
             self.unfit(4, None, "proc p0", "match 0 0", "match 3 3", "name 2 " + term)
-        for term in ("ordt(eq(num(1),num(2)))", "ordc(chr(n2))", "mod(div(n2,num(3)),abs(n3))", "sqr(n2)", "ordt(in(n2,set(1)))", "ordt(same(nil(l0),nil(l0)))", "ordt(not(n4))"):
+        for term in ("ordt(eq(num(1),num(2)))", "ordc(chr(n2))", "mod(div(n2,num(3)),abs(n3))", "sqr(n2)", "ordt(in(n2,set(1)))",
+                "ordt(same(nil(l0),nil(l0)))", "ordt(not(n4))"):
             self.judge("num 1; drop", "num 1; drop", f"proc p0; match 0 0; match 1 1; work {term}")
 
     def test_names(self):
@@ -658,7 +693,8 @@ class FittingTest(Judging, unittest.TestCase):
         left = "place 0 2; num 4; store; num 1; drop"
         self.sewn(left, left, "proc p0; match 0 0; lost 10; match 3 3; lost 10", own="n")
         # A name that is private in the left alone is none of the pair.
-        self.unfit(3, None, "proc p0", "match 0 0", "lost 2", names=NAMES + " &n", right="place 0 2; num 4; store; place 0 2; bind 10; num 1; drop")
+        self.unfit(3, None, "proc p0", "match 0 0", "lost 2", names=NAMES + " &n",
+            right="place 0 2; num 4; store; place 0 2; bind 10; num 1; drop")
 
     def test_errors_in_their_sequence(self):
         wrong = Unit("proc p0 -\ntakes\ngives -\nnames\nfiles\nwork 0\ndrop\nleave\nend")
@@ -674,8 +710,10 @@ class FittingTest(Judging, unittest.TestCase):
     def test_units_that_are_no_pair(self):
         text = "layout l0 n\nsignature g0 takes n gives -\nproc p0 -\ntakes\ngives -\nnames <text> n\nfiles f\nwork 3\nleave\nend\nproc p1 p0\ntakes n\ngives n\nnames n\nwork 2\nleave\nend"
         left = Unit(text)
-        for one, other in (("layout l0 n", "layout l0 t"), ("layout l0 n\n", ""), ("signature g0 takes n", "signature g0 takes t"), ("p1 p0", "p2 p0"), ("takes n\ngives n", "takes t\ngives n"),
-                           ("gives n\nnames n", "gives t\nnames t"), ("files f", "files g"), ("names <text> n", "names <text> t"), ("names <text> n", "names <text>")):
+        for one, other in (("layout l0 n", "layout l0 t"), ("layout l0 n\n", ""), ("signature g0 takes n", "signature g0 takes t"),
+            ("p1 p0", "p2 p0"), ("takes n\ngives n", "takes t\ngives n"),
+                           ("gives n\nnames n", "gives t\nnames t"), ("files f", "files g"), ("names <text> n", "names <text> t"),
+                           ("names <text> n", "names <text>")):
             right = Unit(text.replace(one, other))
             self.refused(BadValue, right, judged, left, right, 3)
         for one, other in (("work 3", "work 9"), ("names <text> n", "names <text> n t"), ("names n\nwork", "names n c\nwork")):
@@ -722,7 +760,8 @@ class WaysTest(Judging, unittest.TestCase):
 
     def test_far_and_leave_are_events(self):
         result = [proc("p1", "p0", "", "n", "n", ["place 0 0", row, "store", "leave"]) for row in ("num 4", "num 5")]
-        self.refused_by("event", "call p1; drop", "call p1; drop", "proc p0; match 0 0; proc p1; match 0 0", more=result[0], others=result[1], name="p1")
+        self.refused_by("event", "call p1; drop", "call p1; drop", "proc p0; match 0 0; proc p1; match 0 0", more=result[0],
+            others=result[1], name="p1")
         sums = proc("p1", "p0", "", "n", "n", ["place 0 0", "num 3", "num 1", "add", "store", "leave"])
         self.sewn("call p1; drop", "call p1; drop", "proc p0; match 0 0; proc p1; match 0 0", more=result[0], others=sums)
         far = [proc("p1", "p0", "", "-", "", [row]) for row in ("far 1 3", "far 1 4")]

@@ -229,7 +229,8 @@ class FarTest(Machines, unittest.TestCase):
         ]
         machine = machine_of("hand p3 g0; num 2; call p1; leave", more=more, signatures=signatures)
         self.assertTrue(machine.run_to("p2", 0, 1000))
-        self.assertEqual([row[:4] for row in machine.frames], [(5, "p2", 3, 4), (4, "p1", 1, 3), (3, "p1", 1, 2), (2, "p1", 1, 1), (1, "p0", 0, 0)])
+        self.assertEqual([row[:4] for row in machine.frames], [(5, "p2", 3, 4), (4, "p1", 1, 3), (3, "p1", 1, 2), (2, "p1", 1, 1),
+            (1, "p0", 0, 0)])
         machine.step()
         self.assertEqual([row[0] for row in machine.frames], [3, 2, 1])
         self.assertEqual(machine.at, ("p1", 17))

@@ -293,7 +293,8 @@ class WindowOrdersTest(Machines, unittest.TestCase):
         self.traps("unset", rows + "; place 0 0; window; load", names="<n>", files="f")
         self.traps("unset", rows + "; place 0 0; put", names="<n>", files="f")
         self.leaves(numbers(4), "place 0 0; rewrite; place 0 0; window; num 4; store; place 0 0; window; load", names="<n>", files="f")
-        self.traps("unset", "place 0 0; rewrite; place 0 0; window; num 4; store; place 0 0; rewrite; place 0 0; put", names="<n>", files="f")
+        self.traps("unset", "place 0 0; rewrite; place 0 0; window; num 4; store; place 0 0; rewrite; place 0 0; put", names="<n>",
+            files="f")
 
     def test_records_are_put_with_unset_cells(self):
         rows = "place 0 0; rewrite; place 0 0; window; field 0; num 4; store; place 0 0; put; place 0 0; put"

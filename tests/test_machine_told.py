@@ -78,7 +78,8 @@ class InputsTest(Machines, unittest.TestCase):
             (*self.RIGHT[:5], 0, (5, 6)), (*self.RIGHT[:5], 0, (None,)), (*self.RIGHT[:5], 2, ("y", 0, (1,)))]
         wrong = [
             None, 3, "", [], {}, (3,), (("input",),), (("input", "a", 1),), (["input", "a"],), ((1, "a"),), (("output", ""),), (("z", ""),),
-            (("input", ""), ("input", "")), (("input", None),), (("input", ("a",)),), (("input", "\t"),), (("f", "a"),), (("f", None),), (("f", []),),
+            (("input", ""), ("input", "")), (("input", None),), (("input", ("a",)),), (("input", "\t"),), (("f", "a"),), (("f", None),),
+            (("f", []),),
             (("g", ("nil",)),), (("g", (0,)),), (("g", (1,)),), (("h", (None,)),), (("h", (1, True)),), (("i", ("ab",)),)]
         for inputs in [*wrong, *[(("f", (thing,)),) for thing in wrong_things]]:
             self.refused(BadInputs, inputs, Machine, unit, inputs)
@@ -95,7 +96,8 @@ class InputsTest(Machines, unittest.TestCase):
 class ToldTest(Machines, unittest.TestCase):
     def test_the_example(self):
         machine = Machine(EXAMPLE, ())
-        told = [machine.at, machine.run(2), machine.at, machine.contents(1, 0), machine.piece(1), machine.run(99), machine.ended, machine.steps]
+        told = [machine.at, machine.run(2), machine.at, machine.contents(1, 0), machine.piece(1), machine.run(99), machine.ended,
+            machine.steps]
         self.assertEqual(told, [("p0", 0), 2, ("p0", 3), 1, (None, None), 4, ("done",), 6])
         self.assertEqual((machine.unit, machine.inputs), (EXAMPLE, ()))
 
@@ -120,7 +122,8 @@ class ToldTest(Machines, unittest.TestCase):
         machine = Machine(unit_of_rows(["leave"], names), ())
         told = [machine.contents(1, number) for number in range(11)]
         self.assertEqual(told, [
-            None, None, None, None, None, (None, None, None), (None, (None, None)), (None, None, ()), None, ("unused", None), ("unused", None)])
+            None, None, None, None, None, (None, None, None), (None, (None, None)), (None, None, ()), None, ("unused", None),
+            ("unused", None)])
         rows = "place 0 0; num 3; store; place 0 1; truth 1; store; place 0 2; sign 66; store; place 0 3; set 9; store; place 0 4; nil l0; store"
         machine = self.stood(rows.split("; "), names=names)
         told = [machine.contents(1, number) for number in range(5)]

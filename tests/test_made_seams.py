@@ -26,7 +26,8 @@ class MadeSeamTest(Machines, unittest.TestCase):
     def test_no_pass(self):
         rows = self.seam((), "line 1; place 0 1; num 4; store; label 2; truth 1; unless 2; leave; num 1; drop; leave")
         self.assertEqual(rows, [
-            "proc p0", "match 0 0", "match 1 1", "match 2 2", "work w0", "match 3 3", "work w0", "work w1", "match 5 5", "match 6 6", "work w0", "match 7 7"])
+            "proc p0", "match 0 0", "match 1 1", "match 2 2", "work w0", "match 3 3", "work w0", "work w1", "match 5 5", "match 6 6",
+            "work w0", "match 7 7"])
         more = proc("p1", "p0", "", "-", "", ["num 1", "drop", "leave"])
         self.assertEqual(self.seam((), "leave", more=more), [
             "proc p0", "match 0 0", "proc p1", "match 0 0", "match 1 1", "work w0", "match 2 2"])
@@ -36,7 +37,8 @@ class MadeSeamTest(Machines, unittest.TestCase):
         self.assertEqual(rows, ["proc p0", "match 0 0", "match 5 3", "work w0", "work w1", "match 6 4", "work w0", "match 7 5"])
         # A row that stays as row 0 of what comes is no match of its own.
         self.assertEqual(self.seam("pairs", "num 9; drop; num 2; dup; drop; drop; leave"), ["proc p0", "match 0 0"])
-        self.assertEqual(self.seam("lines", "line 2; line 3; num 1; drop; leave"), ["proc p0", "match 0 0", "match 2 1", "match 3 2", "work w0", "match 4 3"])
+        self.assertEqual(self.seam("lines", "line 2; line 3; num 1; drop; leave"),
+            ["proc p0", "match 0 0", "match 2 1", "match 3 2", "work w0", "match 4 3"])
         self.assertEqual(self.seam("again", "place 0 3; load; place 0 3; load; and; drop; leave"),
                          ["proc p0", "match 0 0", "match 4 3", "work w0", "work w1", "match 5 4", "work w0", "match 6 5"])
 
@@ -75,7 +77,8 @@ class MadeSeamTest(Machines, unittest.TestCase):
         rows = "place 0 1; num 4; store; place 0 2; num 5; store; place 0 2; load; drop; leave"
         self.assertEqual(self.seam("unread", rows), [
             "proc p0", "match 0 0", "lost 1", "match 1 1", "work w0", "lost 1", "match 3 4", "lost 1", "match 4 5", "work w0", "lost 1",
-            "match 5 6", "work w0", "work w1", "lost 1", "match 6 7", "lost 1", "match 7 8", "work w0", "lost 1", "match 8 9", "work w0", "lost 1", "match 9 10", "lost 1"])
+            "match 5 6", "work w0", "work w1", "lost 1", "match 6 7", "lost 1", "match 7 8", "work w0", "lost 1", "match 8 9", "work w0",
+            "lost 1", "match 9 10", "lost 1"])
         # Whatever passes come behind; a name without a store that was put out is none.
         told = self.seam(("unread", "pairs", "looks"), rows)
         self.assertEqual([row for row in told if row.startswith("lost")], ["lost 1"] * len([row for row in told if row.startswith("match")]))

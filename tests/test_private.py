@@ -22,7 +22,8 @@ class PrivateTest(Machines, unittest.TestCase):
         self.assertEqual(self.names(PLAIN), (0,))
         self.assertEqual(self.names("place 0 0; dup; load; num 1; add; store; place 0 0; drop; place 0 0; dup; drop; unset"), (0,))
         self.assertEqual(self.names("place 0 0; place 0 0; dup; drop; load; line 5; num 2; add; store"), (0,))
-        self.assertEqual(self.names("place 0 0; num 3; call p1; store", more=proc("p1", "p0", "n", "n", "n", ["place 0 1", "num 1", "store", "leave"])), (0,))
+        self.assertEqual(self.names("place 0 0; num 3; call p1; store", more=proc("p1", "p0", "n", "n", "n",
+            ["place 0 1", "num 1", "store", "leave"])), (0,))
         # Names without rows place are private, too; so are results and takes.
         self.assertEqual(self.names("num 1; drop", names="n t c n"), (0, 1, 2, 3))
         more = proc("p1", "p0", "n &n t (n,c) c", "n", "n t &n", "place 0 5; num 1; store; place 0 0; load; drop; leave".split("; "))
@@ -38,7 +39,8 @@ class PrivateTest(Machines, unittest.TestCase):
         # So does a row that is never come to; of procs further in, too.
         more = proc("p1", "p0", "", "-", "n", ["leave", "place 1 0", "place 2 1", "place 9 0", "leave"])
         self.assertEqual(self.names(PLAIN, names="n n", more=more), (1,))
-        more = [*proc("p1", "p0", "", "-", "n", ["leave"]), *proc("p2", "p1", "", "-", "", ["place 2 0", "drop", "place 1 0", "drop", "leave"])]
+        more = [*proc("p1", "p0", "", "-", "n", ["leave"]), *proc("p2", "p1", "", "-", "",
+            ["place 2 0", "drop", "place 1 0", "drop", "leave"])]
         self.assertEqual(self.names(PLAIN, more=more), ())
         self.assertEqual(self.names(PLAIN, more=more, name="p1"), ())
 
@@ -60,7 +62,8 @@ class PrivateTest(Machines, unittest.TestCase):
 
     def test_rows_that_are_never_come_to(self):
         # They count as all others; whatever would lie there.
-        for rows, told in (("load; drop", (0,)), ("add", ()), ("place 0 0; store", ()), ("num 1; store", (0,)), ("num 1", ()), ("dup; dup; drop; drop; drop", (0,))):
+        for rows, told in (("load; drop", (0,)), ("add", ()), ("place 0 0; store", ()), ("num 1; store", (0,)), ("num 1", ()),
+                ("dup; dup; drop; drop; drop", (0,))):
             unit = unit_of_rows(["leave", "place 0 0", *rows.split("; ")], "n")
             self.assertEqual(private(unit, "p0"), told, rows)
         unit = unit_of_rows(["leave", "num 1", "store", "place 0 0", "drop", "leave"], "n")

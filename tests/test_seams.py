@@ -28,8 +28,10 @@ class SeamTest(Refusing, unittest.TestCase):
 
     def test_terms(self):
         right = [
-            "n0", "w0", "n2147483647", "num(5)", "num(-2147483647)", "truth(0)", "truth(1)", "sign(32)", "sign(126)", "set()", "set(0)", "set(0,5,127)",
-            "nil(l0)", "nil(a2345678)", "place(0,2)", "place(3,0)", "handed(1,2)", "hand(p1,g0)", "field(place(0,2),1)", "arm(field(n3,2),0)",
+            "n0", "w0", "n2147483647", "num(5)", "num(-2147483647)", "truth(0)", "truth(1)", "sign(32)", "sign(126)", "set()", "set(0)",
+            "set(0,5,127)",
+            "nil(l0)", "nil(a2345678)", "place(0,2)", "place(3,0)", "handed(1,2)", "hand(p1,g0)", "field(place(0,2),1)",
+            "arm(field(n3,2),0)",
             "index(place(0,1),n2,-3,9)", "index(w0,num(0),5,5)", "window(place(0,0))"]
         right += [f"{word}(n1)" for word in ORDERS_OF_ONE.split()] + [f"{word}(w1,num(3))" for word in ORDERS_OF_TWO.split()]
         for text in right:
@@ -37,12 +39,18 @@ class SeamTest(Refusing, unittest.TestCase):
 
     def test_what_is_no_term(self):
         wrong = [
-            "", "n", "w", "x0", "n-1", "n01", "n2147483648", "n1.0", "N1", "num", "num()", "num(x)", "num(2147483648)", "num(1,2)", "num(01)", "num(n1)",
-            "truth(2)", "truth(-1)", "sign(31)", "sign(127)", "set(5,3)", "set(3,3)", "set(128)", "set(-1)", "set(,)", "set(1,)", "nil()", "nil(L0)",
-            "nil(a23456789)", "nil(l0,l1)", "place(0)", "place(0,-1)", "place(-1,0)", "place(0,1,2)", "handed(0)", "hand(p1)", "hand(p1,g0,g1)", "hand(1,g0)",
-            "field(n0)", "field(n0,-1)", "field(1,n0)", "field(n0,n1)", "arm(n0)", "index(n0,n1)", "index(n0,n1,5,3)", "index(n0,n1,5)", "index(n0,5,3,5)",
-            "window(n0,1)", "window()", "add(n0)", "add(n0,n1,n2)", "add(n0,n1", "add(n0,n1))", "add n0,n1", "add(n0 ,n1)", "not(n0,n1)", "not()", "(n0)",
-            "look(n0,1,2)", "within(n0,1,2)", "load(n0)", "aim(n0)", "dup(n0)", "string(65)", "text(n0,n1,eq)", "eof(n0)", "call(p1)", "drop(n0)", "readn(n0)",
+            "", "n", "w", "x0", "n-1", "n01", "n2147483648", "n1.0", "N1", "num", "num()", "num(x)", "num(2147483648)", "num(1,2)",
+            "num(01)", "num(n1)",
+            "truth(2)", "truth(-1)", "sign(31)", "sign(127)", "set(5,3)", "set(3,3)", "set(128)", "set(-1)", "set(,)", "set(1,)", "nil()",
+            "nil(L0)",
+            "nil(a23456789)", "nil(l0,l1)", "place(0)", "place(0,-1)", "place(-1,0)", "place(0,1,2)", "handed(0)", "hand(p1)",
+            "hand(p1,g0,g1)", "hand(1,g0)",
+            "field(n0)", "field(n0,-1)", "field(1,n0)", "field(n0,n1)", "arm(n0)", "index(n0,n1)", "index(n0,n1,5,3)", "index(n0,n1,5)",
+            "index(n0,5,3,5)",
+            "window(n0,1)", "window()", "add(n0)", "add(n0,n1,n2)", "add(n0,n1", "add(n0,n1))", "add n0,n1", "add(n0 ,n1)", "not(n0,n1)",
+            "not()", "(n0)",
+            "look(n0,1,2)", "within(n0,1,2)", "load(n0)", "aim(n0)", "dup(n0)", "string(65)", "text(n0,n1,eq)", "eof(n0)", "call(p1)",
+            "drop(n0)", "readn(n0)",
             "add(n0,)", "add(,n0)", "n0n1", "n0,", "n0)", "lives(n0,1)", "become(n0,0)", "line(1)", "work(n0)", "move(n0,n1)", "NUM(1)"]
         for text in wrong:
             self.assertFalse(self.term(text), text)
@@ -71,14 +79,21 @@ class SeamTest(Refusing, unittest.TestCase):
 
     def test_rows_that_cannot_stand(self):
         told = {
-            "": 1, "proc": 1, "match 0 0": 1, "proc P0\nmatch 0 0": 1, "proc p0 p1\nmatch 0 0": 1, "proc  p0\nmatch 0 0": 1, "proc a23456789\nmatch 0 0": 1,
-            "proc p0\nmatch 0 1": 2, "proc p0\nmatch 1 0": 2, "proc p0\nproc p1": 2, "proc p0\nmatch 0": 2, "proc p0\nmatch 0 0 0": 2, "proc p0\nmatch 0 00": 2,
-            "proc p0\nmatch 0 0\n": 3, "proc p0\nmatch 0 0\nmatch 0 0": 3, "proc p0\nmatch 0 0\nmatch 3 2\nmatch 3 2": 4, "proc p0\nmatch 0 0\nmatch 3 2\nmatch 3 1": 4,
-            "proc p0\nmatch 0 0\nmatch 3 2\nmatch 2 3": 4, "proc p0\nmatch 0 0\nmatch -1 2": 3, "proc p0\nmatch 0 0\nmatch 1 x": 3, "proc p0\nmatch 0 0\nwork w0": 3,
-            "proc p0\nmatch 0 0\nname 1 n1": 3, "proc p0\nmatch 0 0\nlost 1\nlost 1": 4, "proc p0\nmatch 0 0\nlost 2\nlost 1": 4, "proc p0\nmatch 0 0\nlost": 3,
+            "": 1, "proc": 1, "match 0 0": 1, "proc P0\nmatch 0 0": 1, "proc p0 p1\nmatch 0 0": 1, "proc  p0\nmatch 0 0": 1,
+            "proc a23456789\nmatch 0 0": 1,
+            "proc p0\nmatch 0 1": 2, "proc p0\nmatch 1 0": 2, "proc p0\nproc p1": 2, "proc p0\nmatch 0": 2, "proc p0\nmatch 0 0 0": 2,
+            "proc p0\nmatch 0 00": 2,
+            "proc p0\nmatch 0 0\n": 3, "proc p0\nmatch 0 0\nmatch 0 0": 3, "proc p0\nmatch 0 0\nmatch 3 2\nmatch 3 2": 4,
+            "proc p0\nmatch 0 0\nmatch 3 2\nmatch 3 1": 4,
+            "proc p0\nmatch 0 0\nmatch 3 2\nmatch 2 3": 4, "proc p0\nmatch 0 0\nmatch -1 2": 3, "proc p0\nmatch 0 0\nmatch 1 x": 3,
+            "proc p0\nmatch 0 0\nwork w0": 3,
+            "proc p0\nmatch 0 0\nname 1 n1": 3, "proc p0\nmatch 0 0\nlost 1\nlost 1": 4, "proc p0\nmatch 0 0\nlost 2\nlost 1": 4,
+            "proc p0\nmatch 0 0\nlost": 3,
             "proc p0\nmatch 0 0\nlost 1 n1": 3, "proc p0\nmatch 0 0\nlost -1": 3, "proc p0\nmatch 0 0\nmatch 1 1\nlost 1\nname 1 n1": 5,
-            "proc p0\nmatch 0 0\nmatch 1 1\nname 2 n1\nname 1 n1": 5, "proc p0\nmatch 0 0\nmatch 1 1\nname 1 n1\nwork w0": 5, "proc p0\nmatch 0 0\nmatch 1 1\nname 1": 4,
-            "proc p0\nmatch 0 0\nmatch 1 1\nname 1 n1 n2": 4, "proc p0\nmatch 0 0\nmatch 1 1\nwork": 4, "proc p0\nmatch 0 0\nmatch 1 1\nwork w0 w1": 4,
+            "proc p0\nmatch 0 0\nmatch 1 1\nname 2 n1\nname 1 n1": 5, "proc p0\nmatch 0 0\nmatch 1 1\nname 1 n1\nwork w0": 5,
+            "proc p0\nmatch 0 0\nmatch 1 1\nname 1": 4,
+            "proc p0\nmatch 0 0\nmatch 1 1\nname 1 n1 n2": 4, "proc p0\nmatch 0 0\nmatch 1 1\nwork": 4,
+            "proc p0\nmatch 0 0\nmatch 1 1\nwork w0 w1": 4,
             "proc p0\nmatch 0 0\nproc p0\nmatch 0 0": 3, "proc p0\nmatch 0 0\nend": 3, "proc p0\nmatch 0 0 ": 2, " proc p0\nmatch 0 0": 1,
             "proc p0\nmatch 0 0\nmatch 2147483648 1": 3,
         }
@@ -111,8 +126,10 @@ class JoinedSeamTest(Refusing, unittest.TestCase):
             "\nname 6 add(n6,num(1))\nname 7 num(7)\nlost 8"))
 
     def test_names_that_hold_themselves(self):
-        self.assertEqual(self.joined("match 0 0\nmatch 1 1\nname 1 n2\nname 2 n1", "match 0 0\nmatch 1 1\nname 1 n2\nname 2 n1"), "match 0 0\nmatch 1 1")
-        self.assertEqual(self.joined("match 0 0\nmatch 1 1\nlost 1\nname 2 n1", "match 0 0\nmatch 1 1\nname 1 n2"), "match 0 0\nmatch 1 1\nname 2 n1")
+        self.assertEqual(self.joined("match 0 0\nmatch 1 1\nname 1 n2\nname 2 n1", "match 0 0\nmatch 1 1\nname 1 n2\nname 2 n1"),
+            "match 0 0\nmatch 1 1")
+        self.assertEqual(self.joined("match 0 0\nmatch 1 1\nlost 1\nname 2 n1", "match 0 0\nmatch 1 1\nname 1 n2"),
+            "match 0 0\nmatch 1 1\nname 2 n1")
         self.assertEqual(self.joined("match 0 0\nlost 1", "match 0 0\nlost 1\nlost 2"), "match 0 0\nlost 1\nlost 2")
 
     def test_works(self):

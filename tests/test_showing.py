@@ -67,14 +67,16 @@ class ShownInTest(Refusing, unittest.TestCase):
         machine = Machine(unit, (("f", (4,)), ("input", "")))
         machine.run_to("p3", 0, 1000)
         self.assertEqual(shown_in(NESTED, machine, "five"), None)
-        told = {"n": 7, "v": (2, None, None, ()), "y": None, "z": (None, None), "x": True, "two": None, "s": (2, None, None, ()), "q": None, "f": "file",
+        told = {"n": 7, "v": (2, None, None, ()), "y": None, "z": (None, None), "x": True, "two": None, "s": (2, None, None, ()),
+            "q": None, "f": "file",
                 "t": "file", "input": "file"}
         for name, value in told.items():
             self.assertEqual(shown_in(NESTED, machine, name), value, name)
         machine.run_to("p2", 3, 100)
         self.assertEqual([shown_in(NESTED, machine, "two"), shown_in(NESTED, machine, "five")], [3, "a"])
         machine.run_to("p1", 10, 1000)
-        self.assertEqual([shown_in(program=NESTED, machine=machine, name="y"), shown_in(NESTED, machine, "x"), shown_in(NESTED, machine, "s")],
+        self.assertEqual([shown_in(program=NESTED, machine=machine, name="y"), shown_in(NESTED, machine, "x"),
+            shown_in(NESTED, machine, "s")],
                          [None, None, (4, None, None, ())])
 
     def test_told_names_sets_pointers(self):
@@ -111,7 +113,8 @@ begin new(q); q^.b := true; q^.x := 5; v.b := true; v.x := 4; rewrite(f); {call}
         long = Program("program p; var a: integer; begin " + "a := 1; " * 60 + "end.")
         self.refused(TooLong, 0, shown_in, long, machine, 3)
         self.refused(NoStop, None, shown_in, Program("program p; begin end."), machine, 3)
-        self.refused(NoStop, None, shown_in, Program(NESTED.text.replace("five = 5", "five = 6").replace("s.x := 2", "s.x := 3")), machine, "x")
+        self.refused(NoStop, None, shown_in, Program(NESTED.text.replace("five = 5", "five = 6").replace("s.x := 2", "s.x := 3")), machine,
+            "x")
         for value in ("n", "five", "one", "none", "red", "color", "p", "X", "", None, 3, True, ("x",), "true", "h"):
             self.refused(NoPlace, value, shown_in, NESTED, machine, value)
         machine.run_to("p1", 0, 99)
@@ -145,8 +148,10 @@ class EditedTest(Refusing, unittest.TestCase):
     def test_lines(self):
         program = Program(self.TEXT)
         for first, last, lines, told in (
-                (4, 4, ("a := 2;",), self.TEXT.replace("1;", "2;")), (4, 4, (), self.TEXT.replace("a := 1;\n", "")), (4, 3, ("", "a := 3;"), self.TEXT.replace("a := 1", "\na := 3;\na := 1")),
-                (1, 0, ("{x}",), "{x}\n" + self.TEXT), (7, 6, ("", ""), self.TEXT + "\n\n"), (1, 6, ("program q;", "begin end."), "program q;\nbegin end."),
+                (4, 4, ("a := 2;",), self.TEXT.replace("1;", "2;")), (4, 4, (), self.TEXT.replace("a := 1;\n", "")),
+                (4, 3, ("", "a := 3;"), self.TEXT.replace("a := 1", "\na := 3;\na := 1")),
+                (1, 0, ("{x}",), "{x}\n" + self.TEXT), (7, 6, ("", ""), self.TEXT + "\n\n"),
+                (1, 6, ("program q;", "begin end."), "program q;\nbegin end."),
                 (5, 5, (" ; ", "writeln"), self.TEXT.replace("writeln(a)", " ; \nwriteln")), (6, 6, ("end.", ""), self.TEXT + "\n")):
             other = edited(program, first, last, lines)
             self.assertEqual(other.text, told)
@@ -156,7 +161,8 @@ class EditedTest(Refusing, unittest.TestCase):
 
     def test_wrong_lines(self):
         program = Program(self.TEXT)
-        for first, last in ((0, 0), (0, 3), (3, 1), (8, 7), (7, 7), (1, 7), (-1, 2), (True, 3), (1, True), ("1", 2), (1, None), (1.0, 2), (None, None), (2, -1)):
+        for first, last in ((0, 0), (0, 3), (3, 1), (8, 7), (7, 7), (1, 7), (-1, 2), (True, 3), (1, True), ("1", 2), (1, None), (1.0, 2),
+                (None, None), (2, -1)):
             self.refused(BadLines, (first, last), edited, program, first, last, 3)
         for lines in (None, "a", ["a := 1;"], ("a\n",), (1,), ("a", None), {}, (("a",),)):
             self.refused(BadText, lines, edited, program, 1, 1, lines)
@@ -199,7 +205,8 @@ class AnewTest(Refusing, unittest.TestCase):
         self.assertEqual(self.told(("procedure three; begin", "procedure three; var z: integer; begin")), (3,))
         self.assertEqual(self.told(("a: integer; b: l", "a: integer; b, c: l")), (0,))
         self.assertEqual(self.told(("var a: integer; b", "var c, a: integer; b")), (0, 1, 3))
-        self.assertEqual(self.told(("one(n: integer)", "one(n: char)"), ("a := n", "a := ord(n)"), ("one(2)", "one('2')"), ("one(1)", "one('1')")), (0, 1, 2))
+        self.assertEqual(self.told(("one(n: integer)", "one(n: char)"), ("a := n", "a := ord(n)"), ("one(2)", "one('2')"),
+            ("one(1)", "one('1')")), (0, 1, 2))
 
     def test_names_and_numbers(self):
         # A routine told ahead gives other numbers to those behind it: no matter.
@@ -207,7 +214,8 @@ class AnewTest(Refusing, unittest.TestCase):
         self.assertEqual(self.told(("procedure one", "procedure uno"), ("one(2)", "uno(2)"), ("one(1)", "uno(1)")), (0, 1, 2))
         self.assertEqual(self.told(("program p(", "program q(")), (0, 1, 2, 3, 4))
         self.assertEqual(self.told(("procedure two;", "procedure dos;"), ("two end", "dos end")), (0, 2, 3))
-        moved = self.TEXT.replace("  procedure three; begin a := 3 end;\n", "").replace("procedure two;", "procedure three; begin a := 3 end;\nprocedure two;\n")
+        moved = self.TEXT.replace("  procedure three; begin a := 3 end;\n", "").replace("procedure two;",
+            "procedure three; begin a := 3 end;\nprocedure two;\n")
         # Three stands by itself now: no routine has this name within the program alone; two calls another one.
         self.assertEqual(anew(Program(self.TEXT), Program(moved)), (0, 2, 3))
 
@@ -215,7 +223,8 @@ class AnewTest(Refusing, unittest.TestCase):
         everything = (0, 1, 2, 3, 4)
         self.assertEqual(self.told(("x: integer end", "x: char end")), everything)
         self.assertEqual(self.told(("b: l;", "b: l; c: ^char;")), everything)
-        self.assertEqual(self.told(("procedure three; begin", "procedure three(procedure h); begin"), ("begin three;", "begin three(two);")), everything)
+        self.assertEqual(self.told(("procedure three; begin", "procedure three(procedure h); begin"),
+            ("begin three;", "begin three(two);")), everything)
 
     def test_first_headings(self):
         text = "program p;\nprocedure one; forward;\n{}procedure two; begin one end;\nprocedure one;\nbegin two end;\nbegin one end."

@@ -47,7 +47,8 @@ class ClosedTest(Machines, unittest.TestCase):
     def test_near_ones(self):
         for row, names in (
                 (9, ((1, True, 0, 48), (2, False, None, None))), (9, ((1, True, 1, 49), (2, False, None, None))),
-                (9, ((1, True, 0, 49), (2, True, None, None))), (17, ((1, True, 49, 50), (2, True, 0, 1))), (4, ((1, True, 0, 49), (2, False, None, None)))):
+                (9, ((1, True, 0, 49), (2, True, None, None))), (17, ((1, True, 49, 50), (2, True, 0, 1))),
+                (4, ((1, True, 0, 49), (2, False, None, None)))):
             self.assertIs(closed(self.unit, self.put(row, 2, names)), False, (row, names))
         self.assertIs(closed(self.unit, self.put(9, 2, ((1, True, 0, 50), (2, False, None, None)))), False)
         self.assertIs(closed(self.unit, self.put(17, 2, ((1, True, 49, 50), (2, False, None, None)))), True)
@@ -98,8 +99,10 @@ class ClosedTest(Machines, unittest.TestCase):
         test = (1, 0, "lt", 50, 50)
         self.assertEqual(self.value[8][3], ((0, 1, None, (test,)),))
         wrong_tests = [
-            None, test, [test], (test, test), ((1, 0, "lt", 50),), ((1, 0, "in", 50, 50),), ((0, 0, "lt", 50, 50),), ((1, None, "lt", 50, 50),),
-            ((1, 0, "lt", 51, 50),), ((1, 0, "lt", 50, 60),), ((1, 0, "lt", None, None),), ((1, 0, None, 50, 50),), (None,), ((1, 0, "lt", 49, 50), test),
+            None, test, [test], (test, test), ((1, 0, "lt", 50),), ((1, 0, "in", 50, 50),), ((0, 0, "lt", 50, 50),),
+            ((1, None, "lt", 50, 50),),
+            ((1, 0, "lt", 51, 50),), ((1, 0, "lt", 50, 60),), ((1, 0, "lt", None, None),), ((1, 0, None, 50, 50),), (None,),
+            ((1, 0, "lt", 49, 50), test),
             (test, (1, 0, "eq", 50, 50))]
         for value in wrong_tests:
             self.assertIs(closed(self.unit, self.put(8, 3, ((0, 1, None, value),))), False, value)
@@ -157,7 +160,8 @@ class SureRowsTest(Machines, unittest.TestCase):
 
     def test_whole_sums(self):
         for word, other, told in (
-                ("add", (0, 7), "whole"), ("add", (0, 8), None), ("sub", (-7, 0), "whole"), ("sub", (-8, 0), None), ("mul", (0, 1), "whole"), ("mul", (0, 2), None)):
+                ("add", (0, 7), "whole"), ("add", (0, 8), None), ("sub", (-7, 0), "whole"), ("sub", (-8, 0), None),
+                ("mul", (0, 1), "whole"), ("mul", (0, 2), None)):
             self.assertEqual(self.last(f"{self.between(1, MAXINT - 7)}; {self.between(*other)}; {word}"), told, (word, other))
         self.assertEqual(self.last(f"{self.between(-MAXINT, 0)}; {self.between(0, MAXINT)}; add"), "whole")
         self.assertIsNone(self.last(f"{self.between(-MAXINT, 0)}; {self.between(0, MAXINT)}; sub"))
@@ -224,8 +228,10 @@ class SetWaysTest(Machines, unittest.TestCase):
         told = set_ways(unit, "p0", 7, 0)
         self.assertEqual(told, ("way", (0, 1, 5, 6, 7)))
         self.assertIs(shows_set_ways(unit, "p0", 7, 0, told), True)
-        for value in (("set",), ("way",), ("way", (0, 1, 2, 3, 4, 5, 6, 7)), ("way", (0, 1, 5, 6)), ("way", [0, 1, 5, 6, 7]), ("way", (1, 5, 6, 7)), ("way", ()),
-                      ("way", (0, 1, 5, 6, 7), 0), ["way", (0, 1, 5, 6, 7)], ("way", (False, True, 5, 6, 7)), ("way", (0, 5, 6, 7)), ("way", None),
+        for value in (("set",), ("way",), ("way", (0, 1, 2, 3, 4, 5, 6, 7)), ("way", (0, 1, 5, 6)), ("way", [0, 1, 5, 6, 7]),
+            ("way", (1, 5, 6, 7)), ("way", ()),
+                      ("way", (0, 1, 5, 6, 7), 0), ["way", (0, 1, 5, 6, 7)], ("way", (False, True, 5, 6, 7)), ("way", (0, 5, 6, 7)),
+                      ("way", None),
                       ("ways", (0, 1, 5, 6, 7)), None, 3, (), (1,), ("way", (0, 1, 99, 7)), ("way", ("0",))):
             self.assertIs(shows_set_ways(unit, "p0", 7, 0, value), False, value)
         self.assertIs(shows_set_ways(unit, "p0", 5, 0, ("set",)), False)
