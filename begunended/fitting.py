@@ -93,6 +93,8 @@ class SeamValues:
         word, inner, told = term
         if word == "w":
             return left.stack[told[0]]
+        if word == "place" and told[0] == 0 and told[1] in left.bound:
+            return left.bound[told[1]], None
         parts = [self.value_of(part, left) for part in inner]
         if None in parts:
             return None

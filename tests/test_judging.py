@@ -531,6 +531,15 @@ class HiddenNamesTest(Judging, unittest.TestCase):
         self.hidden("event", bind + "num 1; drop", "num 1; drop", more=more)
         self.hidden(None, "place 0 4; drop; place 0 4; drop", "place 0 4; drop", more=more)
         self.hidden("event", "place 0 4; drop", "", more=more)
+        # What a seam tells of it is what it holds at the match, behind the bind.
+        rows = "place 0 6; num {}; index 1 3; bind 4; place 0 6; num 2; index 1 3; num 5; drop; drop"
+        seam = "proc p0; match 0 0; match 7 7; work place(0,4); proc p1; match 0 0"
+        self.hidden(None, rows.format(2), rows.format(2), seam, more=more)
+        self.hidden("term", rows.format(1), rows.format(1), seam, more=more)
+        old = "place 0 4; place 0 6; num 1; index 1 3; bind 4; num 5; store"
+        seam = "proc p0; match 0 0; match 5 5; work {}; proc p1; match 0 0"
+        self.hidden(None, old, old, seam.format("w0"), more=more)
+        self.hidden("term", old, old, seam.format("place(0,4)"), more=more)
         own = proc("p1", "p0", "", "-", "", "place 1 4; drop; place 1 4; drop; leave".split("; "))
         once = proc("p1", "p0", "", "-", "", ["place 1 4", "drop", "leave"])
         self.hidden(None, "call p1", "call p1", more=own, others=once)
