@@ -45,11 +45,14 @@ class Moment:
 
 
 class Trial:
-    """A block that a desk goes through by trial: what was there when it was entered."""
+    """A block that a desk goes through by trial: what was there when it was entered.
+
+    Wish is None until the block is to be kept: what leaves a block asks of things whether they are None alone.
+    """
 
     def __init__(self, desk):
         self.desk = desk
-        self.is_kept = False
+        self.wish = None
         self.outside = None
         self.moment = None
         self.undone = ()
@@ -65,7 +68,7 @@ class Trial:
     def __exit__(self, kind, value, trace):
         desk = self.desk
         desk.innermost = self.outside
-        if kind is not None or not self.is_kept:
+        if kind is not None or self.wish is None:
             desk.moment = self.moment
             desk.undone = self.undone
 
@@ -193,7 +196,7 @@ class Desk:
         innermost = self.innermost
         if innermost is None:
             raise NoTrial(None)
-        innermost.is_kept = True
+        innermost.wish = True
 
     def tried(self, look, *, keep=False):
         """What a look at the desk tells, within a block of its own."""

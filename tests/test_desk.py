@@ -405,6 +405,71 @@ class TrialTest(Refusing, unittest.TestCase):
             desk.step()
         self.assertEqual(desk.stop, 2)
 
+    def test_all_ways_out_of_two_blocks(self):
+        flags = (True, False)
+        for ways in [(a, b, c, d) for a in flags for b in flags for c in flags for d in flags]:
+            inner_kept, inner_fails, outer_kept, outer_fails = ways
+            desk = self.desk()
+            ahead = told(desk), journal(desk)
+            try:
+                with desk.trial():
+                    desk.mark(1)
+                    within = told(desk), journal(desk)
+                    try:
+                        with desk.trial():
+                            desk.go()
+                            behind = told(desk), journal(desk)
+                            if inner_kept:
+                                desk.keep()
+                            if inner_fails:
+                                raise LookupError
+                    except LookupError:
+                        pass
+                    if inner_kept and not inner_fails:
+                        within = behind
+                    self.assertEqual((told(desk), journal(desk)), within, ways)
+                    if outer_kept:
+                        desk.keep()
+                    if outer_fails:
+                        raise LookupError
+            except LookupError:
+                pass
+            is_kept = outer_kept and not outer_fails
+            self.assertEqual((told(desk), journal(desk)), within if is_kept else ahead, ways)
+            self.refused(NoTrial, None, desk.keep)
+            if is_kept:
+                self.refused(NothingToRedo, None, desk.redo)
+            else:
+                desk.redo()
+                self.assertEqual(desk.stop, 3)
+
+    def test_an_error_that_leaves_both_blocks(self):
+        desk = self.desk()
+        ahead = told(desk), journal(desk)
+        with self.assertRaises(NothingAhead):
+            with desk.trial():
+                desk.keep()
+                desk.step()
+                with desk.trial():
+                    desk.keep()
+                    desk.edit(1, 0, ("",))
+                    desk.back()
+        self.assertEqual((told(desk), journal(desk)), ahead)
+        self.refused(NoTrial, None, desk.keep)
+
+    def test_a_kept_block_behind_one_that_is_not(self):
+        desk = self.desk()
+        with desk.trial():
+            desk.step()
+        with desk.trial():
+            desk.keep()
+            desk.keep()
+            desk.mark(2)
+        with desk.trial():
+            desk.undo()
+            desk.undo()
+        self.assertEqual((desk.stop, desk.marked, desk.done), (2, (2, 4), 3))
+
     def test_tried(self):
         desk = self.desk()
         ahead = told(desk)

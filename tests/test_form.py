@@ -75,6 +75,18 @@ def is_plain(node, functions):
     return isinstance(node, ast.Name) and node.id in functions
 
 
+def asks_for_none(test):
+    """Whether a test is made of names and attributes that are asked whether they are None."""
+    if isinstance(test, ast.BoolOp):
+        return all(asks_for_none(part) for part in test.values)
+    if isinstance(test, ast.UnaryOp):
+        return isinstance(test.op, ast.Not) and asks_for_none(test.operand)
+    if not isinstance(test, ast.Compare) or len(test.ops) > 1 or not isinstance(test.left, (ast.Name, ast.Attribute)):
+        return False
+    other = test.comparators[0]
+    return isinstance(test.ops[0], (ast.Is, ast.IsNot)) and isinstance(other, ast.Constant) and other.value is None
+
+
 class FormTest(unittest.TestCase):
     def setUp(self):
         self.texts = files()
@@ -298,6 +310,19 @@ class FormTest(unittest.TestCase):
             if isinstance(node.value, ast.Call) and isinstance(node.value.func, ast.Name):
                 if node.value.func.id == "super":
                     self.assertEqual(node.attr, "__init__")
+
+    def test_exits_ask_for_none_alone(self):
+        for name, node in self.nodes(ast.FunctionDef):
+            if node.name != "__exit__":
+                continue
+            told = [arg.arg for arg in node.args.args[2:]]
+            for part in ast.walk(node):
+                if isinstance(part, ast.If) and not asks_for_none(part.test):
+                    self.refuse(name, part, "L6 With")
+                if isinstance(part, ast.Name) and part.id in told:
+                    self.refuse(name, part, "L6 With")
+                if isinstance(part, (ast.For, ast.While, ast.IfExp, ast.With, ast.Try, ast.Raise, ast.Subscript)):
+                    self.refuse(name, part, "L6 With")
 
     def test_loops_leave_what_they_go_over(self):
         changing = ("append", "extend", "insert", "pop", "remove", "clear", "update", "setdefault", "reverse")
