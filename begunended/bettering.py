@@ -1,10 +1,10 @@
 """Bettering: the code of a unit as passes turn it, with what became of each of its rows."""
 
-from begunended.plaincode import row_text
-from begunended.surepasses import SurePasses
-from begunended.turns import LONGEST, JumpRows, Turning, labels_of_order
-from begunended.unitreading import MOST_ROWS
-from begunended.units import Unit
+from begunended.plaincode import rows_text
+from begunended.surepasses import SurePasses, may_turn
+from begunended.turns import LONGEST, JumpRows, Turning
+from begunended.unitreading import MOST_ROWS, Proc
+from begunended.units import Unit, UnitCode
 
 SURE_PASSES = ("looks", "tests", "folded", "unread")
 TURN_PASSES = ("sums", "pairs", "again")
@@ -15,28 +15,40 @@ PASSES = ("looks", "tests", "folded", "unread", "sums", "pairs", "again", "lines
 class PassRow:
     """A row of code: its order, the number that it had at first, None for a new one.
 
-    Named are the labels that it named since the pass began.
+    Named are the labels that it named since a pass over jumps began, None for a row that names none.
     """
 
     def __init__(self, order, origin):
         self.order = order
         self.origin = origin
-        self.named = {}
+        self.named = None
 
 
 class Bettering:
     """A unit and its code as it is now; led_over are (proc, first number) of rows jump that others were led over.
 
-    Unread_names are pairs of a proc and the number of a name of which stores were put out.
+    Unread_names are pairs of a proc and the number of a name of which stores were put out. Code_now is what the
+    unit is with its code as it is now, None until it is asked for behind a change.
     """
 
     def __init__(self, unit):
         self.unit = unit
+        self.code_now = unit
+        self.is_changed = False
         self.codes = {}
         self.led_over = {}
         self.unread_names = {}
         for name, proc in unit.proc_table.items():
             self.codes[name] = [PassRow(order, row) for row, order in enumerate(proc.orders)]
+
+    def mark_changed(self):
+        """Keeps in mind that rows were turned."""
+        self.code_now = None
+        self.is_changed = True
+
+    def made_unit(self):
+        """The unit that comes of all passes."""
+        return unit_with(self.unit, self.codes) if self.is_changed else self.unit
 
     def do_pass(self, word):
         """Does a pass over all procs."""
@@ -53,28 +65,35 @@ class Bettering:
 
     def do_sure_pass(self, word):
         """Turns all rows of which the claims tell enough, as long as no proc has too many rows."""
-        sure = SurePasses(unit_with(self.unit, self.codes))
+        if self.code_now is None:
+            self.code_now = code_with(self.unit, self.codes)
+        sure = SurePasses(self.code_now)
         for name in list(self.codes):
             rows = self.codes[name]
             found = []
             many = len(rows)
             for at, row in enumerate(rows):
-                told = sure_turn(sure, word, name, at)
+                told = sure_turn(sure, word, name, at) if may_turn(word, row.order) else None
                 if told is None or many + len(told) - 1 > MOST_ROWS:
                     found.append(row)
                     continue
                 if word == "unread":
                     self.unread_names[(name, sure.unread_name(name, at))] = True
                 many += len(told) - 1
+                self.mark_changed()
                 found.extend([PassRow(order, None) for order in told])
             self.codes[name] = found
 
     def do_turns(self, word, name):
         """Turns rows that stand behind one another, from row 0 anew behind each turn."""
         turning = Turning(self.unit, name)
+        beginnings = turning.beginnings(word)
         rows = self.codes[name]
         at = 0
         while at < len(rows):
+            if rows[at].order[0] not in beginnings:
+                at += 1
+                continue
             orders = [row.order for row in rows[at:at + LONGEST]]
             turn = turn_found(turning, word, orders)
             if turn is None:
@@ -84,18 +103,16 @@ class Bettering:
             for order, kept in zip(turn.rows, turn.kept):
                 made.append(PassRow(order, None) if kept is None else rows[at + kept])
             rows[at:at + turn.many] = made
+            self.mark_changed()
             # No turn further ahead looks at rows from here on.
             at = max(0, at - LONGEST + 1)
 
     def do_row_turns(self, word, name):
-        """Does the turns of lines and jumps, from row 0 anew behind each."""
+        """Does the turns of lines and jumps."""
         rows = JumpRows(self.codes[name], self.far_labels_of(name))
-        for row in self.codes[name]:
-            row.named = {label: True for label in labels_of_order(row.order)}
-        at = 0
-        while at < len(self.codes[name]):
-            is_turned = rows.is_line_turned(at) if word == "lines" else rows.is_jump_turned(at)
-            at = 0 if is_turned else at + 1
+        many = rows.turn_lines() if word == "lines" else rows.turn_jumps()
+        if many > 0:
+            self.mark_changed()
         for row in rows.led_over:
             if row.origin is not None:
                 self.led_over[(name, row.origin)] = True
@@ -103,7 +120,9 @@ class Bettering:
     def put_out_dead(self, name):
         """Puts all rows out that are not reached."""
         reached = JumpRows(self.codes[name], self.far_labels_of(name)).rows_reached()
-        self.codes[name] = [row for at, row in enumerate(self.codes[name]) if at in reached]
+        if len(reached) < len(self.codes[name]):
+            self.codes[name] = [row for at, row in enumerate(self.codes[name]) if at in reached]
+            self.mark_changed()
 
     def far_labels_of(self, name):
         """The dict of the labels of a proc that rows far name."""
@@ -135,16 +154,34 @@ def turn_found(turning, word, orders):
 
 
 def unit_with(unit, codes):
-    """A unit with other code, all else as it is written."""
-    found = []
-    is_head = True
-    for row in unit.text.split("\n"):
-        if row.startswith("proc "):
-            is_head = True
-            name = row.split(" ")[1]
-        if is_head or row == "end":
-            found.append(row)
-        if row.startswith("work "):
-            is_head = False
-            found.extend([row_text(passed.order) for passed in codes[name]])
+    """The unit with other code, all else as it is written."""
+    rows = unit.text.split("\n")
+    at = len(unit.layouts) + len(unit.signatures) + len(unit.needs)
+    known = {}
+    found = rows[:at]
+    for name, proc in unit.proc_table.items():
+        # A program has the row files, too.
+        begin = at + (5 if len(proc.around) > 1 else 6)
+        found.extend(rows[at:begin])
+        for order, told in zip(proc.orders, proc.rows):
+            known[order] = told
+        found.extend(rows_text([row.order for row in codes[name]], known))
+        found.append("end")
+        at = begin + len(proc.rows) + 1
     return Unit("\n".join(found))
+
+
+def code_with(unit, codes):
+    """What a unit is with other code, without a text."""
+    procs = {}
+    for name, proc in unit.proc_table.items():
+        other = Proc(proc.around)
+        other.takes = proc.takes
+        other.gives = proc.gives
+        other.things = proc.things
+        other.outside_names = proc.outside_names
+        other.work = proc.work
+        other.orders = [row.order for row in codes[name]]
+        other.labels = {order[1]: at for at, order in enumerate(other.orders) if order[0] == "label"}
+        procs[name] = other
+    return UnitCode(unit.layout_texts, unit.signature_headings, unit.needed_headings, procs, unit.table)

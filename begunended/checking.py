@@ -1,7 +1,7 @@
 """Checking of codes: one shape of the workspace for each row, or what is wrong."""
 
 from begunended.errors import BadShape, NoRow, NotLet, NotWhole
-from begunended.flows import Flow, Walk, followed, is_row
+from begunended.flows import Walk, flow_of, followed, is_row
 from begunended.values import same_values
 
 
@@ -13,22 +13,38 @@ def led(unit, proc, row, shape):
         raise NoRow(row)
     if not is_shape(unit, shape):
         raise BadShape(shape)
-    word, rows = Flow(unit).leads(read, row, shape, read.work)
+    word, rows = flow_of(unit).leads(read, row, shape, read.work)
     return ("to", tuple(rows)) if word is None else ("refused", word)
 
 
 def checked(unit):
     """The shapes of all rows that are come to, or a way that is refused, or two ways that are unlike."""
-    want_whole(unit)
     table = []
-    flow = Flow(unit)
-    for name, proc in flow.procs.items():
-        walk = Walk(flow, name, proc.work)
+    for name, walk in walks_of(unit).items():
         if walk.fault is not None:
             return fault_told(name, walk)
         for row in sorted(list(walk.shapes)):
             table.append((name, row, walk.shapes[row]))
     return "let", tuple(table)
+
+
+def walks_of(unit):
+    """The dict of the walks of the procs of a unit that is whole, up to the first one with a fault: NotWhole."""
+    want_whole(unit)
+    if unit.proc_walks is None:
+        unit.proc_walks = walks_found(unit)
+    return unit.proc_walks
+
+
+def walks_found(unit):
+    """Likewise, found anew."""
+    flow = flow_of(unit)
+    found = {}
+    for name, proc in flow.procs.items():
+        found[name] = Walk(flow, name, proc.work)
+        if found[name].fault is not None:
+            break
+    return found
 
 
 def fault_told(name, walk):
@@ -48,7 +64,7 @@ def shows_checked(unit, value):
         return same_values(value, checked(unit))
     if len(value) != 4 or not isinstance(value[1], str) or value[1] not in unit.proc_table:
         return False
-    flow = Flow(unit)
+    flow = flow_of(unit)
     proc = flow.procs[value[1]]
     shape = followed(flow, value[1], value[2], proc.work)
     if shape is None:
@@ -73,11 +89,11 @@ def never_come(unit):
 
 def walks_let(unit):
     """The dict of the walks of all procs of a unit that is whole and let: NotWhole, NotLet."""
-    told = checked(unit)
-    if told[0] != "let":
-        raise NotLet(told)
-    flow = Flow(unit)
-    return {name: Walk(flow, name, proc.work) for name, proc in flow.procs.items()}
+    walks = walks_of(unit)
+    for name, walk in walks.items():
+        if walk.fault is not None:
+            raise NotLet(fault_told(name, walk))
+    return walks
 
 
 def want_whole(unit):

@@ -33,7 +33,7 @@ def do_nil(engine, frame, row):
 
 def do_string(engine, frame, row):
     cells = [sign_of(number) for number in row[1]]
-    layout = engine.table.of(str(len(cells)) + "*c")
+    layout = engine.parts.table.of(str(len(cells)) + "*c")
     frame.stack.append((Area(cells, None, ("string",)), 0, layout, ()))
 
 
@@ -139,7 +139,7 @@ def do_dup(engine, frame, row):
 def do_new(engine, frame, row):
     """Takes a piece: that there is room for it is looked at ahead of where its number is put."""
     place = frame.stack[-1]
-    layout = engine.aims[place[2].aims[0]]
+    layout = engine.parts.aims[place[2].aims[0]]
     if not [first for first, size in engine.heap.free if size >= layout.cells]:
         raise Trap("full")
     cells = cells_to_put(place)

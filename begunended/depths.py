@@ -1,7 +1,7 @@
 """How much code needs: things on workspaces, and frames."""
 
 from begunended.checking import walks_let, want_whole
-from begunended.flows import Flow, followed, is_same_heading
+from begunended.flows import flow_of, followed, is_same_heading
 from begunended.units import Unit
 
 
@@ -24,7 +24,7 @@ def shows_work_needed(unit, proc, value):
     number = work_needed(unit, proc)[0]
     if not isinstance(value, tuple) or len(value) != 2 or isinstance(value[0], bool) or value[0] != number:
         return False
-    shape = followed(Flow(unit), proc, value[1], unit.proc_table[proc].work)
+    shape = followed(flow_of(unit), proc, value[1], unit.proc_table[proc].work)
     return isinstance(value[0], int) and shape is not None and len(shape) == number
 
 

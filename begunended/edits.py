@@ -1,6 +1,6 @@
 """Edits: programs with other lines, and which routines an edit makes anew."""
 
-from begunended.compiling import head_rows, plan_compiled, proc_rows
+from begunended.compiling import head_rows, plan_compiled, proc_head
 from begunended.errors import BadLines, BadText
 from begunended.program import Program
 from begunended.values import is_integer
@@ -19,19 +19,27 @@ def edited(program, first, last, lines):
 def anew(program, other):
     """The numbers of the routines of another program that have to be compiled anew."""
     plan, twin = plan_compiled(program), plan_compiled(other)
-    ahead, told = rows_by_path(plan), rows_by_path(twin)
+    ahead, told = compared_rows(plan), compared_rows(twin)
     has_other_heads = head_rows(program, plan) != head_rows(other, twin)
     paths = list(told)
     return tuple([at for at, path in enumerate(paths) if has_other_heads or ahead.get(path) != told[path]])
+
+
+def compared_rows(plan):
+    """The dict of the rows of all procs as they are compared, by the names of their routines."""
+    if plan.compared_rows is None:
+        plan.compared_rows = rows_by_path(plan)
+    return plan.compared_rows
 
 
 def rows_by_path(plan):
     """The dict of the rows of all procs, told by names in the place of numbers, by the names of their routines."""
     paths = [path_of(routine) for routine in plan.facts.routines]
     found = {}
-    for code, work in zip(plan.codes.values(), plan.works):
+    for path, code, work in zip(paths, plan.codes.values(), plan.measure.works):
         line = plan.facts.place(code.telling.token)[0]
-        found[path_of(code.telling)] = [row_told(row, paths, line) for row in proc_rows(plan, code, work)]
+        head = [head_told(row, paths) for row in proc_head(plan, code, work)]
+        found[path] = head + [row_told(row, paths, line) for row in code.rows]
     return found
 
 
@@ -44,14 +52,20 @@ def path_of(routine):
     return ".".join(list(reversed(names)))
 
 
-def row_told(row, paths, line):
-    """A row with lines counted from the routine's name, and procs told by names."""
+def head_told(row, paths):
+    """A row ahead of a proc's code, with procs told by names."""
     words = row.split(" ")
-    if words[0] == "line":
-        return ["line", int(words[1]) - line]
-    if words[0] in ("proc", "call", "hand"):
-        return [words[0]] + [path_told(word, paths) for word in words[1:]]
-    return words
+    return [words[0]] + [path_told(word, paths) for word in words[1:]] if words[0] == "proc" else words
+
+
+def row_told(row, paths, line):
+    """A row of code with lines counted from the routine's name, and procs told by names."""
+    word = row[0]
+    if word == "step" or word == "line":
+        return "line", row[1] - line
+    if word == "call" or word == "hand":
+        return word, path_told(row[1], paths), *row[2:]
+    return row
 
 
 def path_told(word, paths):

@@ -34,6 +34,11 @@ COUNTS = {
     "ge": 2, "same": 2, "unlike": 2, "text": 2, "new": 1, "gone": 1, "reset": 1, "rewrite": 1, "get": 1, "put": 1,
     "eof": 1, "writes": 3,
 }
+# How many things these leave, if any.
+LEFT_COUNTS = {
+    "nil": 1, "string": 1, "field": 1, "arm": 1, "index": 1, "aim": 1, "window": 1, "load": 1, "dup": 2, "eq": 1,
+    "ne": 1, "lt": 1, "le": 1, "gt": 1, "ge": 1, "same": 1, "unlike": 1, "text": 1, "eof": 1,
+}
 
 
 def place_of(text):
@@ -42,17 +47,19 @@ def place_of(text):
 
 
 class Sorts:
-    """What the sorts of a unit are: its layouts by name, and the table of all layouts."""
+    """What the sorts of a unit are: its layouts by name, and the table of all layouts; known are those of sorts."""
 
     def __init__(self, unit):
         self.layout_texts = unit.layout_texts
         self.table = unit.table
+        self.known = {}
 
     def layout(self, sort):
         """The layout of a place, None for what is none."""
-        if not sort.startswith("a[") or not sort.endswith("]"):
-            return None
-        return self.table.of(sort[2:-1])
+        if sort not in self.known:
+            is_place = sort.startswith("a[") and sort.endswith("]")
+            self.known[sort] = self.table.of(sort[2:-1]) if is_place else None
+        return self.known[sort]
 
     def is_form(self, sort, form):
         """Whether this is a place of a layout of this form."""

@@ -6,26 +6,38 @@ from begunended.filedeeds import FILE_DEEDS
 from begunended.flowdeeds import FLOW_DEEDS
 from begunended.frames import Frame
 from begunended.heap import Heap
-from begunended.layoutforms import LayoutTable
 from begunended.numberdeeds import NUMBER_DEEDS
 from begunended.storage import FileBox, fresh_place
 
 CELLS = 2000
 
 
-class Engine:
-    """What runs: the frames that were entered, the newest last, pieces by their numbers, files by names.
+class RunParts:
+    """What all runs of a program or of a unit have alike, and none changes.
 
-    Procs are those of begunended.frames by name, aims the layouts that pointers name, handed_takes how
-    many things each signature takes. Fuel is how many steps may be begun, begun how many were; halted is
-    None, or the end.
+    Procs are those of begunended.frames by name, the first one the program; aims the layouts that pointers
+    name, handed_takes how many things each signature takes; table has all layouts.
     """
 
-    def __init__(self, procs, aims, handed_takes, fuel):
+    def __init__(self, procs, aims, handed_takes, table):
         self.procs = procs
         self.aims = aims
         self.handed_takes = handed_takes
-        self.table = LayoutTable()
+        self.table = table
+        deeds = all_deeds()
+        for proc in procs.values():
+            proc.deeds = [deeds[row[0]] for row in proc.rows]
+
+
+class Engine:
+    """What runs: the frames that were entered, the newest last, pieces by their numbers, files by names.
+
+    Fuel is how many steps may be begun, begun how many were; halted is None, or the end.
+    """
+
+    def __init__(self, parts, fuel):
+        self.parts = parts
+        self.procs = parts.procs
         self.many_frames = 1
         self.fuel = fuel
         self.begun = 0
@@ -34,12 +46,10 @@ class Engine:
         self.heap = Heap(CELLS)
         self.areas = {}
         self.boxes = {}
-        deeds = all_deeds()
-        for proc in procs.values():
-            proc.deeds = [deeds[row[0]] for row in proc.rows]
 
-    def begin(self, program, inputs):
+    def begin(self, inputs):
         """Enters the program's frame; inputs are contents of files by name, their things as cells."""
+        program = list(self.procs.values())[0]
         things = []
         for number, (layout, is_own) in enumerate(program.things):
             things.append(fresh_place(layout, ("name", 1, number)) if is_own else None)

@@ -57,7 +57,7 @@ def do_call(engine, frame, row):
 
 
 def do_callh(engine, frame, row):
-    many = engine.handed_takes[row[1]]
+    many = engine.parts.handed_takes[row[1]]
     handed, link = frame.stack[-1 - many]
     enter(engine, frame, handed, link)
     frame.stack.pop()

@@ -4,7 +4,10 @@ from begunended.effects import COUNTS, EFFECTS, FIXED, Sorts, place_of
 from begunended.layoutforms import is_cell
 
 LAST = ("leave", "far", "trap")
-NO_LIMIT = 100000
+# Orders that tell of frames further out, of things or of procs, which may not be there.
+LINKED = {"place": True, "handed": True, "bind": True, "far": True, "call": True, "hand": True}
+# Orders that do not lead to the next row alone.
+PARTING = {"leave": True, "far": True, "trap": True, "jump": True, "unless": True, "table": True}
 
 
 class Flow:
@@ -32,26 +35,26 @@ class Flow:
     def leads(self, proc, row, shape, most):
         """The word by which a row of a proc is refused, or None, and all (row, shape) to which it leads."""
         order = proc.orders[row]
-        if not self.is_linked(proc, order):
+        word = order[0]
+        if word in LINKED and not self.is_linked(proc, order):
             return "link", []
-        takes = self.takes_of(proc, order)
-        many = len(takes) if takes is not None else COUNTS[order[0]]
-        if len(shape) < many:
+        takes = FIXED[word][0] if word in FIXED else self.takes_of(proc, order)
+        many = COUNTS[word] if takes is None else len(takes)
+        height = len(shape) - many
+        if height < 0:
             return "short", []
-        rest = shape[:len(shape) - many]
-        given = shape[len(shape) - many:]
-        leaves = self.left_by(proc, order, takes, given)
+        leaves = self.left_by(proc, order, takes, shape[height:])
         if leaves is None:
             return "sort", []
-        behind = (*rest, *leaves)
-        if order[0] == "leave" and behind:
+        behind = shape[:height] + leaves
+        if word == "leave" and behind:
             return "left", []
         if len(behind) > most:
             return "work", []
-        rows = rows_behind(proc, order, row)
-        if len(proc.orders) in rows:
+        rows = sorted(list(rows_behind(proc, order, row))) if word in PARTING else (row + 1,)
+        if rows and rows[-1] == len(proc.orders):
             return "end", []
-        return None, [(number, behind) for number in sorted(list(rows))]
+        return None, [(number, behind) for number in rows]
 
     def is_linked(self, proc, order):
         """Whether what an order tells of frames further out, of things and procs there, is there."""
@@ -79,13 +82,15 @@ class Flow:
     def takes_of(self, proc, order):
         """What an order takes, if that hangs on nothing that lies on the workspace; otherwise None."""
         word = order[0]
+        if word in COUNTS:
+            return None
         if word in FIXED:
             return FIXED[word][0]
         if word == "call":
             return self.sorts_taken(self.procs[order[1]].takes)
         if word == "callh":
             return ("@" + order[1], *self.sorts_taken(self.unit.signature_headings[order[1]].takes))
-        return () if word in ("place", "handed", "hand") else None
+        return ()
 
     def sorts_taken(self, params):
         """The sorts of what is taken for these PARAMs."""
@@ -106,6 +111,9 @@ class Flow:
             return None
         if word in FIXED:
             return FIXED[word][1]
+        if word in EFFECTS:
+            effect = EFFECTS[word]
+            return effect(self.sorts, order, given)
         if word == "place" or word == "handed":
             thing = self.thing_out(proc, order[1], order[2])
             return (thing,) if word == "handed" else (place_of(thing.lstrip("&")),)
@@ -116,10 +124,14 @@ class Flow:
         if word == "hand":
             is_fit = is_same_heading(self.procs[order[1]], self.unit.signature_headings[order[2]])
             return ("@" + order[2],) if is_fit else None
-        if word == "bind":
-            return () if given[0] == place_of(proc.things[order[1]][1:]) else None
-        effect = EFFECTS[word]
-        return effect(self.sorts, order, given)
+        return () if given[0] == place_of(proc.things[order[1]][1:]) else None
+
+
+def flow_of(unit):
+    """How the rows of a unit lead to each other."""
+    if unit.flow is None:
+        unit.flow = Flow(unit)
+    return unit.flow
 
 
 def given_sorts(gives):

@@ -71,8 +71,3 @@ def thing_of(param, table):
     if param.startswith("&"):
         return table.of(param[1:]), False
     return table.of(param), True
-
-
-def labels_of(rows):
-    """The dict of labels and the numbers of their rows."""
-    return {row[1]: at for at, row in enumerate(rows) if row[0] == "label"}

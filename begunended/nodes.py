@@ -1,6 +1,10 @@
 """Nodes: the parts of a text that was read, each with its tree and where it stands."""
 
 
+# The parts of a leaf by the sort of its token.
+LEAF_PARTS = {"word": ("word",), "name": ("name",), "number": ("number",), "string": ("string",), "sign": ("sign",)}
+
+
 class Node:
     """A part of a text: its form, its parts, the numbers of its first and last token, its tree.
 
@@ -25,11 +29,6 @@ def trees_of(nodes):
     return tuple([node.tree for node in nodes])
 
 
-def leaf(sort, told, number):
-    """The node of the token with this number."""
-    return Node("leaf", (sort,), number, number, told)
-
-
 def is_leaf(node, told):
     """Whether this is the word or the sign that is told so."""
     return node.word == "leaf" and node.tree == told and node.parts[0] in ("word", "sign")
@@ -48,7 +47,8 @@ def row_of(word, parts, first, last):
 def leaf_node(node):
     """The node of an expression, constant or kind that is one name, number or string."""
     if node.word == "leaf":
-        return node_of(node.parts[0], (node,), node.first, node.last)
+        sort = node.parts[0]
+        return Node(sort, (node,), node.first, node.last, (sort, node.tree))
     return node
 
 

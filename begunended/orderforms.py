@@ -31,12 +31,13 @@ BOUNDS = {
 # Forms that take all further words: how many these are at least and at most.
 LENGTHS = {"members": (0, 128), "signs": (1, 255), "arms": (1, 65), "ends": (2, 2), "labels": (2, 65)}
 NO_LABEL = "-"
+NAMING = {"nil": True, "call": True, "callh": True, "hand": True, "jump": True, "unless": True, "table": True}
 
 
 def whole_of(word):
     """The integer that this is as Python writes it, at most maxint either way, or None."""
     figures = word[1:] if word.startswith("-") else word
-    if figures == "" or len(figures) > 10 or not all(["0" <= sign <= "9" for sign in figures]):
+    if len(figures) > 10 or not figures.isascii() or not figures.isdigit():
         return None
     number = int(word)
     return number if str(number) == word and -MAXINT <= number <= MAXINT else None
@@ -101,6 +102,8 @@ def order_read(words):
     form = FORMS.get(words[0])
     if form is None:
         return None
+    if not form:
+        return (words[0],) if len(words) == 1 else None
     given = words[1:]
     if len(form) == 1 and form[0] in LENGTHS:
         low, high = LENGTHS[form[0]]
@@ -126,6 +129,8 @@ def word_read(word, form):
 
 def names_in(order):
     """What an order that was read names: tuples of layout, signature, proc or label, and the name."""
+    if order[0] not in NAMING:
+        return []
     found = []
     for form, told in zip(FORMS[order[0]], order[1:]):
         if form in ("layout", "signature", "proc"):

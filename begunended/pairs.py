@@ -1,9 +1,9 @@
 """Two units whose rows a seam matches: what the judge asks of both."""
 
 from begunended.checking import walks_let
-from begunended.flows import Flow
-from begunended.settling import Reckoning, settled
-from begunended.tracing import Privacy, places_at
+from begunended.flows import flow_of
+from begunended.settling import states_of
+from begunended.tracing import places_at, privacy_of
 
 
 class SideUnit:
@@ -11,9 +11,9 @@ class SideUnit:
 
     def __init__(self, unit):
         self.unit = unit
-        self.flow = Flow(unit)
+        self.flow = flow_of(unit)
         self.walked = walks_let(unit)
-        self.privacy = Privacy(self.flow)
+        self.privacy = privacy_of(unit)
         self.places = {name: places_at(self.privacy, name, walk.shapes) for name, walk in self.walked.items()}
         self.lines = {name: lines_ahead(self.flow, walk, name) for name, walk in self.walked.items()}
 
@@ -35,7 +35,7 @@ class Pair:
     def __init__(self, left, right):
         self.left = SideUnit(left)
         self.right = SideUnit(right)
-        self.states = settled(Reckoning(left))
+        self.states = states_of(left)
         self.names = {name: self.private_names(name) for name in left.procs}
         self.far_labels = {name: {} for name in left.procs}
         for walk in self.left.walked.values():

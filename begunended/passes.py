@@ -1,19 +1,17 @@
 """Passes: units that do the same, and what stays of a unit's rows in them."""
 
-from begunended.bettering import PASSES, Bettering, unit_with
+from begunended.bettering import PASSES, Bettering
 from begunended.checking import walks_let
 from begunended.errors import BadPasses
-from begunended.flows import Flow
 from begunended.seams import Seam
-from begunended.tracing import Privacy
+from begunended.tracing import privacy_of
 
 MOST_PASSES = 12
 
 
 def bettered(unit, passes):
     """The unit that comes of a unit by passes."""
-    done = all_done(unit, passes)
-    return unit_with(unit, done.codes)
+    return all_done(unit, passes).made_unit()
 
 
 def kept(unit, passes):
@@ -30,9 +28,9 @@ def kept(unit, passes):
 def made_seam(unit, passes):
     """The seam of a unit and of what comes of it by passes."""
     done = all_done(unit, passes)
-    other = unit_with(unit, done.codes)
+    other = done.made_unit()
     left, right = walks_let(unit), walks_let(other)
-    names = Privacy(Flow(unit)).names, Privacy(Flow(other)).names
+    names = privacy_of(unit).names, privacy_of(other).names
     rows = []
     for name in unit.procs:
         lost = [number for number in names[0][name] if number in names[1][name] and (name, number) in done.unread_names]

@@ -53,6 +53,9 @@ class PlaceCode:
 
     def place(self, node, is_left):
         """P of a place; on the left side of := arms without a tag come to live behind its last aim."""
+        if node.word == "name":
+            self.base_place(node, is_left)
+            return
         ways = []
         base = node
         while base.word in WAYS:

@@ -3,12 +3,16 @@
 from begunended.kindforms import layout_text, result_layout, signature_key
 
 
+MANY_CELLS = {"array": True, "record": True, "string": True, "file": True, "text": True}
+
+
 class RoutineCode:
     """The code of a routine that is being made.
 
     Rows are tuples of an order and what stands behind it; labels are numbered as they come up, and
     anew, by their rows, at the end. Numbers are those of the things that tellings and withs have; named
-    are the tellings among these.
+    are the tellings among these. Far_labels are those to which rows far of other routines lead, label_rows,
+    at the end, the numbers of the rows of all labels.
     """
 
     def __init__(self, telling):
@@ -21,6 +25,8 @@ class RoutineCode:
         self.rows = []
         self.many_labels = 0
         self.placed = {}
+        self.far_labels = {}
+        self.label_rows = {}
         self.is_wide = False
 
     def proc_name(self):
@@ -51,12 +57,16 @@ class RoutineCode:
 class Plan:
     """The routines of a program, and the names of its signatures by their keys.
 
-    Works are how many things each routine's workspace holds at most, once that was found.
+    What comes of their code is found once, when it is first asked for, None ahead of that: measure, the plain
+    unit, the rows that an edit compares, the procs that a run does.
     """
 
     def __init__(self, program):
         self.facts = program.facts
-        self.works = []
+        self.measure = None
+        self.unit = None
+        self.compared_rows = None
+        self.run_parts = None
         self.signatures = {}
         self.headings = []
         for telling in self.facts.handed:
@@ -98,6 +108,11 @@ class Plan:
         return code
 
 
+def plan_of(program):
+    """The plan of a program, perhaps without the code of its routines."""
+    return Plan(program) if program.plan is None else program.plan
+
+
 def is_one_cell(kind):
     """Whether a value of this kind lies in one cell."""
-    return kind.form not in ("array", "record", "string", "file", "text")
+    return kind.form not in MANY_CELLS

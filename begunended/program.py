@@ -11,7 +11,8 @@ LONGEST_STRING = 255
 class Program:
     """A program: its text, its tree, and what was found out of it.
 
-    Root is the node of the text; facts are those of begunended.told.
+    Root is the node of the text; facts are those of begunended.told; plan is what begunended.plaincode makes
+    of it, None until that is asked for.
     """
 
     def __init__(self, text):
@@ -23,6 +24,7 @@ class Program:
         self.tree = root.tree
         self.root = root
         self.facts = BlockChecks(rows).check_text(root)
+        self.plan = None
 
     def __eq__(self, other):
         return isinstance(other, Program) and self.text == other.text

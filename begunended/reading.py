@@ -4,7 +4,7 @@ from begunended.dotrees import DOING_MAKERS
 from begunended.errors import BadSyntax
 from begunended.grammar import RULES
 from begunended.grammartables import EMPTY, LEAST, STARTS
-from begunended.nodes import leaf
+from begunended.nodes import LEAF_PARTS, Node
 from begunended.openings import OPENINGS
 from begunended.telltrees import TELLING_MAKERS
 
@@ -29,22 +29,19 @@ class Reader:
         self.makers = dict(TELLING_MAKERS)
         self.makers.update(dict(DOING_MAKERS))
 
-    def take(self, sort, told):
-        """Goes by a token: whether it could stand here; if not nothing is changed."""
-        symbol = sort
-        if sort == "word" or sort == "sign":
-            symbol = told
-        elif told == "forward" and sort == "name" and self.could_take("forward"):
-            # No name can stand where forward can, so that it is none there.
-            symbol = "forward"
-        if self.pending[-1] == symbol:
-            self.pending.pop()
-        elif self.could_take(symbol):
-            self.come_to(symbol)
-        else:
-            return False
-        self.nodes.append(leaf(sort, told, self.many))
-        self.many += 1
+    def go_by(self, rows):
+        """Goes by tokens: whether all can stand there; if not, many tells the first that cannot, and all ends."""
+        for sort, told, _, _ in rows:
+            symbol = sort
+            if sort == "word" or sort == "sign":
+                symbol = told
+            elif told == "forward" and sort == "name" and self.could_take("forward"):
+                # No name can stand where forward can, so that it is none there.
+                symbol = "forward"
+            if not self.come_to(symbol):
+                return False
+            self.nodes.append(Node("leaf", LEAF_PARTS[sort], self.many, self.many, told))
+            self.many += 1
         return True
 
     def could_take(self, symbol):
@@ -57,22 +54,27 @@ class Reader:
         return False
 
     def come_to(self, symbol):
-        """Opens and closes parts up to this token, which could stand here."""
+        """Opens and closes parts up to this token: whether it could stand here."""
         pending = self.pending
-        top = pending.pop()
-        while top != symbol:
+        while pending:
+            top = pending.pop()
+            if top == symbol:
+                return True
             if top == CLOSE:
                 self.close_part()
-            elif (top, symbol) in OPENINGS and OPENINGS[(top, symbol)]:
-                names, behind = OPENINGS[(top, symbol)]
-                for name in names:
+                continue
+            opening = OPENINGS.get((top, symbol))
+            if opening:
+                for name in opening[0]:
                     self.parts.append((name, self.many, len(self.nodes)))
-                pending.extend(behind)
-                return
-            elif not top.endswith("_"):
-                # What ends in _ and has no tokens leaves nothing.
+                pending.extend(opening[1])
+                return True
+            if opening is None and top not in EMPTY:
+                return False
+            if top in self.makers:
+                # What has no node of its own, and no tokens, leaves nothing.
                 self.end_part(top)
-            top = pending.pop()
+        return False
 
     def end_part(self, top):
         """Closes the part that ends here, or puts what it is made of in the place of one without tokens."""
@@ -128,9 +130,11 @@ def least_of(symbol):
 def read_tokens(rows):
     """A reader that went by all these tokens: BadSyntax unless they are a beginning."""
     reader = Reader()
-    for sort, told, line, column in rows:
-        if not reader.take(sort, told):
-            raise BadSyntax((line, column, tuple(sorted(reader.could_stand()))))
+    if not reader.go_by(rows):
+        # What could stand there is told by one that read up to there alone.
+        ahead = read_tokens(rows[:reader.many])
+        _, _, line, column = rows[reader.many]
+        raise BadSyntax((line, column, tuple(sorted(ahead.could_stand()))))
     return reader
 
 

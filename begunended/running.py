@@ -1,9 +1,9 @@
 """Running of programs: what stands in the files at the end, and what is seen on the way."""
 
-from begunended.engine import Engine
+from begunended.engine import Engine, RunParts
 from begunended.errors import BadFuel, BadInputs, BadNumber, Trap
 from begunended.files import are_contents
-from begunended.frames import labels_of, run_proc
+from begunended.frames import run_proc
 from begunended.kindforms import layout_text
 from begunended.kindlore import is_file
 from begunended.kindvalues import value_cells, value_shown
@@ -76,24 +76,13 @@ class Runner:
     """A program that was run, for so many steps at most."""
 
     def __init__(self, program, given, fuel):
-        self.plan = made_plan(program)
-        table = LayoutTable()
-        procs = {}
-        self.by_name = {}
-        for telling, code in self.plan.codes.items():
-            name = code.proc_name()
-            proc = run_proc(name, code.depth, code.takes, code.names, table)
-            proc.rows = code.rows
-            proc.labels = labels_of(code.rows)
-            proc.result = code.numbers[telling] if telling.calling == "function" else None
-            procs[name] = proc
-            self.by_name[name] = code
-        main = procs["p0"]
-        main.outside_names = tuple([telling.name for telling in self.plan.facts.head_files])
-        aims = {name: table.of(layout) for name, layout in layouts(program)}
-        takes = {self.plan.signature(telling): len(telling.parameters) for telling in self.plan.headings}
-        self.engine = Engine(procs, aims, takes, fuel)
-        self.engine.begin(main, given)
+        plan = made_plan(program)
+        if plan.run_parts is None:
+            plan.run_parts = parts_of_program(program, plan)
+        self.plan = plan
+        self.by_name = {code.proc_name(): code for code in plan.codes.values()}
+        self.engine = Engine(plan.run_parts, fuel)
+        self.engine.begin(given)
         self.engine.run()
 
     def files_told(self):
@@ -127,6 +116,24 @@ class Runner:
             if telling.word != "routine" or telling.name not in found:
                 found[telling.name] = thing_shown(telling, frame.things[code.numbers[telling]])
         return tuple([(name, found[name]) for name in sorted(found)])
+
+
+def parts_of_program(program, plan):
+    """What all runs of a program have alike."""
+    table = LayoutTable()
+    procs = {}
+    for telling, code in plan.codes.items():
+        name = code.proc_name()
+        proc = run_proc(name, code.depth, code.takes, code.names, table)
+        proc.rows = code.rows
+        proc.labels = code.label_rows
+        proc.result = code.numbers[telling] if telling.calling == "function" else None
+        if telling.outside is None:
+            proc.outside_names = tuple([file.name for file in plan.facts.head_files])
+        procs[name] = proc
+    aims = {name: table.of(layout) for name, layout in layouts(program)}
+    takes = {plan.signature(telling): len(telling.parameters) for telling in plan.headings}
+    return RunParts(procs, aims, takes, table)
 
 
 def thing_shown(telling, place):

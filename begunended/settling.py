@@ -1,13 +1,13 @@
 """Settling of states: rows make states of states, joined until nothing changes."""
 
 from begunended.checking import walks_let
-from begunended.claims import ends_found
+from begunended.claims import ends_told
 from begunended.effects import COUNTS
-from begunended.flows import Flow
+from begunended.flows import flow_of
 from begunended.states import Moving, NothingLeft, joined_states
 from begunended.statesteps import STATE_STEPS
 from begunended.stretches import FULL
-from begunended.tracing import Privacy
+from begunended.tracing import privacy_of
 
 GOES_ON_ELSEWHERE = ("jump", "unless", "table", "call", "hand", "leave", "far", "trap")
 
@@ -18,9 +18,9 @@ class Reckoning:
     def __init__(self, unit):
         self.unit = unit
         self.walked = walks_let(unit)
-        self.flow = Flow(unit)
-        self.privacy = Privacy(self.flow)
-        self.ends = ends_found(unit)
+        self.flow = flow_of(unit)
+        self.privacy = privacy_of(unit)
+        self.ends = ends_told(unit)
         self.leaving = {name: rows_of(walk, "leave") for name, walk in self.walked.items()}
         self.calling = {name: [] for name in self.walked}
         for name, walk in self.walked.items():
@@ -198,16 +198,31 @@ def rows_of(walk, word):
     return [row for row in sorted(list(walk.shapes)) if walk.proc.orders[row][0] == word]
 
 
-def settled(reckoning):
+def reckoning_of(unit):
+    """The reckoning of a unit: NotWhole, NotLet."""
+    if unit.reckoning is None:
+        unit.reckoning = Reckoning(unit)
+    return unit.reckoning
+
+
+def states_of(unit):
     """The dict of the claims of a unit: states by places, (proc, row)."""
+    if unit.states is None:
+        unit.states = settled(reckoning_of(unit))
+    return unit.states
+
+
+def settled(reckoning):
+    """Likewise, found anew."""
     place, state = reckoning.beginning()
     states = {place: state}
     waiting = [place]
     while waiting:
         place = waiting.pop()
         for other, told in reckoning.made_behind(place, states):
-            joined = joined_states(states.get(other), told)
-            if other not in states or joined != states[other]:
+            known = states.get(other)
+            joined = joined_states(known, told)
+            if joined != known:
                 states[other] = joined
                 waiting.append(other)
                 if other[1] in reckoning.leaving[other[0]]:

@@ -3,14 +3,14 @@
 from begunended.compiling import plan_compiled, unit_compiled
 from begunended.errors import BadNumber, NoPlace, NoStop
 from begunended.frames import frame_out
-from begunended.plans import Plan
+from begunended.plans import plan_of
 from begunended.running import thing_shown
 from begunended.values import is_integer
 
 
 def names_in(program, number):
     """The names that mean places in a routine's statements: how many links out, and their numbers."""
-    plan = Plan(program)
+    plan = plan_of(program)
     codes = list(plan.codes.values())
     if not is_integer(number) or not 0 <= number < len(codes):
         raise BadNumber(number)

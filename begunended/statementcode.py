@@ -17,7 +17,7 @@ class StatementCode(CallCode):
     """
 
     def line_of(self, token):
-        return self.plan.facts.place(token)[0]
+        return self.plan.facts.line_of(token)
 
     def body(self):
         """The rows of the routine's body."""
@@ -100,10 +100,12 @@ class StatementCode(CallCode):
         routine = self.own.telling
         for _ in range(goto.out):
             routine = routine.outside
-        label = self.plan.codes[routine].label_of(goto.label)
+        code = self.plan.codes[routine]
+        label = code.label_of(goto.label)
         if goto.out == 0:
             self.emit("jump", label)
         else:
+            code.far_labels[label] = True
             self.emit("far", goto.out, label)
 
     def choose(self, node):

@@ -18,12 +18,16 @@ class Moving:
 
     def __init__(self, ends, state):
         self.ends = ends
-        self.names = {row[0]: row[1:] for row in state[0]}
+        self.names = state[0]
         self.cells = list(state[1])
 
     def as_state(self):
         """The state as it is now."""
-        return tuple([(name, *self.names[name]) for name in sorted(list(self.names))]), tuple(self.cells)
+        return self.names, tuple(self.cells)
+
+    def known_of(self, name):
+        """What is known of a private name: (name, whether it is surely set, low, high)."""
+        return [row for row in self.names if row[0] == name][0]
 
     def take(self):
         """Takes the upper cell off the workspace."""
@@ -50,16 +54,16 @@ class Moving:
 
     def stretch(self, name):
         """The stretch of a private name, None where nothing was put."""
-        _, low, high = self.names[name]
+        _, _, low, high = self.known_of(name)
         return None if low is None else (low, high)
 
     def keep(self, name, is_set, stretch):
         """Keeps what is known of a name from now on."""
         low, high = (None, None) if stretch is None else stretch
-        self.names[name] = (is_set, low, high)
+        self.names = tuple([(name, is_set, low, high) if row[0] == name else row for row in self.names])
 
     def meet_name(self, name, low, high):
-        self.keep(name, self.names[name][0], self.met(self.stretch(name), low, high))
+        self.keep(name, self.known_of(name)[1], self.met(self.stretch(name), low, high))
 
     def meet_upper(self, low, high):
         """Meets the upper cell, and the name that is its stem; its tests end."""
@@ -98,7 +102,7 @@ class Moving:
         one, other = (one + 1 if one == low else one), (other - 1 if other == low else other)
         if one > other:
             raise NothingLeft("all numbers are gone")
-        self.keep(name, self.names[name][0], widened(self.ends, one, other))
+        self.keep(name, self.known_of(name)[1], widened(self.ends, one, other))
 
 
 def learned(word, low, high):
@@ -114,7 +118,7 @@ def learned(word, low, high):
 
 def joined_states(one, other):
     """What holds in both of two states of one row; None stands for none."""
-    if one is None:
+    if one is None or one == other:
         return other
     names = [joined_names(left, right) for left, right in zip(one[0], other[0])]
     cells = [joined_cells(left, right) for left, right in zip(one[1], other[1])]

@@ -1,7 +1,7 @@
 """Stops: at which rows of the plain code the statements of a program begin, and which numbers its names have."""
 
 from begunended.compiling import plan_compiled
-from begunended.plans import Plan
+from begunended.plans import plan_of
 
 
 def stops(program):
@@ -18,6 +18,6 @@ def stops(program):
 def numbers(program):
     """For each routine its parameters, result and variables by name, each with its number."""
     found = []
-    for code in Plan(program).codes.values():
+    for code in plan_of(program).codes.values():
         found.append(tuple(sorted([(telling.name, code.numbers[telling]) for telling in code.named])))
     return tuple(found)

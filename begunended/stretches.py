@@ -7,9 +7,21 @@ CONTRARY = {"lt": "ge", "ge": "lt", "le": "gt", "gt": "le", "eq": "ne", "ne": "e
 TURNED = {"lt": "gt", "gt": "lt", "le": "ge", "ge": "le", "eq": "eq", "ne": "ne"}
 
 
+class Ends:
+    """The ends that stretches may have: rows are all of them, ascending, known is the dict of them."""
+
+    def __init__(self, rows):
+        self.rows = rows
+        self.known = {end: True for end in rows}
+
+
 def widened(ends, low, high):
     """The stretch of ends around numbers."""
-    return end_below(ends, low), end_above(ends, high)
+    if low not in ends.known:
+        low = end_below(ends.rows, low)
+    if high not in ends.known:
+        high = end_above(ends.rows, high)
+    return low, high
 
 
 def end_below(ends, number):

@@ -2,7 +2,7 @@
 
 from begunended.errors import BadValue, NoRow
 from begunended.flows import is_row
-from begunended.settling import Reckoning, settled
+from begunended.settling import reckoning_of, states_of
 from begunended.states import joined_states
 from begunended.stretches import CONTRARY, FULL
 from begunended.surerows import SureRows
@@ -10,9 +10,9 @@ from begunended.values import is_integer
 
 def claims(unit, proc, row):
     """What is claimed at a row, None without a state."""
-    reckoning = Reckoning(unit)
+    reckoning_of(unit)
     want_row(unit, proc, row)
-    return settled(reckoning).get((proc, row))
+    return states_of(unit).get((proc, row))
 
 
 def want_row(unit, proc, row):
@@ -23,7 +23,7 @@ def want_row(unit, proc, row):
 
 def all_claims(unit):
     """What is claimed at all rows with states."""
-    states = settled(Reckoning(unit))
+    states = states_of(unit)
     numbers = {name: number for number, name in enumerate(unit.procs)}
     places = sorted([(numbers[name], row, name) for name, row in states])
     return tuple([(name, row, *states[(name, row)]) for _, row, name in places])
@@ -31,7 +31,7 @@ def all_claims(unit):
 
 def closed(unit, value):
     """Whether a value is claims of some rows that no row changes, or adds to."""
-    reckoning = Reckoning(unit)
+    reckoning = reckoning_of(unit)
     states = states_read(reckoning, value)
     if states is None:
         return False
@@ -46,9 +46,9 @@ def closed(unit, value):
 
 def sure_rows(unit, proc):
     """The rows of a proc that never come, surely go one way, or surely never trap."""
-    reckoning = Reckoning(unit)
+    reckoning = reckoning_of(unit)
     read = unit.proc_of(proc)
-    sure = SureRows(reckoning, settled(reckoning))
+    sure = SureRows(reckoning, states_of(unit))
     found = []
     for row, order in enumerate(read.orders):
         word = sure.word_of(proc, row)
@@ -104,7 +104,7 @@ class SetWays:
 
 def private_ways(unit, proc, row, name):
     """The ways of a proc: BadValue unless a name is a private one's number."""
-    reckoning = Reckoning(unit)
+    reckoning = reckoning_of(unit)
     want_row(unit, proc, row)
     if not is_integer(name) or name not in reckoning.privacy.names[proc]:
         raise BadValue(name)
@@ -175,7 +175,7 @@ def is_stretch(reckoning, value, sort):
         return False
     if value[0] < FULL[sort][0] or value[1] > FULL[sort][1]:
         return False
-    return value[0] in reckoning.ends and value[1] in reckoning.ends
+    return value[0] in reckoning.ends.known and value[1] in reckoning.ends.known
 
 
 def are_cells(reckoning, name, row, cells):

@@ -13,6 +13,8 @@ WORDS = {
 LETTERS = "abcdefghijklmnopqrstuvwxyzABCDEFGHIJKLMNOPQRSTUVWXYZ"
 NAME_SIGNS = "abcdefghijklmnopqrstuvwxyzABCDEFGHIJKLMNOPQRSTUVWXYZ0123456789"
 SHORT_SIGNS = "+-*=<>()[].,:;^"
+# Signs with which no longer sign and no comment begins.
+SINGLE_SIGNS = "+-*=)[],;^"
 LONG_SIGNS = ("<>", "<=", ">=", "..", ":=")
 
 
@@ -24,21 +26,25 @@ def tokens(text):
     at = 0
     line = 1
     line_begin = 0
-    while at < len(text):
+    many = len(text)
+    while at < many:
         sign = text[at]
         if sign == " ":
+            at += 1
+        elif sign in LETTERS:
+            end = at + 1
+            while end < many and text[end] in NAME_SIGNS:
+                end += 1
+            told = text[at:end].lower()
+            found.append(("word" if told in WORDS else "name", told, line, at - line_begin + 1))
+            at = end
+        elif sign in SINGLE_SIGNS:
+            found.append(("sign", sign, line, at - line_begin + 1))
             at += 1
         elif sign == "\n":
             at += 1
             line += 1
             line_begin = at
-        elif sign in LETTERS:
-            end = at + 1
-            while end < len(text) and text[end] in NAME_SIGNS:
-                end += 1
-            told = text[at:end].lower()
-            found.append(("word" if told in WORDS else "name", told, line, at - line_begin + 1))
-            at = end
         else:
             end = gap_end(text, at)
             if end > at:

@@ -134,6 +134,10 @@ class Facts:
         """The line and the column of the token with this number."""
         return self.rows[token][2:]
 
+    def line_of(self, token):
+        """The line of the token with this number."""
+        return self.rows[token][2]
+
 
 def telling_at(facts, place):
     """The telling at this line and column, None if there is none."""

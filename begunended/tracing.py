@@ -1,16 +1,11 @@
 """Names that are private to a proc: their places are taken by orders that look at them, or put into them, alone."""
 
-from begunended.effects import COUNTS, FIXED
-from begunended.flows import given_sorts
+from begunended.effects import COUNTS, FIXED, LEFT_COUNTS
+from begunended.flows import flow_of, given_sorts
 
 PRIVATE_LAYOUTS = ("n", "t", "c")
 # Rows ahead of which all private places are taken.
-PARTINGS = ("label", "jump", "unless", "table", "leave", "far", "trap")
-# How many things the orders of begunended.effects.COUNTS leave, if any.
-LEFT_COUNTS = {
-    "nil": 1, "string": 1, "field": 1, "arm": 1, "index": 1, "aim": 1, "window": 1, "load": 1, "dup": 2, "eq": 1,
-    "ne": 1, "lt": 1, "le": 1, "gt": 1, "ge": 1, "same": 1, "unlike": 1, "text": 1, "eof": 1,
-}
+PARTINGS = {"label": True, "jump": True, "unless": True, "table": True, "leave": True, "far": True, "trap": True}
 
 
 def counts_of(flow, order):
@@ -33,13 +28,13 @@ def counts_of(flow, order):
 class Trace:
     """The way of a place, and of what dup leaves of it, from the row that leaves it.
 
-    Goes_well tells whether it does; takers are the rows load, store and unset that take it;
-    heights how far above what lay there ahead it lies, by the rows that it lies there at.
+    Goes_well tells whether it does; takers are the rows load, store and unset that take it; stacks tell, by
+    the rows that it lies there at, which of the things that lie above what lay there ahead it is.
     """
 
     def __init__(self, flow, proc, row):
         self.takers = []
-        self.heights = {}
+        self.stacks = {}
         self.stack = [True]
         self.goes_well = True
         while self.goes_well and True in self.stack:
@@ -47,18 +42,18 @@ class Trace:
             if row >= len(proc.orders) or proc.orders[row][0] in PARTINGS:
                 self.goes_well = False
             else:
-                self.heights[row] = [at for at, is_place in enumerate(self.stack) if is_place]
+                self.stacks[row] = self.stack
                 self.go_by(flow, proc.orders[row], row)
 
     def go_by(self, flow, order, row):
         """Does an order, as far as this place is concerned."""
         takes, leaves = counts_of(flow, order)
-        taken = self.stack[max(0, len(self.stack) - takes):]
-        self.stack = self.stack[:len(self.stack) - len(taken)]
+        begin = max(0, len(self.stack) - takes)
+        taken = self.stack[begin:]
         if order[0] == "dup":
-            self.stack = self.stack + [taken == [True], taken == [True]]
+            self.stack = self.stack + taken
             return
-        self.stack = self.stack + [False for _ in range(leaves)]
+        self.stack = self.stack[:begin] + [False] * leaves
         if True not in taken or order[0] == "drop":
             return
         self.takers.append(row)
@@ -70,7 +65,7 @@ class Privacy:
     """The private names of the procs of a unit.
 
     Names are tuples of numbers by procs; takers, by procs, the names that rows load, store and unset
-    act on; heights, by procs and rows, pairs of a name and how high above a row's workspace its place lies.
+    act on; traces, by procs and names, those of the rows that leave their places.
     """
 
     def __init__(self, flow):
@@ -84,11 +79,14 @@ class Privacy:
     def find(self, name, proc):
         """Finds the private names of a proc, and the traces of their places."""
         aside = self.told_elsewhere(name)
+        rows = {number: [] for number in range(len(proc.things))}
+        for row, order in enumerate(proc.orders):
+            if order[0] == "place" and order[1] == 0 and order[2] in rows:
+                rows[order[2]].append(row)
         traces = {}
         for number, thing in enumerate(proc.things):
             if thing in PRIVATE_LAYOUTS and number not in aside:
-                rows = [row for row, order in enumerate(proc.orders) if order == ("place", 0, number)]
-                own = {row: Trace(self.flow, proc, row) for row in rows}
+                own = {row: Trace(self.flow, proc, row) for row in rows[number]}
                 if all([trace.goes_well for trace in own.values()]):
                     traces[number] = own
         self.names[name] = tuple(sorted(list(traces)))
@@ -110,13 +108,21 @@ class Privacy:
         return found
 
 
+def privacy_of(unit):
+    """The private names of the procs of a unit."""
+    if unit.privacy is None:
+        unit.privacy = Privacy(flow_of(unit))
+    return unit.privacy
+
+
 def places_at(privacy, name, shapes):
     """By rows that are come to, the private names whose places lie on the workspace, by how high they lie."""
     found = {row: {} for row in shapes}
     for number, own in privacy.traces[name].items():
         for begin, trace in own.items():
-            for row, heights in trace.heights.items():
+            for row, stack in trace.stacks.items():
                 if begin in shapes:
-                    for height in heights:
-                        found[row][len(shapes[begin]) + height] = number
+                    for height, is_place in enumerate(stack):
+                        if is_place:
+                            found[row][len(shapes[begin]) + height] = number
     return found

@@ -9,7 +9,11 @@ CONTRARY = {
     "eq": "ne", "ne": "eq", "lt": "ge", "ge": "lt", "le": "gt", "gt": "le", "same": "unlike", "unlike": "same",
     "seq": "sne", "sne": "seq",
 }
+# Further orders with which turns of pairs begin.
+PAIRED = ("nil", "string", "dup", "place", "not", "neg", "look", "within")
 LONGEST = 4
+# Rows that name labels of their own proc.
+WAYS = {"jump": True, "unless": True, "table": True}
 
 
 class Turn:
@@ -40,6 +44,14 @@ class Turning:
     def __init__(self, unit, name):
         self.procs = unit.proc_table
         self.proc = unit.proc_table[name]
+
+    def beginnings(self, word):
+        """The dict of the orders with which turns of a pass begin."""
+        if word == "sums":
+            return dict(TELLING)
+        if word == "again":
+            return {"place": True}
+        return {one: True for one in (*list(TELLING), *list(CONTRARY), *PAIRED)}
 
     def is_bound_place(self, order):
         """Whether this is a row place of no &L."""
@@ -106,13 +118,25 @@ def turned_way(one, other):
 class JumpRows:
     """The rows of a proc, of which each has its order, and the labels that it named in this pass.
 
-    Far_labels are those that rows far name.
+    Far_labels are those that rows far name; many_naming tells how often rows jump, unless and table name labels,
+    label_rows the rows of labels, None behind each row that was put out.
     """
 
     def __init__(self, rows, far_labels):
         self.rows = rows
         self.far_labels = far_labels
         self.led_over = []
+        self.many_naming = {}
+        self.label_rows = None
+        for row in rows:
+            if row.order[0] in WAYS:
+                row.named = {label: True for label in labels_of_order(row.order)}
+                self.count_names(row.order, 1)
+
+    def count_names(self, order, more):
+        """Counts the labels that a row names as so often more."""
+        for label in labels_of_order(order):
+            self.many_naming[label] = self.many_naming.get(label, 0) + more
 
     def order_at(self, at):
         """The order at a row, one that is none behind the last row."""
@@ -120,7 +144,9 @@ class JumpRows:
 
     def row_of(self, label):
         """The number of the row of a label."""
-        return [at for at, row in enumerate(self.rows) if row.order == ("label", label)][0]
+        if self.label_rows is None:
+            self.label_rows = {row.order[1]: at for at, row in enumerate(self.rows) if row.order[0] == "label"}
+        return self.label_rows[label]
 
     def row_behind(self, at, words):
         """The number of the first row from here on that is none of these words."""
@@ -129,7 +155,35 @@ class JumpRows:
         return at
 
     def put_out(self, at):
+        self.count_names(self.rows[at].order, -1)
+        self.label_rows = None
         del self.rows[at]
+
+    def turn_lines(self):
+        """Does all turns of lines: how many. One turn makes no row ahead of it go that did not."""
+        many = 0
+        at = 0
+        while at < len(self.rows):
+            if self.is_line_turned(at):
+                many += 1
+            else:
+                at += 1
+        return many
+
+    def turn_jumps(self):
+        """Does all turns of jumps, from row 0 anew behind each: how many."""
+        many = 0
+        while self.is_any_jump_turned():
+            many += 1
+        return many
+
+    def is_any_jump_turned(self):
+        """Does the first turn of jumps that goes: whether one did."""
+        going = [at for at, row in enumerate(self.rows) if row.order[0] in WAYS or row.order[0] == "label"]
+        for at in going:
+            if self.is_jump_turned(at):
+                return True
+        return False
 
     def is_line_turned(self, at):
         """Does the turn of lines at a row, if it goes: whether it did."""
@@ -146,20 +200,13 @@ class JumpRows:
             if ("label", self.order_at(at)[1]) in [row.order for row in self.rows[at + 1:behind]]:
                 self.put_out(at)
                 return True
-        if word in ("jump", "unless", "table"):
+        if word != "label":
             return self.is_led(self.rows[at])
-        if word == "label" and self.order_at(at)[1] not in self.labels_named():
-            self.put_out(at)
-            return True
-        return False
-
-    def labels_named(self):
-        """The dict of the labels that rows of the proc, or rows far, name."""
-        found = dict(self.far_labels)
-        for row in self.rows:
-            for label in labels_of_order(row.order):
-                found[label] = True
-        return found
+        label = self.order_at(at)[1]
+        if label in self.far_labels or self.many_naming.get(label, 0) > 0:
+            return False
+        self.put_out(at)
+        return True
 
     def is_led(self, row):
         """Leads a row over a jump behind one of its labels, if that goes: whether it did."""
@@ -168,7 +215,9 @@ class JumpRows:
             if at is not None and self.order_at(at)[1] not in row.named:
                 other = self.order_at(at)[1]
                 self.led_over.append(self.rows[at])
+                self.count_names(row.order, -1)
                 row.order = with_label(row.order, label, other)
+                self.count_names(row.order, 1)
                 row.named[other] = True
                 return True
         return False
@@ -194,7 +243,8 @@ class JumpRows:
             if at not in found and at < len(self.rows):
                 found[at] = True
                 order = self.order_at(at)
-                waiting.extend([self.row_of(label) for label in labels_of_order(order)])
+                if order[0] in WAYS:
+                    waiting.extend([self.row_of(label) for label in labels_of_order(order)])
                 if order[0] not in LAST and order[0] != "jump" and order[0] != "table":
                     waiting.append(at + 1)
         return found
@@ -202,9 +252,9 @@ class JumpRows:
 
 def labels_of_order(order):
     """The labels of its own proc that an order names, in sequence."""
-    if order[0] == "jump" or order[0] == "unless":
-        return [order[1]]
-    return [label for label in order[2] if label is not None] if order[0] == "table" else []
+    if order[0] not in WAYS:
+        return []
+    return [label for label in order[2] if label is not None] if order[0] == "table" else [order[1]]
 
 
 def with_label(order, label, other):

@@ -1,12 +1,21 @@
 """Engines that do the rows of units, and engines alike by themselves."""
 
-from begunended.engine import Engine
+from begunended.engine import Engine, RunParts
 from begunended.frames import Frame, run_proc
 from begunended.storage import Area
 
 
 def unit_engine(unit, given):
     """An engine that stands at the begin of a unit; given are the contents of its files, as files keep them."""
+    if unit.run_parts is None:
+        unit.run_parts = parts_of_unit(unit)
+    engine = Engine(unit.run_parts, 0)
+    engine.begin(given)
+    return engine
+
+
+def parts_of_unit(unit):
+    """What all runs of a unit have alike."""
     procs = {}
     for name, proc in unit.proc_table.items():
         many = len(proc.takes)
@@ -19,9 +28,7 @@ def unit_engine(unit, given):
         procs[name] = made
     aims = {name: unit.table.of(layout) for name, layout in unit.layout_texts.items()}
     takes = {name: len(heading.takes) for name, heading in unit.signature_headings.items()}
-    engine = Engine(procs, aims, takes, 0)
-    engine.begin(procs[unit.procs[0]], given)
-    return engine
+    return RunParts(procs, aims, takes, unit.table)
 
 
 def orders_ahead(orders):
@@ -45,7 +52,7 @@ class EngineCopy:
         self.area_twins = {}
         self.twins = {}
         self.size = 0
-        self.made = Engine(engine.procs, engine.aims, engine.handed_takes, engine.fuel)
+        self.made = Engine(engine.parts, engine.fuel)
         made = self.made
         made.many_frames = engine.many_frames
         made.begun = engine.begun

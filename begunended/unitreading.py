@@ -12,6 +12,9 @@ MOST_THINGS = 40
 MOST_ROWS = 200
 HIGHEST_LEVEL = 9
 NONE = "-"
+TELLING = ("layout ", "signature ", "proc ", "needs ")
+# How rows begin that a look ahead for labels looks at.
+LABELS_AHEAD = ("label ", "end", "proc")
 
 
 class Heading:
@@ -45,21 +48,18 @@ class UnitReader:
     """A unit that is being read: its rows, which one is next, and what was read of those ahead."""
 
     def __init__(self, text):
-        self.rows = [row.split(" ") for row in text.split("\n")]
+        self.rows = text.split("\n")
         self.at = 0
         self.table = LayoutTable()
-        self.told_layouts = self.told_by("layout")
-        self.told_signatures = self.told_by("signature")
-        self.told_procs = self.told_by("proc")
-        self.told_needs = self.told_by("needs")
+        telling = [row.split(" ") for row in self.rows if row.startswith(TELLING)]
+        self.told_layouts = told_by("layout", telling)
+        self.told_signatures = told_by("signature", telling)
+        self.told_procs = told_by("proc", telling)
+        self.told_needs = told_by("needs", telling)
         self.layouts = {}
         self.signatures = {}
         self.needs = {}
         self.procs = {}
-
-    def told_by(self, word):
-        """The dict of names that rows of this word tell, whatever else is wrong with them."""
-        return {row[1]: True for row in self.rows if row[0] == word and len(row) > 1}
 
     def want(self, is_right):
         """Tells the next row as one that cannot stand there, unless it can."""
@@ -69,10 +69,10 @@ class UnitReader:
     def next_row(self):
         """The words of the next row."""
         self.want(self.at < len(self.rows))
-        return self.rows[self.at]
+        return self.rows[self.at].split(" ")
 
     def is_next(self, word):
-        return self.at < len(self.rows) and self.rows[self.at][0] == word
+        return self.at < len(self.rows) and self.rows[self.at].split(" ")[0] == word
 
     def read(self):
         """Reads all rows."""
@@ -193,28 +193,41 @@ class UnitReader:
         self.at += 1
 
     def read_code(self, proc):
-        """Reads the code, and the row end behind it."""
+        """Reads the code, and the row end behind it; rows that are alike are read once."""
+        begin = self.at
         told = self.labels_told()
-        while not (self.is_next("end") and proc.rows):
-            row = self.next_row()
-            self.want(len(proc.rows) < MOST_ROWS)
-            order = self.order_of(row, proc, told)
-            if order[0] == "label":
-                proc.labels[order[1]] = len(proc.rows)
-            proc.rows.append(" ".join(row))
-            proc.orders.append(order)
-            self.at += 1
+        known = {}
+        orders = []
+        for number, row in enumerate(self.rows[begin:]):
+            order = known.get(row)
+            if order is None or number >= MOST_ROWS:
+                self.at = begin + number
+                words = row.split(" ")
+                if words[0] == "end" and number > 0:
+                    break
+                self.want(number < MOST_ROWS)
+                order = self.order_of(words, proc, told)
+                if order[0] == "label":
+                    proc.labels[order[1]] = number
+                else:
+                    known[row] = order
+            orders.append(order)
+        proc.rows = self.rows[begin:begin + len(orders)]
+        proc.orders = orders
+        self.at = begin + len(orders)
         self.want(len(self.next_row()) == 1)
         self.at += 1
 
     def labels_told(self):
         """The dict of the labels that rows tell, up to the next row end or proc, as they are written."""
         told = {}
-        at = self.at
-        while at < len(self.rows) and self.rows[at][0] not in ("end", "proc"):
-            if self.rows[at][0] == "label" and len(self.rows[at]) > 1:
-                told[self.rows[at][1]] = True
-            at += 1
+        for row in self.rows[self.at:]:
+            if row.startswith(LABELS_AHEAD):
+                words = row.split(" ")
+                if words[0] == "end" or words[0] == "proc":
+                    break
+                if words[0] == "label":
+                    told[words[1]] = True
         return told
 
     def order_of(self, row, proc, labels):
@@ -238,3 +251,8 @@ class UnitReader:
         if sort == "proc":
             return name in self.told_procs or name in self.told_needs
         return str(name) in labels
+
+
+def told_by(word, rows):
+    """The dict of names that rows of this word tell, whatever else is wrong with them."""
+    return {row[1]: True for row in rows if row[0] == word}

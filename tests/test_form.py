@@ -15,7 +15,7 @@ BUILTINS = set(
 METHODS = set(
     "append clear copy count endswith extend find get index insert isalnum isalpha isdigit islower isspace isupper"
     " items join keys ljust lower lstrip partition pop remove replace reverse rfind rjust rpartition rsplit rstrip"
-    " setdefault split splitlines startswith strip update upper values zfill bit_length".split())
+    " setdefault split splitlines startswith strip update upper values zfill bit_length isascii".split())
 BUILTIN_ATTRIBUTES = {
     name for kind in (str, int, list, dict, set, bytes, tuple) for name in dir(kind) if not name.startswith("__")}
 BARRED = set(
