@@ -50,17 +50,17 @@ class Fitting:
             return shape[told[0]] if told[0] < len(shape) else None
         given = tuple([self.sort_of(name, shape, part) for part in inner])
         order = (word, told) if word == "set" else (word, *told)
-        if None in given or not are_names_told(flow.unit, order) or not flow.is_linked(proc, order):
+        if None in given or not are_names_told(flow, order) or not flow.is_linked(proc, order):
             return None
         left = flow.left_by(proc, order, flow.takes_of(proc, order), given)
         return None if left is None else left[0]
 
 
-def are_names_told(unit, order):
+def are_names_told(flow, order):
     """Whether a unit tells the layout, the proc, the signature that an order names."""
     if order[0] == "nil":
-        return order[1] in unit.layout_texts
-    return order[0] != "hand" or order[1] in unit.proc_table and order[2] in unit.signature_headings
+        return order[1] in flow.layout_texts
+    return order[0] != "hand" or order[1] in flow.procs and order[2] in flow.headings
 
 
 def sort_held(param):

@@ -14,8 +14,9 @@ class Flow:
     """How the rows of a unit lead to each other; far_labels are those that rows far name, by procs."""
 
     def __init__(self, unit):
-        self.unit = unit
         self.procs = unit.proc_table
+        self.layout_texts = unit.layout_texts
+        self.headings = unit.signature_headings
         self.sorts = Sorts(unit)
         self.far_labels = {name: {} for name in self.procs}
         for proc in self.procs.values():
@@ -89,7 +90,7 @@ class Flow:
         if word == "call":
             return self.sorts_taken(self.procs[order[1]].takes)
         if word == "callh":
-            return ("@" + order[1], *self.sorts_taken(self.unit.signature_headings[order[1]].takes))
+            return ("@" + order[1], *self.sorts_taken(self.headings[order[1]].takes))
         return ()
 
     def sorts_taken(self, params):
@@ -120,9 +121,9 @@ class Flow:
         if word == "call":
             return given_sorts(self.procs[order[1]].gives)
         if word == "callh":
-            return given_sorts(self.unit.signature_headings[order[1]].gives)
+            return given_sorts(self.headings[order[1]].gives)
         if word == "hand":
-            is_fit = is_same_heading(self.procs[order[1]], self.unit.signature_headings[order[2]])
+            is_fit = is_same_heading(self.procs[order[1]], self.headings[order[2]])
             return ("@" + order[2],) if is_fit else None
         return () if given[0] == place_of(proc.things[order[1]][1:]) else None
 

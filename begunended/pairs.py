@@ -10,7 +10,6 @@ class SideUnit:
     """A unit of a pair that is let: how its rows lead, and what lies where."""
 
     def __init__(self, unit):
-        self.unit = unit
         self.flow = flow_of(unit)
         self.walked = walks_let(unit)
         self.privacy = privacy_of(unit)

@@ -9,14 +9,16 @@ from begunended.statesteps import STATE_STEPS
 from begunended.stretches import FULL
 from begunended.tracing import privacy_of
 
-GOES_ON_ELSEWHERE = ("jump", "unless", "table", "call", "hand", "leave", "far", "trap")
+GOES_ON_ELSEWHERE = {
+    "jump": True, "unless": True, "table": True, "call": True, "hand": True, "leave": True, "far": True, "trap": True,
+}
 
 
 class Reckoning:
     """What a unit that is let tells of states: how rows make states of states."""
 
     def __init__(self, unit):
-        self.unit = unit
+        self.first = unit.procs[0]
         self.walked = walks_let(unit)
         self.flow = flow_of(unit)
         self.privacy = privacy_of(unit)
@@ -40,7 +42,7 @@ class Reckoning:
 
     def beginning(self):
         """The first row, and its state at the begin."""
-        name = self.unit.procs[0]
+        name = self.first
         return (name, 0), self.first_state(name, False)
 
     def made_behind(self, place, states):

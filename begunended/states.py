@@ -76,7 +76,7 @@ class Moving:
     def forget(self, name):
         """Ends all stems and tests of a name."""
         for at, cell in enumerate(list(self.cells)):
-            if cell is not None:
+            if cell is not None and (cell[2] is not None or cell[3]):
                 low, high, stem, tests = cell
                 other = None if stem is not None and stem[0] == name else stem
                 self.cells[at] = (low, high, other, tuple([test for test in tests if test[0] != name]))

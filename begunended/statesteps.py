@@ -7,6 +7,19 @@ from begunended.stretches import sum_of, without_signs
 from begunended.values import MAXINT
 
 
+def do_nothing(moving, order):
+    """Rows label and line leave a state as it is."""
+
+
+def leave_place(moving, order):
+    """Leaves a place: it is no cell n, t, c."""
+    moving.cells.append(None)
+
+
+def do_drop(moving, order):
+    moving.take()
+
+
 def leave_told(moving, order):
     moving.leave((order[1], order[1]), None, ())
 
@@ -130,6 +143,7 @@ def do_or(moving, order):
 
 
 STATE_STEPS = {
+    "label": do_nothing, "line": do_nothing, "place": leave_place, "drop": do_drop,
     "num": leave_told, "truth": leave_told, "sign": leave_told, "dup": do_dup, "look": do_look, "chr": do_chr,
     "tru": do_tru, "ordt": do_ordinal, "ordc": do_ordinal, "index": do_index, "add": do_add, "sub": do_sub,
     "mul": do_mul, "div": do_div, "mod": do_mod, "neg": do_neg, "abs": do_abs, "sqr": do_sqr, "odd": do_odd,

@@ -20,7 +20,7 @@ def counts_of(flow, order):
         proc = flow.procs[order[1]]
         return len(proc.takes), len(given_sorts(proc.gives))
     if word == "callh":
-        heading = flow.unit.signature_headings[order[1]]
+        heading = flow.headings[order[1]]
         return 1 + len(heading.takes), len(given_sorts(heading.gives))
     return 0, 1
 

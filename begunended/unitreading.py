@@ -122,7 +122,7 @@ class UnitReader:
         return Heading(tuple(words[1:-2]), words[-1])
 
     def want_takes(self, words):
-        self.want(len(words) <= MOST_THINGS and all([self.is_param(word) for word in words]))
+        self.want(len(words) <= MOST_THINGS and all([self.is_param(word) for word in unlike(words)]))
 
     def is_param(self, word):
         """Whether a proc can take this."""
@@ -177,14 +177,14 @@ class UnitReader:
         proc.gives = gives[0]
         self.at += 1
         names = self.words_behind("names")
-        self.want(len(takes) + len(names) <= MOST_THINGS and all([self.is_thing(word) for word in names]))
+        self.want(len(takes) + len(names) <= MOST_THINGS and all([self.is_thing(word) for word in unlike(names)]))
         self.want(gives[0] == NONE or names[:1] == gives)
         proc.things = (*takes, *names)
         self.at += 1
         if is_program:
             words = self.words_behind("files")
             self.want(len(words) <= len(names) and all([name.startswith("<") for name in names[:len(words)]]))
-            self.want(all([is_word(word) for word in words]) and len({word: True for word in words}) == len(words))
+            self.want(all([is_word(word) for word in words]) and len(unlike(words)) == len(words))
             proc.outside_names = tuple(words)
             self.at += 1
         work = self.words_behind("work")
@@ -256,3 +256,8 @@ class UnitReader:
 def told_by(word, rows):
     """The dict of names that rows of this word tell, whatever else is wrong with them."""
     return {row[1]: True for row in rows if row[0] == word}
+
+
+def unlike(words):
+    """The list of words, each once."""
+    return list({word: True for word in words})

@@ -37,7 +37,7 @@ class Walker:
         if order[0] == "call":
             proc = self.flow.procs[order[1]]
             return proc.takes, proc.gives
-        heading = self.flow.unit.signature_headings[order[1]]
+        heading = self.flow.headings[order[1]]
         return heading.takes, heading.gives
 
     def note_row(self, side, row):

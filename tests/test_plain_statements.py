@@ -301,6 +301,22 @@ class TooLongTest(Refusing, unittest.TestCase):
             self.fine(text)
         self.assertIn("work 0", self.fine("program p; label 1; var i: integer; begin goto 1; i := 1; 1: end.").text)
 
+    def test_work_behind_rows_that_lead_elsewhere(self):
+        text = (
+            "program p; label 1, 2, 3; var i: integer; procedure q; begin {} end; function f(j: integer; var k: integer): integer; begin f := 1 end; "
+            "begin goto 2; 1: i := 1 + (2 + (3 + 4)); goto 2; 3: i := i + f(i + 1, i); 2: {} end.")
+        def works(inner, last):
+            unit = self.fine(text.format(inner, last))
+            return [row for row in unit.text.split("\n") if row.startswith("work ")]
+
+        # What is behind a goto is not come to, but by a label that a far names, in whichever routine.
+        self.assertEqual(works("", ""), ["work 0", "work 0", "work 2"])
+        self.assertEqual(works("goto 1", ""), ["work 5", "work 0", "work 2"])
+        self.assertEqual(works("goto 3", ""), ["work 4", "work 0", "work 2"])
+        self.assertEqual(works("", "case i of 1: i := 1 - i; 9: i := 2 end"), ["work 3", "work 0", "work 2"])
+        self.assertEqual(works("", "case i of 1: i := 1 - i; 99: i := f(1, i) end"), ["work 3", "work 0", "work 2"])
+        self.assertEqual(works("", "if i < 0 then goto 3"), ["work 4", "work 0", "work 2"])
+
 
 if __name__ == "__main__":
     unittest.main()

@@ -235,6 +235,31 @@ class UnitsTest(Refusing, unittest.TestCase):
         self.wrong(207, PROGRAM[:6] + ["leave"] * 201 + ["end"])
         self.wrong(7, PROGRAM[:6] + ["end"])
 
+    def test_rows_that_are_alike(self):
+        # A row that was fine is fine further on, but for one label more, one row too many, another proc's labels.
+        code, _ = self.code("jump 3", "num 1", "jump 3", "num 1", "line 4", "label 3", "line 4", "num 1")
+        unit = self.right(code)
+        self.assertEqual(unit.code("p0"), ("jump 3", "num 1", "jump 3", "num 1", "line 4", "label 3", "line 4", "num 1"))
+        code, number = self.code("label 3", "jump 3", "jump 3", "label 3")
+        self.wrong(number + 3, code)
+        code, number = self.code("jump 3", "label 3", "jump 3")
+        self.wrong(len(code) - 1, code[:-len(INNER)] + replaced(INNER, 5, "jump 3"))
+        code, number = self.code(*["num 1"] * 200)
+        self.right(code)
+        code, number = self.code(*["num 1"] * 201)
+        self.wrong(number + 200, code)
+        code, number = self.code(*["num 1"] * 200, "nonsense")
+        self.wrong(number + 200, code)
+        code, number = self.code(*["num 1"] * 199, "nonsense", "num 1", "num 1")
+        self.wrong(number + 199, code)
+        code, number = self.code("num 1", "num 01", "num 1")
+        self.wrong(number + 1, code)
+        for last in ("end ", "end num 1", "end end"):
+            rows = PROGRAM[:6] + ["num 1", "num 1", last]
+            self.wrong(9, rows)
+        self.wrong(9, PROGRAM[:6] + ["num 1", "num 1"])
+        self.wrong(7, PROGRAM[:6])
+
     def test_orders_in_right_forms(self):
         rows = [
             "num {}".format(MAX), "num -{}".format(MAX), "num 0", "num -1", "truth 0", "truth 1", "sign 32", "sign 126", "set", "set 0",
