@@ -13,7 +13,8 @@ VALUES_A_STOP = 20
 class DeskRun:
     """A run of a program on inputs; lines are those of its text.
 
-    Held are engines as they were behind so many stops, the latest last, from which a way back is done anew.
+    Held are engines as they were behind so many stops, the latest last, from which a way back is done anew;
+    the first one is held when the run first goes on.
     """
 
     def __init__(self, program, inputs):
@@ -24,7 +25,6 @@ class DeskRun:
         self.lines = program.text.split("\n")
         self.runner = Runner(program, given, 0)
         self.held = []
-        self.hold()
 
     def hold(self):
         """Holds what runs now; the more there is, the more stops until the next time."""
@@ -41,7 +41,7 @@ class DeskRun:
             runner.engine = engine_copied(self.held[-1][1])[0]
         engine = runner.engine
         while engine.halted == ("on",) and engine.begun < steps:
-            if engine.begun >= self.held[-1][0] + self.held[-1][2]:
+            if not self.held or engine.begun >= self.held[-1][0] + self.held[-1][2]:
                 self.hold()
             engine.fuel = min(steps, self.held[-1][0] + self.held[-1][2])
             engine.halted = None

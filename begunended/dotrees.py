@@ -37,6 +37,8 @@ def plain_node(children, first, last):
 
 def named_node(children, first, last):
     """A statement that begins with a name."""
+    if len(children) == 3 and is_leaf(children[1], ":="):
+        return node_of("put", (leaf_node(children[0]), children[2]), first, last)
     for at, child in enumerate(children):
         if is_leaf(child, ":="):
             place = variable_node(children[:at], first, child.first - 1)

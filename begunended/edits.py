@@ -19,6 +19,8 @@ def edited(program, first, last, lines):
 def anew(program, other):
     """The numbers of the routines of another program that have to be compiled anew."""
     plan, twin = plan_compiled(program), plan_compiled(other)
+    if program == other:
+        return ()
     ahead, told = compared_rows(plan), compared_rows(twin)
     has_other_heads = head_rows(program, plan) != head_rows(other, twin)
     paths = list(told)
